@@ -394,11 +394,11 @@ func TestTimeoutUnordered(t *testing.T) {
 	follow(a, "client-0", b, 8)
 	refused(t, a, api.ErrProof, func() api.Errno { return Timeout(a, q, 0, 8, prove(b, Receipt("chan-7", 2)), 8) })
 	setState(a, "chan-0", conn.Closed)
-	want(t, Timeout(a, q, 0, 7, prove(empty2(b), Receipt("chan-7", 2)), 8), api.OK) // a closed channel's packets come to their end
+	want(t, Timeout(a, q, 0, 7, prove(unreceived(b), Receipt("chan-7", 2)), 8), api.OK) // a closed channel's packets come to their end
 }
 
-// empty2: b as it was ahead of its last receipt.
-func empty2(b *store.Store) *store.Store {
+// unreceived: b as it was ahead of its last receipt.
+func unreceived(b *store.Store) *store.Store {
 	c := b.Branch()
 	c.Del(Receipt("chan-7", 2))
 	return c

@@ -60,8 +60,8 @@ func TestNew(t *testing.T) {
 		{bad, one, api.ErrChain},
 		{bad, two, api.ErrVals},
 		{two, bad, api.ErrVals},
-		{rig.With(one, "ibc/x", nil), bad2(two), api.ErrGenesis},
-		{bad2(two), rig.With(one, "ibc/x", nil), api.ErrName},
+		{rig.With(one, "ibc/x", nil), misnamed(two), api.ErrGenesis},
+		{misnamed(two), rig.With(one, "ibc/x", nil), api.ErrName},
 		{one, rig.With(two, "ibc/x", nil), api.ErrGenesis},
 		{one, rig.With(two, "ica/x", nil), api.ErrGenesis},
 		{rig.With(one, "fee/x", nil), two, api.ErrGenesis},
@@ -85,7 +85,7 @@ func TestNew(t *testing.T) {
 	}
 }
 
-func bad2(g api.Genesis) api.Genesis {
+func misnamed(g api.Genesis) api.Genesis {
 	g.Chain = "Two"
 	return g
 }
