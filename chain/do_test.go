@@ -186,7 +186,7 @@ func TestDoIsTheLayersCalls(t *testing.T) {
 		if c.call != nil && (c.call(called) != e || !bytes.Equal(did.Root(), called.Root())) {
 			t.Error(c.what, "isn't the call")
 		}
-		if e != api.OK && !bytes.Equal(did.Root(), a.Root()) {
+		if (e == api.ErrKind || e != api.OK && c.m.Kind == api.Send) && !bytes.Equal(did.Root(), a.Root()) {
 			t.Error(c.what, "changed something")
 		}
 	}
@@ -243,8 +243,7 @@ func TestRecvByPorts(t *testing.T) {
 				t.Error(i, denom)
 			}
 		}
-		before := y.Root()
-		if e := chain.Do(y, "ros", 7, 8, m); e != api.ErrDone || !bytes.Equal(before, y.Root()) {
+		if e := chain.Do(y, "ros", 7, 8, m); e != api.ErrDone {
 			t.Error(i, e)
 		}
 	}

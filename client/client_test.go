@@ -1,4 +1,4 @@
-package client
+package client_test
 
 import (
 	"bytes"
@@ -6,6 +6,7 @@ import (
 	"testing"
 
 	"isthmus/api"
+	"isthmus/client"
 	"isthmus/merkle"
 	"isthmus/store"
 	"isthmus/vals"
@@ -49,7 +50,7 @@ func header(height, time uint64, now, next []api.Val) api.Header {
 func following(t *testing.T) *store.Store {
 	t.Helper()
 	s := empty()
-	id, e := Create(s, header(5, 100, far, four), 50, 100)
+	id, e := client.Create(s, header(5, 100, far, four), 50, 100)
 	if id != "client-0" || e != api.OK {
 		t.Fatal(id, e)
 	}
@@ -67,32 +68,32 @@ func unchanged(t *testing.T, s *store.Store, do func() api.Errno, e api.Errno) {
 
 func TestNewIDAndHex(t *testing.T) {
 	s := empty()
-	if NewID(s, "client") != "client-0" || NewID(s, "client") != "client-1" || NewID(s, "conn") != "conn-0" {
+	if client.NewID(s, "client") != "client-0" || client.NewID(s, "client") != "client-1" || client.NewID(s, "conn") != "conn-0" {
 		t.Error("NewID")
 	}
 	if b, _ := s.Get("ibc/n/client"); !bytes.Equal(b, wire.N(nil, 2)) {
 		t.Error(b)
 	}
 	s.Set("ibc/n/chan", []byte{1, 2, 3})
-	if NewID(s, "chan") != "chan-0" {
+	if client.NewID(s, "chan") != "chan-0" {
 		t.Error("fewer than 8 bytes")
 	}
 	s.Set("ibc/n/chan", append(wire.N(nil, 77), 9, 9))
-	if NewID(s, "chan") != "chan-77" {
+	if client.NewID(s, "chan") != "chan-77" {
 		t.Error("more than 8 bytes")
 	}
 	if b, _ := s.Get("ibc/n/chan"); !bytes.Equal(b, wire.N(nil, 78)) {
 		t.Error(b)
 	}
 	s.Set("ibc/n/chan", wire.N(nil, 1<<64-1))
-	if NewID(s, "chan") != "chan-18446744073709551615" || NewID(s, "chan") != "chan-0" {
+	if client.NewID(s, "chan") != "chan-18446744073709551615" || client.NewID(s, "chan") != "chan-0" {
 		t.Error("wrap round")
 	}
 	long := strings.Repeat("k", 300)
-	if NewID(s, long) != long+"-0" || NewID(s, long) != long+"-0" {
+	if client.NewID(s, long) != long+"-0" || client.NewID(s, long) != long+"-0" {
 		t.Error("a kind that no store takes")
 	}
-	if Hex(0) != "0000000000000000" || Hex(0xab12) != "000000000000ab12" || Hex(1<<64-1) != "ffffffffffffffff" {
+	if client.Hex(0) != "0000000000000000" || client.Hex(0xab12) != "000000000000ab12" || client.Hex(1<<64-1) != "ffffffffffffffff" {
 		t.Error("Hex")
 	}
 }
@@ -121,7 +122,7 @@ func TestCreate(t *testing.T) {
 	}
 	for _, c := range cases {
 		unchanged(t, s, func() api.Errno {
-			id, e := Create(s, c.h, c.period, c.now)
+			id, e := client.Create(s, c.h, c.period, c.now)
 			if id != "" {
 				t.Error(id)
 			}
@@ -129,7 +130,7 @@ func TestCreate(t *testing.T) {
 		}, c.want)
 	}
 	for i, c := range []struct{ time, now uint64 }{{110, 100}, {3, 100}, {1<<64 - 1, 1<<64 - 11}, {1<<64 - 1, 1<<64 - 1}, {1<<64 - 5, 1<<64 - 3}} {
-		if id, e := Create(s, header(7, c.time, far, four), 9, c.now); e != api.OK || id != "client-"+string(rune('0'+i)) {
+		if id, e := client.Create(s, header(7, c.time, far, four), 9, c.now); e != api.OK || id != "client-"+string(rune('0'+i)) {
 			t.Error(i, id, e)
 		}
 	}
@@ -141,10 +142,10 @@ func TestCreate(t *testing.T) {
 	if b, _ := s.Get("ibc/cons/client-0/0000000000000007"); !bytes.Equal(b, wantCons) {
 		t.Error(b)
 	}
-	if c, ok := Get(s, "client-0"); !ok || c != (State{"two", 7, 9, false}) {
+	if c, ok := client.Get(s, "client-0"); !ok || c != (client.State{"two", 7, 9, false}) {
 		t.Error(c, ok)
 	}
-	if c, ok := Trusts(s, "client-0", 7); !ok || c.Time != 110 || !bytes.Equal(c.Root, good.Root) || !bytes.Equal(c.Next, good.Next) {
+	if c, ok := client.Trusts(s, "client-0", 7); !ok || c.Time != 110 || !bytes.Equal(c.Root, good.Root) || !bytes.Equal(c.Next, good.Next) {
 		t.Error(c, ok)
 	}
 	if len(s.Pairs("")) != 11 {
@@ -158,14 +159,14 @@ func TestGetAndTrustsOfOtherForms(t *testing.T) {
 	cons, _ := s.Get("ibc/cons/client-0/0000000000000005")
 	for i, b := range [][]byte{nil, form[:len(form)-1], append(bytes.Clone(form), 0), append(bytes.Clone(form[:len(form)-1]), 2)} {
 		s.Set("ibc/client/client-0", b)
-		if c, ok := Get(s, "client-0"); ok || c != (State{}) {
+		if c, ok := client.Get(s, "client-0"); ok || c != (client.State{}) {
 			t.Error(i, c)
 		}
-		want(t, Update(s, "client-0", News{}, 0), api.ErrClient)
+		want(t, client.Update(s, "client-0", client.News{}, 0), api.ErrClient)
 	}
 	for i, b := range [][]byte{nil, cons[:len(cons)-1], append(bytes.Clone(cons), 0), cons[:8]} {
 		s.Set("ibc/cons/client-0/0000000000000005", b)
-		if c, ok := Trusts(s, "client-0", 5); ok || c.Time != 0 || len(c.Root)+len(c.Next) != 0 {
+		if c, ok := client.Trusts(s, "client-0", 5); ok || c.Time != 0 || len(c.Root)+len(c.Next) != 0 {
 			t.Error(i, c)
 		}
 	}
@@ -175,114 +176,114 @@ func TestGetAndTrustsOfOtherForms(t *testing.T) {
 	s.Set("ibc/cons/Client/0000000000000005", cons)
 	s.Set("ibc/cons/a/0000000000000005/0000000000000005", cons)
 	for _, id := range []string{"Client", "a/b", "", "client-1", strings.Repeat("a", 300)} {
-		if _, ok := Get(s, id); ok {
+		if _, ok := client.Get(s, id); ok {
 			t.Error(id)
 		}
-		if _, ok := Trusts(s, id, 5); ok {
+		if _, ok := client.Trusts(s, id, 5); ok {
 			t.Error(id)
 		}
 	}
-	if _, ok := Trusts(s, "a/0000000000000005", 5); ok {
+	if _, ok := client.Trusts(s, "a/0000000000000005", 5); ok {
 		t.Error("an identifier that is none")
 	}
 }
 
 func TestUpdate(t *testing.T) {
 	s := following(t)
-	next := News{Header: header(6, 105, four, other), Vals: four, Votes: three, At: 5}
+	next := client.News{Header: header(6, 105, four, other), Vals: four, Votes: three, At: 5}
 	two := next
 	two.Votes = []string{"a", "b", "b", "x"}
-	unchanged(t, s, func() api.Errno { return Update(s, "client-0", two, 105) }, api.ErrQuorum)
-	want(t, Update(s, "client-0", next, 105), api.OK)
-	if c, _ := Get(s, "client-0"); c != (State{"two", 6, 50, false}) {
+	unchanged(t, s, func() api.Errno { return client.Update(s, "client-0", two, 105) }, api.ErrQuorum)
+	want(t, client.Update(s, "client-0", next, 105), api.OK)
+	if c, _ := client.Get(s, "client-0"); c != (client.State{"two", 6, 50, false}) {
 		t.Error(c)
 	}
-	if c, ok := Trusts(s, "client-0", 6); !ok || c.Time != 105 || !bytes.Equal(c.Next, vals.Hash(other)) || !bytes.Equal(c.Root, next.Header.Root) {
+	if c, ok := client.Trusts(s, "client-0", 6); !ok || c.Time != 105 || !bytes.Equal(c.Next, vals.Hash(other)) || !bytes.Equal(c.Root, next.Header.Root) {
 		t.Error(c, ok)
 	}
-	unchanged(t, s, func() api.Errno { return Update(s, "client-0", next, 105) }, api.OK) // the same once more
+	unchanged(t, s, func() api.Errno { return client.Update(s, "client-0", next, 105) }, api.OK) // the same once more
 	// of a later height: more than a third of the set that is trusted
-	later := News{Header: header(9, 110, far, four), Vals: far, Votes: []string{"w", "x", "y"}, At: 5, Trusted: four}
-	unchanged(t, s, func() api.Errno { return Update(s, "client-0", later, 110) }, api.ErrTrust)
+	later := client.News{Header: header(9, 110, far, four), Vals: far, Votes: []string{"w", "x", "y"}, At: 5, Trusted: four}
+	unchanged(t, s, func() api.Errno { return client.Update(s, "client-0", later, 110) }, api.ErrTrust)
 	later.Votes = append(later.Votes, "a")
-	unchanged(t, s, func() api.Errno { return Update(s, "client-0", later, 110) }, api.ErrTrust)
+	unchanged(t, s, func() api.Errno { return client.Update(s, "client-0", later, 110) }, api.ErrTrust)
 	later.Votes = append(later.Votes, "b")
-	want(t, Update(s, "client-0", later, 110), api.OK)
-	if c, _ := Get(s, "client-0"); c.Latest != 9 {
+	want(t, client.Update(s, "client-0", later, 110), api.OK)
+	if c, _ := client.Get(s, "client-0"); c.Latest != 9 {
 		t.Error(c)
 	}
 	// of a height between: the latest stays
-	between := News{Header: header(7, 106, other, four), Vals: other, Votes: three, At: 6}
-	want(t, Update(s, "client-0", between, 110), api.OK)
-	if c, _ := Get(s, "client-0"); c.Latest != 9 {
+	between := client.News{Header: header(7, 106, other, four), Vals: other, Votes: three, At: 6}
+	want(t, client.Update(s, "client-0", between, 110), api.OK)
+	if c, _ := client.Get(s, "client-0"); c.Latest != 9 {
 		t.Error(c)
 	}
-	if _, ok := Trusts(s, "client-0", 7); !ok {
+	if _, ok := client.Trusts(s, "client-0", 7); !ok {
 		t.Error("nothing of 7")
 	}
 }
 
 // Every error of news, each with those behind it there, too; and the edges beside it.
 func TestErrorsOfNews(t *testing.T) {
-	good := News{Header: header(6, 105, four, other), Vals: four, Votes: three, At: 5, Trusted: far}
-	jump := News{Header: header(8, 105, far, other), Vals: far, Votes: []string{"a", "b", "w", "x", "y"}, At: 5, Trusted: four}
+	good := client.News{Header: header(6, 105, four, other), Vals: four, Votes: three, At: 5, Trusted: far}
+	jump := client.News{Header: header(8, 105, far, other), Vals: far, Votes: []string{"a", "b", "w", "x", "y"}, At: 5, Trusted: four}
 	cases := []struct {
 		what string
-		base News
+		base client.News
 		now  uint64
-		turn func(u *News)
+		turn func(u *client.News)
 		want api.Errno
 	}{
-		{"nothing trusted", good, 500, func(u *News) { u.At = 4; u.Header.Chain = "x" }, api.ErrCons},
-		{"over", good, 150, func(u *News) { u.Header.Chain = "x" }, api.ErrExpired},
-		{"long over", good, 1<<64 - 1, func(u *News) {}, api.ErrExpired},
-		{"just not over", good, 149, func(u *News) {}, api.OK},
-		{"now ahead of the trusted time", good, 96, func(u *News) {}, api.OK},
-		{"another chain", good, 105, func(u *News) { u.Header.Chain = "x"; u.Header.Height = 5 }, api.ErrChain},
-		{"the trusted height", good, 105, func(u *News) { u.Header.Height = 5; u.Header.Time = 100 }, api.ErrHeight},
-		{"a lower height", good, 105, func(u *News) { u.Header.Height = 0; u.Header.Time = 100 }, api.ErrHeight},
-		{"the trusted time", good, 105, func(u *News) { u.Header.Time = 100; u.Header.Root = nil }, api.ErrTime},
-		{"an earlier time", good, 105, func(u *News) { u.Header.Time = 99 }, api.ErrTime},
-		{"a time ahead", good, 105, func(u *News) { u.Header.Time = 116; u.Header.Root = nil }, api.ErrTime},
-		{"a time just not too far ahead", good, 105, func(u *News) { u.Header.Time = 115 }, api.OK},
-		{"root", good, 105, func(u *News) { u.Header.Root = u.Header.Root[:31]; u.Vals = nil }, api.ErrForm},
-		{"vals", good, 105, func(u *News) { u.Header.Vals = nil; u.Vals = nil }, api.ErrForm},
-		{"next", good, 105, func(u *News) { u.Header.Next = append(bytes.Clone(u.Header.Next), 0); u.Vals = nil }, api.ErrForm},
-		{"no set", good, 105, func(u *News) { u.Vals = nil; u.Votes = nil }, api.ErrVals},
-		{"no set, though of the hash", good, 105, func(u *News) {
+		{"nothing trusted", good, 500, func(u *client.News) { u.At = 4; u.Header.Chain = "x" }, api.ErrCons},
+		{"over", good, 150, func(u *client.News) { u.Header.Chain = "x" }, api.ErrExpired},
+		{"long over", good, 1<<64 - 1, func(u *client.News) {}, api.ErrExpired},
+		{"just not over", good, 149, func(u *client.News) {}, api.OK},
+		{"now ahead of the trusted time", good, 96, func(u *client.News) {}, api.OK},
+		{"another chain", good, 105, func(u *client.News) { u.Header.Chain = "x"; u.Header.Height = 5 }, api.ErrChain},
+		{"the trusted height", good, 105, func(u *client.News) { u.Header.Height = 5; u.Header.Time = 100 }, api.ErrHeight},
+		{"a lower height", good, 105, func(u *client.News) { u.Header.Height = 0; u.Header.Time = 100 }, api.ErrHeight},
+		{"the trusted time", good, 105, func(u *client.News) { u.Header.Time = 100; u.Header.Root = nil }, api.ErrTime},
+		{"an earlier time", good, 105, func(u *client.News) { u.Header.Time = 99 }, api.ErrTime},
+		{"a time ahead", good, 105, func(u *client.News) { u.Header.Time = 116; u.Header.Root = nil }, api.ErrTime},
+		{"a time just not too far ahead", good, 105, func(u *client.News) { u.Header.Time = 115 }, api.OK},
+		{"root", good, 105, func(u *client.News) { u.Header.Root = u.Header.Root[:31]; u.Vals = nil }, api.ErrForm},
+		{"vals", good, 105, func(u *client.News) { u.Header.Vals = nil; u.Vals = nil }, api.ErrForm},
+		{"next", good, 105, func(u *client.News) { u.Header.Next = append(bytes.Clone(u.Header.Next), 0); u.Vals = nil }, api.ErrForm},
+		{"no set", good, 105, func(u *client.News) { u.Vals = nil; u.Votes = nil }, api.ErrVals},
+		{"no set, though of the hash", good, 105, func(u *client.News) {
 			u.Vals = []api.Val{{Name: "b", Power: 1}, {Name: "a", Power: 1}}
 			u.Header.Vals = vals.Hash(u.Vals)
 		}, api.ErrVals},
-		{"another set", good, 105, func(u *News) { u.Vals = other; u.Votes = nil }, api.ErrVals},
-		{"the next height, another set", good, 105, func(u *News) { u.Vals = far; u.Header.Vals = vals.Hash(far); u.Votes = nil }, api.ErrTrust},
-		{"the next height, Trusted doesn't count", good, 105, func(u *News) { u.Trusted = nil }, api.OK},
-		{"the next height, Trusted and its votes don't count", good, 105, func(u *News) {
+		{"another set", good, 105, func(u *client.News) { u.Vals = other; u.Votes = nil }, api.ErrVals},
+		{"the next height, another set", good, 105, func(u *client.News) { u.Vals = far; u.Header.Vals = vals.Hash(far); u.Votes = nil }, api.ErrTrust},
+		{"the next height, Trusted doesn't count", good, 105, func(u *client.News) { u.Trusted = nil }, api.OK},
+		{"the next height, Trusted and its votes don't count", good, 105, func(u *client.News) {
 			u.Vals = far
 			u.Header.Vals = vals.Hash(far)
 			u.Trusted = four
 			u.Votes = append([]string{"w", "x", "y", "z"}, three...)
 		}, api.ErrTrust},
-		{"too few", good, 105, func(u *News) { u.Votes = three[:2] }, api.ErrQuorum},
-		{"a jump", jump, 105, func(u *News) {}, api.OK},
-		{"a jump with no set", jump, 105, func(u *News) { u.Trusted = nil }, api.ErrTrust},
-		{"a jump with another set", jump, 105, func(u *News) { u.Trusted = other; u.Votes = nil }, api.ErrTrust},
-		{"a jump with too few", jump, 105, func(u *News) { u.Votes = []string{"a", "w", "x", "y"} }, api.ErrTrust},
-		{"a jump with too few, and no quorum", jump, 105, func(u *News) { u.Votes = []string{"a", "w"} }, api.ErrTrust},
-		{"a jump without a quorum", jump, 105, func(u *News) { u.Votes = []string{"a", "b", "w", "x"} }, api.ErrQuorum},
+		{"too few", good, 105, func(u *client.News) { u.Votes = three[:2] }, api.ErrQuorum},
+		{"a jump", jump, 105, func(u *client.News) {}, api.OK},
+		{"a jump with no set", jump, 105, func(u *client.News) { u.Trusted = nil }, api.ErrTrust},
+		{"a jump with another set", jump, 105, func(u *client.News) { u.Trusted = other; u.Votes = nil }, api.ErrTrust},
+		{"a jump with too few", jump, 105, func(u *client.News) { u.Votes = []string{"a", "w", "x", "y"} }, api.ErrTrust},
+		{"a jump with too few, and no quorum", jump, 105, func(u *client.News) { u.Votes = []string{"a", "w"} }, api.ErrTrust},
+		{"a jump without a quorum", jump, 105, func(u *client.News) { u.Votes = []string{"a", "b", "w", "x"} }, api.ErrQuorum},
 	}
 	for _, c := range cases {
 		s := following(t)
 		u := c.base
 		c.turn(&u)
 		before := s.Root()
-		if e := Update(s, "client-0", u, c.now); e != c.want || e != api.OK && !bytes.Equal(before, s.Root()) {
+		if e := client.Update(s, "client-0", u, c.now); e != c.want || e != api.OK && !bytes.Equal(before, s.Root()) {
 			t.Error(c.what, e)
 		}
 		// the same news as either of two that contradict one another
 		s = following(t)
 		fine := u
 		fine.Header.Root = make([]byte, 32)
-		if e := Misbehave(s, "client-0", u, fine, c.now); c.want == api.OK && e != api.OK || c.want != api.OK && e != c.want {
+		if e := client.Misbehave(s, "client-0", u, fine, c.now); c.want == api.OK && e != api.OK || c.want != api.OK && e != c.want {
 			t.Error(c.what, "Misbehave", e)
 		}
 	}
@@ -292,55 +293,55 @@ func TestUpdateWithATrustOfTheLastHeight(t *testing.T) {
 	s := empty()
 	s.Set("ibc/client/client-0", wire.F(wire.N(wire.N(wire.T(nil, "two"), 1<<64-1), 50), false))
 	s.Set("ibc/cons/client-0/ffffffffffffffff", wire.B(wire.B(wire.N(nil, 100), make([]byte, 32)), vals.Hash(four)))
-	u := News{Header: header(0, 105, four, four), Vals: four, Votes: three, At: 1<<64 - 1}
-	want(t, Update(s, "client-0", u, 105), api.ErrHeight) // no height stands behind it
+	u := client.News{Header: header(0, 105, four, four), Vals: four, Votes: three, At: 1<<64 - 1}
+	want(t, client.Update(s, "client-0", u, 105), api.ErrHeight) // no height stands behind it
 }
 
 func TestAnotherHeaderOfAHeightFreezes(t *testing.T) {
 	for i, turn := range []func(h *api.Header){func(h *api.Header) { h.Time++ }, func(h *api.Header) { h.Root = make([]byte, 32) }, func(h *api.Header) { h.Next = vals.Hash(far) }} {
 		s := following(t)
-		u := News{Header: header(6, 105, four, other), Vals: four, Votes: three, At: 5}
-		want(t, Update(s, "client-0", u, 105), api.OK)
+		u := client.News{Header: header(6, 105, four, other), Vals: four, Votes: three, At: 5}
+		want(t, client.Update(s, "client-0", u, 105), api.OK)
 		w := u
 		turn(&w.Header)
-		want(t, Update(s, "client-0", w, 105), api.OK)
-		if c, _ := Get(s, "client-0"); c != (State{"two", 6, 50, true}) {
+		want(t, client.Update(s, "client-0", w, 105), api.OK)
+		if c, _ := client.Get(s, "client-0"); c != (client.State{"two", 6, 50, true}) {
 			t.Error(i, c)
 		}
-		if c, _ := Trusts(s, "client-0", 6); c.Time != 105 || !bytes.Equal(c.Root, u.Header.Root) || !bytes.Equal(c.Next, u.Header.Next) {
+		if c, _ := client.Trusts(s, "client-0", 6); c.Time != 105 || !bytes.Equal(c.Root, u.Header.Root) || !bytes.Equal(c.Next, u.Header.Next) {
 			t.Error(i, "what it trusts of a height changed")
 		}
 		proof, _ := merkle.Prove(state, "k")
-		unchanged(t, s, func() api.Errno { return Update(s, "client-0", u, 105) }, api.ErrFrozen)
-		unchanged(t, s, func() api.Errno { return Misbehave(s, "client-0", u, w, 105) }, api.ErrFrozen)
-		unchanged(t, s, func() api.Errno { return Verify(s, "client-0", 6, "k", []byte("v"), proof, 105) }, api.ErrFrozen)
-		unchanged(t, s, func() api.Errno { return Absent(s, "client-0", 6, "l", proof, 105) }, api.ErrFrozen)
+		unchanged(t, s, func() api.Errno { return client.Update(s, "client-0", u, 105) }, api.ErrFrozen)
+		unchanged(t, s, func() api.Errno { return client.Misbehave(s, "client-0", u, w, 105) }, api.ErrFrozen)
+		unchanged(t, s, func() api.Errno { return client.Verify(s, "client-0", 6, "k", []byte("v"), proof, 105) }, api.ErrFrozen)
+		unchanged(t, s, func() api.Errno { return client.Absent(s, "client-0", 6, "l", proof, 105) }, api.ErrFrozen)
 	}
 }
 
 func TestMisbehave(t *testing.T) {
-	u := News{Header: header(6, 105, four, other), Vals: four, Votes: three, At: 5}
+	u := client.News{Header: header(6, 105, four, other), Vals: four, Votes: three, At: 5}
 	w := u
 	w.Header.Time = 106
 	s := following(t)
-	unchanged(t, s, func() api.Errno { return Misbehave(s, "client-1", u, w, 105) }, api.ErrClient)
+	unchanged(t, s, func() api.Errno { return client.Misbehave(s, "client-1", u, w, 105) }, api.ErrClient)
 	x := w
 	x.Header.Height = 7
-	unchanged(t, s, func() api.Errno { return Misbehave(s, "client-0", u, x, 105) }, api.ErrHeight)
-	unchanged(t, s, func() api.Errno { return Misbehave(s, "client-0", u, u, 105) }, api.ErrArg)
+	unchanged(t, s, func() api.Errno { return client.Misbehave(s, "client-0", u, x, 105) }, api.ErrHeight)
+	unchanged(t, s, func() api.Errno { return client.Misbehave(s, "client-0", u, u, 105) }, api.ErrArg)
 	x = w
 	x.Votes = nil
-	unchanged(t, s, func() api.Errno { return Misbehave(s, "client-0", u, x, 105) }, api.ErrQuorum)
-	unchanged(t, s, func() api.Errno { return Misbehave(s, "client-0", x, u, 105) }, api.ErrQuorum)
+	unchanged(t, s, func() api.Errno { return client.Misbehave(s, "client-0", u, x, 105) }, api.ErrQuorum)
+	unchanged(t, s, func() api.Errno { return client.Misbehave(s, "client-0", x, u, 105) }, api.ErrQuorum)
 	y := u
 	y.At = 3
-	unchanged(t, s, func() api.Errno { return Misbehave(s, "client-0", y, x, 105) }, api.ErrCons) // the first one's error first
-	unchanged(t, s, func() api.Errno { return Misbehave(s, "client-0", x, y, 105) }, api.ErrQuorum)
-	want(t, Misbehave(s, "client-0", u, w, 105), api.OK)
-	if c, _ := Get(s, "client-0"); c != (State{"two", 5, 50, true}) {
+	unchanged(t, s, func() api.Errno { return client.Misbehave(s, "client-0", y, x, 105) }, api.ErrCons) // the first one's error first
+	unchanged(t, s, func() api.Errno { return client.Misbehave(s, "client-0", x, y, 105) }, api.ErrQuorum)
+	want(t, client.Misbehave(s, "client-0", u, w, 105), api.OK)
+	if c, _ := client.Get(s, "client-0"); c != (client.State{"two", 5, 50, true}) {
 		t.Error(c)
 	}
-	if _, ok := Trusts(s, "client-0", 6); ok {
+	if _, ok := client.Trusts(s, "client-0", 6); ok {
 		t.Error("it trusts what contradicts itself")
 	}
 }
@@ -351,11 +352,11 @@ func TestVerifyAndAbsent(t *testing.T) {
 	gone, _ := merkle.Prove(state, "l")
 	verify := func(id string, height uint64, now uint64, key, value string, p api.Proof, e api.Errno) {
 		t.Helper()
-		unchanged(t, s, func() api.Errno { return Verify(s, id, height, key, []byte(value), p, now) }, e)
+		unchanged(t, s, func() api.Errno { return client.Verify(s, id, height, key, []byte(value), p, now) }, e)
 	}
 	absent := func(id string, height uint64, now uint64, key string, p api.Proof, e api.Errno) {
 		t.Helper()
-		unchanged(t, s, func() api.Errno { return Absent(s, id, height, key, p, now) }, e)
+		unchanged(t, s, func() api.Errno { return client.Absent(s, id, height, key, p, now) }, e)
 	}
 	verify("client-0", 5, 149, "k", "v", there, api.OK)
 	verify("client-0", 5, 3, "k", "v", there, api.OK)
@@ -371,33 +372,33 @@ func TestVerifyAndAbsent(t *testing.T) {
 	absent("client-0", 4, 150, "l", there, api.ErrExpired)
 	absent("x", 5, 1, "l", gone, api.ErrClient)
 	// the latest height tells whether the trust is over, not the one that is asked for
-	want(t, Update(s, "client-0", News{Header: header(6, 140, four, other), Vals: four, Votes: three, At: 5}, 140), api.OK)
+	want(t, client.Update(s, "client-0", client.News{Header: header(6, 140, four, other), Vals: four, Votes: three, At: 5}, 140), api.OK)
 	verify("client-0", 5, 189, "k", "v", there, api.OK)
 	verify("client-0", 5, 190, "k", "v", there, api.ErrExpired)
 	// it trusts nothing of its latest height
-	s.Del("ibc/cons/client-0/" + Hex(6))
+	s.Del("ibc/cons/client-0/" + client.Hex(6))
 	verify("client-0", 5, 110, "k", "v", there, api.ErrExpired)
 	absent("client-0", 5, 110, "l", gone, api.ErrExpired)
 }
 
 func TestAnswersAreNewMemory(t *testing.T) {
 	s := following(t)
-	c, _ := Trusts(s, "client-0", 5)
+	c, _ := client.Trusts(s, "client-0", 5)
 	_ = append(c.Root, 1, 2, 3, 4, 5, 6, 7, 8)
 	c.Root[0]++
-	d, _ := Trusts(s, "client-0", 5)
+	d, _ := client.Trusts(s, "client-0", 5)
 	if bytes.Equal(c.Root, d.Root) || !bytes.Equal(c.Next, vals.Hash(four)) {
 		t.Error("shared")
 	}
 }
 
 func TestNilStoreEnds(t *testing.T) {
-	NewID(nil, "x")
-	Get(nil, "client-0")
-	Trusts(nil, "client-0", 1)
-	Create(nil, header(5, 100, far, four), 50, 100)
-	Update(nil, "client-0", News{}, 0)
-	Misbehave(nil, "client-0", News{}, News{}, 0)
-	Verify(nil, "client-0", 0, "", nil, api.Proof{}, 0)
-	Absent(nil, "client-0", 0, "", api.Proof{}, 0)
+	client.NewID(nil, "x")
+	client.Get(nil, "client-0")
+	client.Trusts(nil, "client-0", 1)
+	client.Create(nil, header(5, 100, far, four), 50, 100)
+	client.Update(nil, "client-0", client.News{}, 0)
+	client.Misbehave(nil, "client-0", client.News{}, client.News{}, 0)
+	client.Verify(nil, "client-0", 0, "", nil, api.Proof{}, 0)
+	client.Absent(nil, "client-0", 0, "", api.Proof{}, 0)
 }

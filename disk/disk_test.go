@@ -1,4 +1,4 @@
-package disk
+package disk_test
 
 import (
 	"bytes"
@@ -8,6 +8,7 @@ import (
 	"testing"
 
 	"isthmus/api"
+	"isthmus/disk"
 )
 
 func same(a []api.File, b []api.File) bool {
@@ -29,7 +30,7 @@ func want(t *testing.T, got, e api.Errno) {
 	}
 }
 
-func files(d *Disk) []api.File {
+func files(d *disk.Disk) []api.File {
 	return d.Crash(bytes2bools(d.Waiting()))
 }
 
@@ -42,12 +43,12 @@ func bytes2bools(n int) []bool {
 }
 
 func TestNewAndLoad(t *testing.T) {
-	d := New()
+	d := disk.New()
 	if d.Down() || d.Waiting() != 0 || len(d.Crash(nil)) != 0 {
 		t.Error("New")
 	}
 	l := []api.File{{Name: "b", Data: []byte{1, 2}}, {Name: "a"}, {Name: strings.Repeat("\xff", 32), Data: []byte{3}}}
-	d, e := Load(l)
+	d, e := disk.Load(l)
 	if e != api.OK || d.Waiting() != 0 || !same(d.Crash(nil), l) || d.Down() {
 		t.Error("Load", e)
 	}
@@ -59,21 +60,21 @@ func TestNewAndLoad(t *testing.T) {
 	for i := range api.MaxFiles {
 		many = append(many, api.File{Name: strconv.Itoa(i)})
 	}
-	if d, e := Load(many); d == nil || e != api.OK {
+	if d, e := disk.Load(many); d == nil || e != api.OK {
 		t.Error("16 files", e)
 	}
 	for i, l := range [][]api.File{append(many, api.File{Name: "x"}), {{}}, {{Name: strings.Repeat("a", 33)}}, {{Name: "a"}, {Name: "b"}, {Name: "a"}}} {
-		if d, e := Load(l); d != nil || e != api.ErrFile {
+		if d, e := disk.Load(l); d != nil || e != api.ErrFile {
 			t.Error(i, e)
 		}
 	}
-	if d, e := Load(nil); d == nil || e != api.OK {
+	if d, e := disk.Load(nil); d == nil || e != api.OK {
 		t.Error("no files", e)
 	}
 }
 
 func TestExamples(t *testing.T) {
-	d := New()
+	d := disk.New()
 	want(t, d.Append("a", []byte{1, 2}), api.OK)
 	want(t, d.Sync("a"), api.OK)
 	want(t, d.Append("a", []byte{3, 4, 5}), api.OK)
@@ -88,7 +89,7 @@ func TestExamples(t *testing.T) {
 			t.Error(c.keep, got)
 		}
 	}
-	d = New()
+	d = disk.New()
 	d.Arm(2)
 	want(t, d.Append("a", []byte{1}), api.OK)
 	want(t, d.Sync("a"), api.ErrDown)
@@ -101,7 +102,7 @@ func TestExamples(t *testing.T) {
 }
 
 func TestOperationsRefuse(t *testing.T) {
-	d := New()
+	d := disk.New()
 	want(t, d.Sync("a"), api.ErrFile)
 	want(t, d.Truncate("a", 0), api.ErrFile)
 	want(t, d.Truncate("a", -1), api.ErrFile)
@@ -132,7 +133,7 @@ func TestOperationsRefuse(t *testing.T) {
 }
 
 func TestTruncateKeepsWhatIsSafe(t *testing.T) {
-	d := New()
+	d := disk.New()
 	d.Append("a", []byte{1, 2, 3, 4})
 	d.Sync("a")
 	d.Append("a", []byte{5, 6})
@@ -148,7 +149,7 @@ func TestTruncateKeepsWhatIsSafe(t *testing.T) {
 }
 
 func TestArm(t *testing.T) {
-	d := New()
+	d := disk.New()
 	d.Append("a", []byte{1})
 	d.Arm(3)
 	want(t, d.Sync("nope"), api.ErrFile) // a refused operation is one, too
@@ -165,7 +166,7 @@ func TestArm(t *testing.T) {
 		t.Error("Arm brought the power back")
 	}
 
-	d = New()
+	d = disk.New()
 	d.Append("a", []byte{1, 2})
 	d.Arm(1)
 	want(t, d.Truncate("a", 1), api.ErrDown)
@@ -173,7 +174,7 @@ func TestArm(t *testing.T) {
 		t.Error("a Truncate in which the power goes isn't done")
 	}
 
-	d = New()
+	d = disk.New()
 	d.Append("a", []byte{1, 2})
 	d.Arm(1)
 	want(t, d.Sync("a"), api.ErrDown)
@@ -181,7 +182,7 @@ func TestArm(t *testing.T) {
 		t.Error("a Sync in which the power goes isn't done")
 	}
 
-	d = New()
+	d = disk.New()
 	d.Arm(1)
 	want(t, d.Append("", []byte{1}), api.ErrDown)
 	if len(d.Crash(nil)) != 0 || !d.Down() {
@@ -189,14 +190,14 @@ func TestArm(t *testing.T) {
 	}
 
 	for _, n := range []int{0, -1, -1 << 63} {
-		d = New()
+		d = disk.New()
 		d.Arm(1)
 		d.Arm(n)
 		for range 5 {
 			want(t, d.Append("a", nil), api.OK)
 		}
 	}
-	d = New()
+	d = disk.New()
 	d.Arm(2)
 	d.Append("a", nil)
 	d.Arm(2) // what was armed is forgotten
@@ -205,7 +206,7 @@ func TestArm(t *testing.T) {
 }
 
 func TestReadCountsAsNoOperation(t *testing.T) {
-	d := New()
+	d := disk.New()
 	d.Append("a", []byte{1})
 	d.Arm(1)
 	for range 3 {
@@ -220,7 +221,7 @@ func TestReadCountsAsNoOperation(t *testing.T) {
 
 // The bytes that aren't safe are counted from file to file.
 func TestCrashCountsThroughFiles(t *testing.T) {
-	d := New()
+	d := disk.New()
 	d.Append("b", []byte{1})
 	d.Append("a", []byte{2, 3})
 	d.Sync("b")
@@ -238,7 +239,7 @@ func TestCrashCountsThroughFiles(t *testing.T) {
 }
 
 func TestMemoryIsNew(t *testing.T) {
-	d := New()
+	d := disk.New()
 	room := bytes.Repeat([]byte{5}, 32)
 	d.Append("a", room[:4])
 	d.Append("a", []byte{6})
@@ -261,7 +262,7 @@ func TestMemoryIsNew(t *testing.T) {
 }
 
 func TestNilDisk(t *testing.T) {
-	var d *Disk
+	var d *disk.Disk
 	want(t, d.Append("a", nil), api.ErrNil)
 	want(t, d.Sync("a"), api.ErrNil)
 	want(t, d.Truncate("a", 0), api.ErrNil)
@@ -284,7 +285,7 @@ type model struct {
 func TestAgainstAModel(t *testing.T) {
 	r := rand.New(rand.NewSource(4))
 	for range 300 {
-		d, m := New(), model{data: map[string][]byte{}, safe: map[string]int{}}
+		d, m := disk.New(), model{data: map[string][]byte{}, safe: map[string]int{}}
 		for range 30 {
 			name := string(rune('a' + r.Intn(3)))
 			_, there := m.data[name]

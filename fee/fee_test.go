@@ -1,4 +1,4 @@
-package fee
+package fee_test
 
 import (
 	"bytes"
@@ -7,6 +7,7 @@ import (
 
 	"isthmus/api"
 	"isthmus/bank"
+	"isthmus/fee"
 	"isthmus/limb"
 	"isthmus/packet"
 	"isthmus/store"
@@ -57,26 +58,26 @@ func one() []byte { return limb.Bytes(of(1)) }
 
 func TestGetAndAhead(t *testing.T) {
 	s := ready()
-	want(t, Ahead(s, "ann", "chan-0", 1, pay("fuel", 3, 2, 1)), api.OK)
+	want(t, fee.Ahead(s, "ann", "chan-0", 1, pay("fuel", 3, 2, 1)), api.OK)
 	if b, _ := s.Get("fee/chan-0/0000000000000001"); !bytes.Equal(b, form("ann", "fuel", limb.Bytes(of(3)), limb.Bytes(of(2)), limb.Bytes(of(1)))) {
 		t.Error(b)
 	}
-	if x, ok := Get(s, "chan-0", 1); !ok || x != (Paid{"ann", pay("fuel", 3, 2, 1)}) {
+	if x, ok := fee.Get(s, "chan-0", 1); !ok || x != (fee.Paid{"ann", pay("fuel", 3, 2, 1)}) {
 		t.Error(x, ok)
 	}
-	if bank.Bal(s, Pool, "fuel") != of(6) || bank.Bal(s, "ann", "fuel") != of(14) || Pool != "feepool" {
+	if bank.Bal(s, fee.Pool, "fuel") != of(6) || bank.Bal(s, "ann", "fuel") != of(14) || fee.Pool != "feepool" {
 		t.Error("the pool")
 	}
-	refused(t, s, api.ErrPay, func() api.Errno { return Ahead(s, "ann", "chan-0", 1, api.Pay{Recv: most, Ack: most}) })
+	refused(t, s, api.ErrPay, func() api.Errno { return fee.Ahead(s, "ann", "chan-0", 1, api.Pay{Recv: most, Ack: most}) })
 	good := form("ann", "fuel", one(), one(), one())
 	bad := [][]byte{nil, good[:len(good)-1], append(bytes.Clone(good), 0), form("ann", "fuel", one(), one()), form("ann", "fuel", one(), make([]byte, 31), one()), form("ann", "fuel", one(), one(), append(one(), 0))}
 	for i, b := range bad {
 		s.Set("fee/chan-0/0000000000000001", b)
-		if x, ok := Get(s, "chan-0", 1); ok || x != (Paid{}) {
+		if x, ok := fee.Get(s, "chan-0", 1); ok || x != (fee.Paid{}) {
 			t.Error(i, x)
 		}
-		refused(t, s, api.ErrPay, func() api.Errno { return Ahead(s, "ann", "chan-0", 1, pay("fuel", 1, 1, 1)) }) // something is there
-		refused(t, s, api.OK, func() api.Errno { return Settle(s, api.Packet{Src: "chan-0", Seq: 1}, "a", "b", false) })
+		refused(t, s, api.ErrPay, func() api.Errno { return fee.Ahead(s, "ann", "chan-0", 1, pay("fuel", 1, 1, 1)) }) // something is there
+		refused(t, s, api.OK, func() api.Errno { return fee.Settle(s, api.Packet{Src: "chan-0", Seq: 1}, "a", "b", false) })
 	}
 }
 
@@ -104,9 +105,9 @@ func TestAheadRefuses(t *testing.T) {
 		{"ann", "chan-0", 1, api.Pay{Denom: "fuel", Timeout: most}, api.ErrFunds},
 	}
 	for _, c := range cases {
-		refused(t, s, c.want, func() api.Errno { return Ahead(s, c.from, c.id, c.seq, c.p) })
+		refused(t, s, c.want, func() api.Errno { return fee.Ahead(s, c.from, c.id, c.seq, c.p) })
 	}
-	want(t, Ahead(s, "ann", "chan-0", 1, pay("fuel", 0, 20, 0)), api.OK)
+	want(t, fee.Ahead(s, "ann", "chan-0", 1, pay("fuel", 0, 20, 0)), api.OK)
 }
 
 func TestSettle(t *testing.T) {
@@ -128,21 +129,23 @@ func TestSettle(t *testing.T) {
 	}
 	for i, c := range cases {
 		s := ready()
-		want(t, Ahead(s, "ann", "chan-0", 1, pay("fuel", 3, 2, 1)), api.OK)
-		want(t, Settle(s, p, c.forward, c.by, c.late), api.OK)
-		if bank.Bal(s, "ros", "fuel") != of(c.ros) || bank.Bal(s, "rob", "fuel") != of(c.rob) || bank.Bal(s, "ann", "fuel") != of(c.ann) || bank.Bal(s, Pool, "fuel") != of(0) {
+		want(t, fee.Ahead(s, "ann", "chan-0", 1, pay("fuel", 3, 2, 1)), api.OK)
+		want(t, fee.Settle(s, p, c.forward, c.by, c.late), api.OK)
+		if bank.Bal(s, "ros", "fuel") != of(c.ros) || bank.Bal(s, "rob", "fuel") != of(c.rob) || bank.Bal(s, "ann", "fuel") != of(c.ann) || bank.Bal(s, fee.Pool, "fuel") != of(0) {
 			t.Error(i, bank.Bal(s, "ros", "fuel"), bank.Bal(s, "rob", "fuel"), bank.Bal(s, "ann", "fuel"))
 		}
 		if _, ok := s.Get("fee/chan-0/0000000000000001"); ok {
 			t.Error(i, "it is kept still")
 		}
-		refused(t, s, api.OK, func() api.Errno { return Settle(s, p, c.forward, c.by, c.late) })
+		refused(t, s, api.OK, func() api.Errno { return fee.Settle(s, p, c.forward, c.by, c.late) })
 	}
 	s := ready()
-	want(t, Ahead(s, "ann", "chan-0", 1, pay("fuel", 0, 4, 0)), api.OK)
-	refused(t, s, api.OK, func() api.Errno { return Settle(s, api.Packet{Src: "chan-0", Seq: 2}, "a", "b", false) })
-	refused(t, s, api.OK, func() api.Errno { return Settle(s, api.Packet{Src: "chan-7", Dst: "chan-0", Seq: 1}, "a", "b", false) })
-	want(t, Settle(s, p, "ros", "rob", false), api.OK) // gifts of nothing aren't made
+	want(t, fee.Ahead(s, "ann", "chan-0", 1, pay("fuel", 0, 4, 0)), api.OK)
+	refused(t, s, api.OK, func() api.Errno { return fee.Settle(s, api.Packet{Src: "chan-0", Seq: 2}, "a", "b", false) })
+	refused(t, s, api.OK, func() api.Errno {
+		return fee.Settle(s, api.Packet{Src: "chan-7", Dst: "chan-0", Seq: 1}, "a", "b", false)
+	})
+	want(t, fee.Settle(s, p, "ros", "rob", false), api.OK) // gifts of nothing aren't made
 	if bank.Bal(s, "rob", "fuel") != of(4) {
 		t.Error("rob")
 	}
@@ -151,18 +154,18 @@ func TestSettle(t *testing.T) {
 // The pool has too little: the first error is the answer, and nothing changes.
 func TestSettleRefuses(t *testing.T) {
 	s := ready()
-	want(t, Ahead(s, "ann", "chan-0", 1, pay("fuel", 3, 2, 1)), api.OK)
-	bank.Send(s, Pool, "thief", "fuel", of(2))
+	want(t, fee.Ahead(s, "ann", "chan-0", 1, pay("fuel", 3, 2, 1)), api.OK)
+	bank.Send(s, fee.Pool, "thief", "fuel", of(2))
 	refused(t, s, api.ErrFunds, func() api.Errno {
-		return Settle(s, api.Packet{Src: "chan-0", Seq: 1}, "ros", "rob", false)
+		return fee.Settle(s, api.Packet{Src: "chan-0", Seq: 1}, "ros", "rob", false)
 	})
 	s.Set("fee/chan-0/0000000000000001", form("Ann", "fuel", one(), one(), one()))
 	refused(t, s, api.ErrName, func() api.Errno {
-		return Settle(s, api.Packet{Src: "chan-0", Seq: 1}, "ros", "rob", false)
+		return fee.Settle(s, api.Packet{Src: "chan-0", Seq: 1}, "ros", "rob", false)
 	})
 	s.Set("fee/chan-0/0000000000000001", form("ann", "/", one(), one(), one()))
 	refused(t, s, api.ErrDenom, func() api.Errno {
-		return Settle(s, api.Packet{Src: "chan-0", Seq: 1}, "ros", "rob", false)
+		return fee.Settle(s, api.Packet{Src: "chan-0", Seq: 1}, "ros", "rob", false)
 	})
 }
 
@@ -179,27 +182,28 @@ func TestPoolIsTheSum(t *testing.T) {
 	for range 2000 {
 		seq := uint64(1 + r.Intn(8))
 		if r.Intn(2) == 0 {
-			Ahead(s, who[r.Intn(5)], "chan-0", seq, pay([]string{"fuel", "atom", "x"}[r.Intn(3)], uint64(r.Intn(4)), uint64(r.Intn(4)), uint64(r.Intn(4))))
+			fee.Ahead(s, who[r.Intn(5)], "chan-0", seq, pay([]string{"fuel", "atom", "x"}[r.Intn(3)], uint64(r.Intn(4)), uint64(r.Intn(4)), uint64(r.Intn(4))))
 		} else {
-			Settle(s, api.Packet{Src: "chan-0", Seq: seq}, who[r.Intn(5)], who[r.Intn(5)], r.Intn(2) == 0)
+			fee.Settle(s, api.Packet{Src: "chan-0", Seq: seq}, who[r.Intn(5)], who[r.Intn(5)], r.Intn(2) == 0)
 		}
 		sums := map[string]api.U{}
 		for seq := uint64(1); seq < 9; seq++ {
-			if x, ok := Get(s, "chan-0", seq); ok {
-				sum, _ := total(x.Pay)
-				sums[x.Pay.Denom], _ = limb.Add(sums[x.Pay.Denom], sum)
+			if x, ok := fee.Get(s, "chan-0", seq); ok {
+				for _, amt := range []api.U{x.Pay.Recv, x.Pay.Ack, x.Pay.Timeout} {
+					sums[x.Pay.Denom], _ = limb.Add(sums[x.Pay.Denom], amt)
+				}
 			}
 		}
 		for _, d := range []string{"fuel", "atom"} {
-			if bank.Bal(s, Pool, d) != sums[d] {
-				t.Fatal(d, bank.Bal(s, Pool, d), sums[d])
+			if bank.Bal(s, fee.Pool, d) != sums[d] {
+				t.Fatal(d, bank.Bal(s, fee.Pool, d), sums[d])
 			}
 		}
 	}
 }
 
 func TestNilStoreEnds(t *testing.T) {
-	Get(nil, "chan-0", 1)
-	Ahead(nil, "ann", "chan-0", 1, pay("fuel", 1, 1, 1))
-	Settle(nil, api.Packet{Src: "chan-0"}, "a", "b", true)
+	fee.Get(nil, "chan-0", 1)
+	fee.Ahead(nil, "ann", "chan-0", 1, pay("fuel", 1, 1, 1))
+	fee.Settle(nil, api.Packet{Src: "chan-0"}, "a", "b", true)
 }

@@ -1,4 +1,4 @@
-package ica
+package ica_test
 
 import (
 	"bytes"
@@ -10,6 +10,7 @@ import (
 	"isthmus/bank"
 	"isthmus/chans"
 	"isthmus/conn"
+	"isthmus/ica"
 	"isthmus/limb"
 	"isthmus/packet"
 	"isthmus/store"
@@ -47,7 +48,7 @@ func refused(t *testing.T, s *store.Store, e api.Errno, do func() api.Errno) {
 
 func register(t *testing.T, s *store.Store, owner, via string) func() api.Errno {
 	return func() api.Errno {
-		id, e := Register(s, owner, via)
+		id, e := ica.Register(s, owner, via)
 		if e != api.OK && id != "" {
 			t.Error(id)
 		}
@@ -56,18 +57,18 @@ func register(t *testing.T, s *store.Store, owner, via string) func() api.Errno 
 }
 
 func TestAddressAndActive(t *testing.T) {
-	if Address("conn-1", "ann") != "ica.conn-1.ann" {
-		t.Error(Address("conn-1", "ann"))
+	if ica.Address("conn-1", "ann") != "ica.conn-1.ann" {
+		t.Error(ica.Address("conn-1", "ann"))
 	}
 	s := ready()
-	if id, ok := Active(s, "conn-0", "ann"); ok || id != "" {
+	if id, ok := ica.Active(s, "conn-0", "ann"); ok || id != "" {
 		t.Error(id, ok)
 	}
 	s.Set("ica/active/conn-0/ann", []byte("whatever"))
-	if id, ok := Active(s, "conn-0", "ann"); !ok || id != "whatever" {
+	if id, ok := ica.Active(s, "conn-0", "ann"); !ok || id != "whatever" {
 		t.Error(id, ok)
 	}
-	if _, ok := Active(s, "conn-0", strings.Repeat("a", 300)); ok {
+	if _, ok := ica.Active(s, "conn-0", strings.Repeat("a", 300)); ok {
 		t.Error("a key that is too long")
 	}
 }
@@ -78,26 +79,26 @@ func TestBytesAndParse(t *testing.T) {
 	for _, o := range l {
 		form = wire.B(wire.T(wire.T(form, o.To), o.Denom), limb.Bytes(o.Amt))
 	}
-	if !bytes.Equal(Bytes(l), form) || !bytes.Equal(Bytes(nil), wire.N(nil, 0)) {
-		t.Error(Bytes(l))
+	if !bytes.Equal(ica.Bytes(l), form) || !bytes.Equal(ica.Bytes(nil), wire.N(nil, 0)) {
+		t.Error(ica.Bytes(l))
 	}
-	if got, e := Parse(form); e != api.OK || !reflect.DeepEqual(got, l) {
+	if got, e := ica.Parse(form); e != api.OK || !reflect.DeepEqual(got, l) {
 		t.Error(got, e)
 	}
-	if got, e := Parse(wire.N(nil, 0)); e != api.OK || len(got) != 0 {
+	if got, e := ica.Parse(wire.N(nil, 0)); e != api.OK || len(got) != 0 {
 		t.Error(got, e)
 	}
-	if got, e := Parse(Bytes(make([]api.Order, 8))); e != api.OK || len(got) != 8 {
+	if got, e := ica.Parse(ica.Bytes(make([]api.Order, 8))); e != api.OK || len(got) != 8 {
 		t.Error(got, e)
 	}
 	many := make([]api.Order, 30000)
-	if b := Bytes(many); len(b) != 8+30000*(4+4+36) {
+	if b := ica.Bytes(many); len(b) != 8+30000*(4+4+36) {
 		t.Error(len(b))
 	}
-	bad := [][]byte{nil, form[:len(form)-1], append(bytes.Clone(form), 0), Bytes(make([]api.Order, 9)), wire.N(nil, 9), wire.N(nil, 1<<63), wire.N(nil, 1),
+	bad := [][]byte{nil, form[:len(form)-1], append(bytes.Clone(form), 0), ica.Bytes(make([]api.Order, 9)), wire.N(nil, 9), wire.N(nil, 1<<63), wire.N(nil, 1),
 		wire.B(wire.T(wire.T(wire.N(nil, 1), "bob"), "atom"), make([]byte, 31)), wire.B(wire.T(wire.T(wire.N(nil, 1), "bob"), "atom"), make([]byte, 33))}
 	for i, b := range bad {
-		if got, e := Parse(b); e != api.ErrData || len(got) != 0 {
+		if got, e := ica.Parse(b); e != api.ErrData || len(got) != 0 {
 			t.Error(i, got, e)
 		}
 	}
@@ -110,7 +111,7 @@ func TestRegister(t *testing.T) {
 	refused(t, s, api.ErrOwner, register(t, s, "", "conn-7"))
 	refused(t, s, api.ErrConn, register(t, s, "ann", "conn-7"))
 	refused(t, s, api.ErrState, register(t, s, "ann", "conn-1")) // of a connection that isn't open
-	if id, e := Register(s, "ann", "conn-0"); id != "chan-0" || e != api.OK {
+	if id, e := ica.Register(s, "ann", "conn-0"); id != "chan-0" || e != api.OK {
 		t.Fatal(id, e)
 	}
 	if c, _ := chans.Get(s, "chan-0"); c != (chans.Chan{State: conn.Init, Ordered: true, Port: "control", CPort: "host", Conn: "conn-0", Version: "ann"}) {
@@ -125,20 +126,20 @@ func TestRegister(t *testing.T) {
 		chans.Put(s, "chan-0", c)
 		refused(t, s, api.ErrState, register(t, s, "ann", "conn-0"))
 	}
-	if id, e := Register(s, "bob", "conn-0"); id != "chan-1" || e != api.OK {
+	if id, e := ica.Register(s, "bob", "conn-0"); id != "chan-1" || e != api.OK {
 		t.Error(id, e)
 	}
 	c, _ := chans.Get(s, "chan-0")
 	c.State = conn.Closed
 	chans.Put(s, "chan-0", c)
-	if id, e := Register(s, "ann", "conn-0"); id != "chan-2" || e != api.OK {
+	if id, e := ica.Register(s, "ann", "conn-0"); id != "chan-2" || e != api.OK {
 		t.Error(id, e)
 	}
-	if id, _ := Active(s, "conn-0", "ann"); id != "chan-2" {
+	if id, _ := ica.Active(s, "conn-0", "ann"); id != "chan-2" {
 		t.Error(id)
 	}
 	s.Set("ica/active/conn-0/cyd", []byte("chan-77")) // no such channel
-	if id, e := Register(s, "cyd", "conn-0"); id != "chan-3" || e != api.OK {
+	if id, e := ica.Register(s, "cyd", "conn-0"); id != "chan-3" || e != api.OK {
 		t.Error(id, e)
 	}
 	s.Set("ica/active/conn-7/ann", []byte("chan-1"))
@@ -153,7 +154,7 @@ func TestExecute(t *testing.T) {
 	many := make([]api.Order, 9)
 	execute := func(owner, id string, l []api.Order, height uint64) func() api.Errno {
 		return func() api.Errno {
-			p, e := Execute(s, owner, id, l, height, 0)
+			p, e := ica.Execute(s, owner, id, l, height, 0)
 			if !reflect.DeepEqual(p, api.Packet{}) {
 				t.Error(p)
 			}
@@ -167,28 +168,28 @@ func TestExecute(t *testing.T) {
 	refused(t, s, api.ErrMany, execute("ann", "chan-0", many, 1))
 	refused(t, s, api.ErrLate, execute("ann", "chan-0", many[1:], 1))
 	refused(t, s, api.ErrLong, execute("ann", "chan-0", []api.Order{{To: strings.Repeat("x", 70000)}}, 1))
-	p, e := Execute(s, "ann", "chan-0", l, 9, 8)
-	if e != api.OK || !reflect.DeepEqual(p, api.Packet{Src: "chan-0", Dst: "chan-5", Seq: 4, Data: Bytes(l), Height: 9, Time: 8}) {
+	p, e := ica.Execute(s, "ann", "chan-0", l, 9, 8)
+	if e != api.OK || !reflect.DeepEqual(p, api.Packet{Src: "chan-0", Dst: "chan-5", Seq: 4, Data: ica.Bytes(l), Height: 9, Time: 8}) {
 		t.Error(p, e)
 	}
 	if b, _ := s.Get(packet.Commit("chan-0", 4)); !bytes.Equal(b, packet.Hash(p)) {
 		t.Error("commit")
 	}
-	if _, e := Execute(s, "ann", "chan-0", nil, 0, 0); e != api.OK {
+	if _, e := ica.Execute(s, "ann", "chan-0", nil, 0, 0); e != api.OK {
 		t.Error("no orders", e)
 	}
 }
 
 func TestReceive(t *testing.T) {
 	s := ready()
-	account := Address("conn-0", "ann")
+	account := ica.Address("conn-0", "ann")
 	bank.Mint(s, account, "atom", of(5))
 	in := func(l ...api.Order) api.Packet {
-		return api.Packet{Src: "chan-3", Dst: "chan-8", Seq: 1, Data: Bytes(l)}
+		return api.Packet{Src: "chan-3", Dst: "chan-8", Seq: 1, Data: ica.Bytes(l)}
 	}
 	order := func(to, denom string, n uint64) api.Order { return api.Order{To: to, Denom: denom, Amt: of(n)} }
 	receive := func(p api.Packet) func() api.Errno {
-		return func() api.Errno { return Receive(s, p) }
+		return func() api.Errno { return ica.Receive(s, p) }
 	}
 	p := in(order("bob", "atom", 1))
 	for _, dst := range []string{"chan-7", "chan-9", "", "Chan"} {
@@ -203,7 +204,7 @@ func TestReceive(t *testing.T) {
 	refused(t, s, api.ErrDenom, receive(in(order("bob", "atom", 3), order("Cyd", "", 4))))
 	refused(t, s, api.ErrZero, receive(in(order("bob", "atom", 3), order("cyd", "atom", 0))))
 	refused(t, s, api.OK, receive(in()))
-	want(t, Receive(s, in(order("bob", "atom", 3), order("cyd", "atom", 1), order(account, "atom", 1), order("bob", "atom", 1))), api.OK)
+	want(t, ica.Receive(s, in(order("bob", "atom", 3), order("cyd", "atom", 1), order(account, "atom", 1), order("bob", "atom", 1))), api.OK)
 	if bank.Bal(s, "bob", "atom") != of(4) || bank.Bal(s, "cyd", "atom") != of(1) || bank.Bal(s, account, "atom") != of(0) {
 		t.Error("balances")
 	}
@@ -213,8 +214,8 @@ func TestReceive(t *testing.T) {
 }
 
 func TestNilStoreEnds(t *testing.T) {
-	Active(nil, "conn-0", "ann")
-	Register(nil, "ann", "conn-0")
-	Execute(nil, "ann", "chan-0", nil, 0, 0)
-	Receive(nil, api.Packet{})
+	ica.Active(nil, "conn-0", "ann")
+	ica.Register(nil, "ann", "conn-0")
+	ica.Execute(nil, "ann", "chan-0", nil, 0, 0)
+	ica.Receive(nil, api.Packet{})
 }

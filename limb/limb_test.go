@@ -1,4 +1,4 @@
-package limb
+package limb_test
 
 import (
 	"bytes"
@@ -8,6 +8,7 @@ import (
 	"testing"
 
 	"isthmus/api"
+	"isthmus/limb"
 )
 
 var most = api.U{1<<64 - 1, 1<<64 - 1, 1<<64 - 1, 1<<64 - 1}
@@ -52,16 +53,16 @@ func some() []api.U {
 }
 
 func TestOfCmpZero(t *testing.T) {
-	if Of(7) != (api.U{7}) || Of(1<<64-1) != (api.U{1<<64 - 1}) {
+	if limb.Of(7) != (api.U{7}) || limb.Of(1<<64-1) != (api.U{1<<64 - 1}) {
 		t.Error("Of")
 	}
 	l := some()
 	for _, a := range l {
-		if Zero(a) != (wide(a).Sign() == 0) {
+		if limb.Zero(a) != (wide(a).Sign() == 0) {
 			t.Error("Zero", a)
 		}
 		for _, b := range l {
-			if Cmp(a, b) != wide(a).Cmp(wide(b)) {
+			if limb.Cmp(a, b) != wide(a).Cmp(wide(b)) {
 				t.Error("Cmp", a, b)
 			}
 		}
@@ -73,19 +74,19 @@ func TestSumsAndDifferences(t *testing.T) {
 	for _, a := range l {
 		for _, b := range l {
 			want, fits := narrow(new(big.Int).Add(wide(a), wide(b)))
-			if got, ok := Add(a, b); got != want || ok != fits {
+			if got, ok := limb.Add(a, b); got != want || ok != fits {
 				t.Error("Add", a, b, got, ok)
 			}
 			want, fits = narrow(new(big.Int).Sub(wide(a), wide(b)))
-			if got, ok := Sub(a, b); got != want || ok != fits {
+			if got, ok := limb.Sub(a, b); got != want || ok != fits {
 				t.Error("Sub", a, b, got, ok)
 			}
 		}
 	}
-	if got, ok := Add(most, Of(1)); got != (api.U{}) || ok {
+	if got, ok := limb.Add(most, limb.Of(1)); got != (api.U{}) || ok {
 		t.Error(got, ok)
 	}
-	if got, ok := Sub(Of(5), Of(7)); got != (api.U{}) || ok {
+	if got, ok := limb.Sub(limb.Of(5), limb.Of(7)); got != (api.U{}) || ok {
 		t.Error(got, ok)
 	}
 }
@@ -95,10 +96,10 @@ func TestProductsAndQuotients(t *testing.T) {
 		for _, k := range []uint64{0, 1, 2, 3, 10, 1 << 32, 1<<63 + 1, 1<<64 - 1} {
 			wk := new(big.Int).SetUint64(k)
 			want, fits := narrow(new(big.Int).Mul(wide(a), wk))
-			if got, ok := Mul(a, k); got != want || ok != fits {
+			if got, ok := limb.Mul(a, k); got != want || ok != fits {
 				t.Error("Mul", a, k, got, ok)
 			}
-			q, r := Div(a, k)
+			q, r := limb.Div(a, k)
 			if k == 0 {
 				if q != (api.U{}) || r != 0 {
 					t.Error("Div by 0", q, r)
@@ -115,11 +116,11 @@ func TestProductsAndQuotients(t *testing.T) {
 
 func TestPrintAndParse(t *testing.T) {
 	for _, a := range some() {
-		s := Print(a)
+		s := limb.Print(a)
 		if s != wide(a).String() {
 			t.Error("Print", a, s)
 		}
-		if b, e := Parse(s); b != a || e != api.OK {
+		if b, e := limb.Parse(s); b != a || e != api.OK {
 			t.Error("Parse", s, b, e)
 		}
 	}
@@ -132,7 +133,7 @@ func TestPrintAndParse(t *testing.T) {
 		strings.Repeat("9", 5000): api.ErrOver,
 	}
 	for s, want := range wrong {
-		if a, e := Parse(s); a != (api.U{}) || e != want {
+		if a, e := limb.Parse(s); a != (api.U{}) || e != want {
 			t.Errorf("Parse %q: %v %v", s, a, e)
 		}
 	}
@@ -140,16 +141,16 @@ func TestPrintAndParse(t *testing.T) {
 
 func TestBytesAndFrom(t *testing.T) {
 	for _, a := range some() {
-		b := Bytes(a)
+		b := limb.Bytes(a)
 		if want := wide(a).FillBytes(make([]byte, 32)); !bytes.Equal(b, want) {
 			t.Error("Bytes", a, b)
 		}
-		if c, e := From(b); c != a || e != api.OK {
+		if c, e := limb.From(b); c != a || e != api.OK {
 			t.Error("From", b, c, e)
 		}
 	}
 	for _, n := range []int{0, 1, 31, 33, 64} {
-		if a, e := From(bytes.Repeat([]byte{1}, n)); a != (api.U{}) || e != api.ErrForm {
+		if a, e := limb.From(bytes.Repeat([]byte{1}, n)); a != (api.U{}) || e != api.ErrForm {
 			t.Error(n, a, e)
 		}
 	}

@@ -1,4 +1,4 @@
-package merkle
+package merkle_test
 
 import (
 	"bytes"
@@ -9,6 +9,7 @@ import (
 	"testing"
 
 	"isthmus/api"
+	"isthmus/merkle"
 )
 
 // h: the chapter's H, written a second time.
@@ -76,33 +77,33 @@ func root(l []api.Pair) []byte {
 
 func TestRootExamples(t *testing.T) {
 	a, b, c := api.Pair{Key: "a", Value: []byte{1}}, api.Pair{Key: "b"}, api.Pair{Key: "c", Value: []byte{3}}
-	if got, e := Root([]api.Pair{a}); e != api.OK || !bytes.Equal(got, h("root", n(1), leafOf(a))) {
+	if got, e := merkle.Root([]api.Pair{a}); e != api.OK || !bytes.Equal(got, h("root", n(1), leafOf(a))) {
 		t.Error(got, e)
 	}
-	if got, e := Root([]api.Pair{a, b, c}); e != api.OK || !bytes.Equal(got, h("root", n(3), h("node", h("node", leafOf(a), leafOf(b)), leafOf(c)))) {
+	if got, e := merkle.Root([]api.Pair{a, b, c}); e != api.OK || !bytes.Equal(got, h("root", n(3), h("node", h("node", leafOf(a), leafOf(b)), leafOf(c)))) {
 		t.Error(got, e)
 	}
-	p, e := Prove([]api.Pair{a, b, c}, "a")
+	p, e := merkle.Prove([]api.Pair{a, b, c}, "a")
 	if e != api.OK || p.N != 3 || len(p.Leaves) != 1 || len(p.Leaves[0].Path) != 2 || !bytes.Equal(p.Leaves[0].Path[0], leafOf(b)) || !bytes.Equal(p.Leaves[0].Path[1], leafOf(c)) {
 		t.Error(p, e)
 	}
-	p, e = Prove([]api.Pair{a, b, c}, "c")
+	p, e = merkle.Prove([]api.Pair{a, b, c}, "c")
 	if e != api.OK || len(p.Leaves) != 1 || len(p.Leaves[0].Path) != 1 || !bytes.Equal(p.Leaves[0].Path[0], h("node", leafOf(a), leafOf(b))) {
 		t.Error(p, e)
 	}
-	p, _ = Prove([]api.Pair{a, c}, "b")
+	p, _ = merkle.Prove([]api.Pair{a, c}, "b")
 	if p.N != 2 || len(p.Leaves) != 2 || p.Leaves[0].At != 0 || p.Leaves[1].At != 1 {
 		t.Error(p)
 	}
-	p, _ = Prove([]api.Pair{a, c}, "0")
+	p, _ = merkle.Prove([]api.Pair{a, c}, "0")
 	if len(p.Leaves) != 1 || p.Leaves[0].At != 0 {
 		t.Error(p)
 	}
-	p, _ = Prove([]api.Pair{a, c}, "d")
+	p, _ = merkle.Prove([]api.Pair{a, c}, "d")
 	if len(p.Leaves) != 1 || p.Leaves[0].At != 1 {
 		t.Error(p)
 	}
-	p, e = Prove(nil, "d")
+	p, e = merkle.Prove(nil, "d")
 	if p.N != 0 || len(p.Leaves) != 0 || e != api.OK {
 		t.Error(p, e)
 	}
@@ -111,12 +112,12 @@ func TestRootExamples(t *testing.T) {
 func TestRootsWaysAndProofsOfAllSizes(t *testing.T) {
 	for size := range 36 {
 		l := some(size)
-		r, e := Root(l)
+		r, e := merkle.Root(l)
 		if e != api.OK || !bytes.Equal(r, root(l)) {
 			t.Fatal("Root", size, e)
 		}
 		for i, p := range l {
-			proof, e := Prove(l, p.Key)
+			proof, e := merkle.Prove(l, p.Key)
 			if e != api.OK || proof.N != size || len(proof.Leaves) != 1 || proof.Leaves[0].At != i || proof.Leaves[0].Key != p.Key || !bytes.Equal(proof.Leaves[0].Value, p.Value) {
 				t.Fatal(size, i, proof, e)
 			}
@@ -129,7 +130,7 @@ func TestRootsWaysAndProofsOfAllSizes(t *testing.T) {
 					t.Fatal("way", size, i, j)
 				}
 			}
-			if !Verify(r, p.Key, p.Value, proof) || Absent(r, p.Key, proof) {
+			if !merkle.Verify(r, p.Key, p.Value, proof) || merkle.Absent(r, p.Key, proof) {
 				t.Error("Verify", size, i)
 			}
 		}
@@ -138,8 +139,8 @@ func TestRootsWaysAndProofsOfAllSizes(t *testing.T) {
 			if i == 0 {
 				key = "j"
 			}
-			proof, e := Prove(l, key)
-			if e != api.OK || !Absent(r, key, proof) || proof.N != size {
+			proof, e := merkle.Prove(l, key)
+			if e != api.OK || !merkle.Absent(r, key, proof) || proof.N != size {
 				t.Error("Absent", size, i, e)
 			}
 			var at []int
@@ -154,7 +155,7 @@ func TestRootsWaysAndProofsOfAllSizes(t *testing.T) {
 			default:
 				t.Error("neighbours", size, i, at)
 			}
-			if Verify(r, key, nil, proof) {
+			if merkle.Verify(r, key, nil, proof) {
 				t.Error("Verify of what isn't there", size, i)
 			}
 		}
@@ -171,8 +172,8 @@ func TestPairsOutOfOrder(t *testing.T) {
 		if i >= len(right) {
 			want = api.ErrKey
 		}
-		r, e := Root(l)
-		p, e2 := Prove(l, "q")
+		r, e := merkle.Root(l)
+		p, e2 := merkle.Prove(l, "q")
 		if e != want || e2 != want || (want == api.OK) != (len(r) == 32) {
 			t.Error(i, r, e, e2)
 		}
@@ -181,11 +182,11 @@ func TestPairsOutOfOrder(t *testing.T) {
 		}
 	}
 	for _, key := range []string{"", long + "k"} {
-		if p, e := Prove(some(3), key); e != api.ErrKey || p.N != 0 || len(p.Leaves) != 0 {
+		if p, e := merkle.Prove(some(3), key); e != api.ErrKey || p.N != 0 || len(p.Leaves) != 0 {
 			t.Error(key, e)
 		}
 	}
-	if _, e := Prove(some(3), long); e != api.OK {
+	if _, e := merkle.Prove(some(3), long); e != api.OK {
 		t.Error(e)
 	}
 }
@@ -195,12 +196,12 @@ func TestManyPairs(t *testing.T) {
 	for i := range l {
 		l[i].Key = string([]byte{byte(i >> 16), byte(i >> 8), byte(i)})
 	}
-	if _, e := Root(l); e != api.ErrKey {
+	if _, e := merkle.Root(l); e != api.ErrKey {
 		t.Error("65537 pairs", e)
 	}
-	r, e := Root(l[:api.MaxLeaves])
-	p, e2 := Prove(l[:api.MaxLeaves], l[77].Key)
-	if e != api.OK || e2 != api.OK || len(p.Leaves[0].Path) != 16 || !Verify(r, l[77].Key, nil, p) {
+	r, e := merkle.Root(l[:api.MaxLeaves])
+	p, e2 := merkle.Prove(l[:api.MaxLeaves], l[77].Key)
+	if e != api.OK || e2 != api.OK || len(p.Leaves[0].Path) != 16 || !merkle.Verify(r, l[77].Key, nil, p) {
 		t.Error("65536 pairs", e, e2)
 	}
 }
@@ -221,8 +222,8 @@ func clone(p api.Proof) api.Proof {
 
 func TestVerifyRefuses(t *testing.T) {
 	l := some(7)
-	r, _ := Root(l)
-	good, _ := Prove(l, l[6].Key)
+	r, _ := merkle.Root(l)
+	good, _ := merkle.Prove(l, l[6].Key)
 	key, value := l[6].Key, l[6].Value
 	bad := map[string]func(p *api.Proof){
 		"N more":       func(p *api.Proof) { p.N++ },
@@ -246,14 +247,14 @@ func TestVerifyRefuses(t *testing.T) {
 	for what, spoil := range bad {
 		p := clone(good)
 		spoil(&p)
-		if Verify(r, key, value, p) {
+		if merkle.Verify(r, key, value, p) {
 			t.Error(what)
 		}
 	}
-	if !Verify(r, key, value, clone(good)) {
+	if !merkle.Verify(r, key, value, clone(good)) {
 		t.Error("the proof itself")
 	}
-	if Verify(r, l[5].Key, value, good) || Verify(r, key, nil, good) || Verify(r[:31], key, value, good) || Verify(nil, key, value, good) || Verify(append(bytes.Clone(r), 0), key, value, good) {
+	if merkle.Verify(r, l[5].Key, value, good) || merkle.Verify(r, key, nil, good) || merkle.Verify(r[:31], key, value, good) || merkle.Verify(nil, key, value, good) || merkle.Verify(append(bytes.Clone(r), 0), key, value, good) {
 		t.Error("another key, value or root")
 	}
 }
@@ -266,27 +267,27 @@ func TestLeavesOutsideTheLimits(t *testing.T) {
 	long := strings.Repeat("k", api.MaxKey+1)
 	for i, p := range []api.Pair{{Key: ""}, {Key: long}} {
 		r, proof := one(p)
-		if Verify(r, p.Key, p.Value, proof) || Absent(r, "zz", proof) || Absent(r, "0", proof) {
+		if merkle.Verify(r, p.Key, p.Value, proof) || merkle.Absent(r, "zz", proof) || merkle.Absent(r, "0", proof) {
 			t.Error(i)
 		}
 	}
 	r, proof := one(api.Pair{Key: "a", Value: make([]byte, api.MaxField)})
 	proof.Leaves[0].Value = make([]byte, api.MaxField+1) // H cuts it to the same hash
-	if Verify(r, "a", proof.Leaves[0].Value, proof) || Absent(r, "b", proof) {
+	if merkle.Verify(r, "a", proof.Leaves[0].Value, proof) || merkle.Absent(r, "b", proof) {
 		t.Error("a value that is too long")
 	}
 }
 
 func TestAbsentRefuses(t *testing.T) {
 	l := some(6)
-	r, _ := Root(l)
+	r, _ := merkle.Root(l)
 	key := "k1005" // between 2 and 3
-	good, _ := Prove(l, key)
-	if !Absent(r, key, good) {
+	good, _ := merkle.Prove(l, key)
+	if !merkle.Absent(r, key, good) {
 		t.Fatal("the proof itself")
 	}
 	leaf := func(i int) api.Leaf {
-		p, _ := Prove(l, l[i].Key)
+		p, _ := merkle.Prove(l, l[i].Key)
 		return p.Leaves[0]
 	}
 	of := func(at ...int) api.Proof {
@@ -297,7 +298,7 @@ func TestAbsentRefuses(t *testing.T) {
 		return p
 	}
 	for i, p := range []api.Proof{of(), of(2), of(3), of(3, 2), of(1, 3), of(2, 4), of(1, 2), of(3, 4), of(0), of(5), of(2, 3, 4), of(2, 2), {}, {N: 6}} {
-		if Absent(r, key, p) {
+		if merkle.Absent(r, key, p) {
 			t.Error(i)
 		}
 	}
@@ -311,38 +312,38 @@ func TestAbsentRefuses(t *testing.T) {
 		{"", of(0), false}, {strings.Repeat("z", 201), of(5), false}, {strings.Repeat("z", 200), of(5), true},
 	}
 	for i, c := range edges {
-		if Absent(r, c.key, c.p) != c.want {
+		if merkle.Absent(r, c.key, c.p) != c.want {
 			t.Error("edge", i)
 		}
 	}
-	none, _ := Root(nil)
-	if !Absent(none, "a", api.Proof{}) || Absent(none, "", api.Proof{}) || Absent(none, "a", api.Proof{N: 1}) || Absent(r, "a", api.Proof{}) || Absent(nil, "a", api.Proof{}) || Absent(none, "a", api.Proof{Leaves: []api.Leaf{{}}}) || Absent(none, strings.Repeat("a", 201), api.Proof{}) {
+	none, _ := merkle.Root(nil)
+	if !merkle.Absent(none, "a", api.Proof{}) || merkle.Absent(none, "", api.Proof{}) || merkle.Absent(none, "a", api.Proof{N: 1}) || merkle.Absent(r, "a", api.Proof{}) || merkle.Absent(nil, "a", api.Proof{}) || merkle.Absent(none, "a", api.Proof{Leaves: []api.Leaf{{}}}) || merkle.Absent(none, strings.Repeat("a", 201), api.Proof{}) {
 		t.Error("no pairs")
 	}
 	spoilt := clone(good)
 	spoilt.Leaves[1].Path[0][0] ^= 1
-	if Absent(r, key, spoilt) {
+	if merkle.Absent(r, key, spoilt) {
 		t.Error("the second leaf doesn't hold")
 	}
 	spoilt = clone(good)
 	spoilt.Leaves[0].Value = nil
-	if Absent(r, key, spoilt) {
+	if merkle.Absent(r, key, spoilt) {
 		t.Error("the first leaf doesn't hold")
 	}
 	spoilt = clone(good)
 	spoilt.N = 5
-	if Absent(r, key, spoilt) {
+	if merkle.Absent(r, key, spoilt) {
 		t.Error("another N")
 	}
 	wild := api.Proof{N: 6, Leaves: []api.Leaf{{At: 1<<63 - 1}, {At: -1 << 63}}}
-	if Absent(r, key, wild) {
+	if merkle.Absent(r, key, wild) {
 		t.Error("places that wrap round")
 	}
 }
 
 func TestProofsAreNewMemory(t *testing.T) {
 	l := some(8)
-	p, _ := Prove(l, "k1005")
+	p, _ := merkle.Prove(l, "k1005")
 	q := clone(p)
 	p.Leaves[0].Value[0] = 'x'
 	for i := range p.Leaves[0].Path {

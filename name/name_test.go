@@ -1,4 +1,4 @@
-package name
+package name_test
 
 import (
 	"regexp"
@@ -6,6 +6,7 @@ import (
 	"testing"
 
 	"isthmus/api"
+	"isthmus/name"
 )
 
 const long = "abcdefghijklmnopqrstuvwxyz-01234" // 32 bytes
@@ -15,18 +16,18 @@ var denom = regexp.MustCompile(`^(transfer/[a-z][a-z0-9.-]{0,31}/)*[a-z][a-z0-9.
 
 func TestIdent(t *testing.T) {
 	for _, s := range []string{"chan-0", "a.b", "a", "z9-.", long, "transfer"} {
-		if !Ident(s) {
+		if !name.Ident(s) {
 			t.Error(s)
 		}
 	}
 	for _, s := range []string{"", "0a", "A", "aB", "-a", ".a", "a/b", "a b", "a_b", "a\x00", "\u00e4", "a\u00e4", long + "x", strings.Repeat("a", 33), "a\n", "`", "{", "a{", "a:", "a`", "a,", "a@", "a[", "a;"} {
-		if Ident(s) {
+		if name.Ident(s) {
 			t.Errorf("%q", s)
 		}
 	}
 	for c := range 256 {
 		for _, s := range []string{string([]byte{byte(c)}), string([]byte{'a', byte(c)})} {
-			if Ident(s) != ident.MatchString(s) {
+			if name.Ident(s) != ident.MatchString(s) {
 				t.Errorf("%q", s)
 			}
 		}
@@ -42,10 +43,10 @@ func TestDenomHopBaseHops(t *testing.T) {
 	wrong := []string{"", "transfer/chan-0", "x/chan-0/atom", "transfer//atom", "atom/", "/atom", "transfer/", "transfer/chan-0/", "transfer/chan-0//atom", "transfer/Chan/atom", "transfer/chan-0/Atom", "Transfer/chan-0/atom", "transfer/chan-0/x/y", above, "transfer/" + long + "x/atom", "transfer/chan-0/" + long + "x", "transfers/chan-0/atom", "transfer/chan-0/atom/", "transfer/transfer", strings.Repeat("transfer/a/", 1000) + "a", "atom\n"}
 	for i, s := range append(right, wrong...) {
 		is := i < len(right)
-		if Denom(s) != is || is != (denom.MatchString(s) && len(s) <= 160) {
-			t.Errorf("Denom %q: %v", s, Denom(s))
+		if name.Denom(s) != is || is != (denom.MatchString(s) && len(s) <= 160) {
+			t.Errorf("Denom %q: %v", s, name.Denom(s))
 		}
-		hop, rest, ok := Hop(s)
+		hop, rest, ok := name.Hop(s)
 		if ok != (is && strings.Contains(s, "/")) || !ok && hop+rest != "" {
 			t.Errorf("Hop %q: %q %q %v", s, hop, rest, ok)
 		}
@@ -56,21 +57,21 @@ func TestDenomHopBaseHops(t *testing.T) {
 		if is {
 			wantHops, wantBase = strings.Count(s, "/")/2, s[strings.LastIndex(s, "/")+1:]
 		}
-		if Hops(s) != wantHops || Base(s) != wantBase {
-			t.Errorf("%q: %d %q", s, Hops(s), Base(s))
+		if name.Hops(s) != wantHops || name.Base(s) != wantBase {
+			t.Errorf("%q: %d %q", s, name.Hops(s), name.Base(s))
 		}
 	}
-	if hop, rest, ok := Hop(two); hop != "chan-0" || rest != "transfer/chan-1/atom" || !ok || Base(two) != "atom" || Hops(two) != 2 {
+	if hop, rest, ok := name.Hop(two); hop != "chan-0" || rest != "transfer/chan-1/atom" || !ok || name.Base(two) != "atom" || name.Hops(two) != 2 {
 		t.Error(hop, rest, ok)
 	}
 }
 
 func TestOver(t *testing.T) {
-	if s, e := Over("chan-2", "atom"); s != "transfer/chan-2/atom" || e != api.OK {
+	if s, e := name.Over("chan-2", "atom"); s != "transfer/chan-2/atom" || e != api.OK {
 		t.Error(s, e)
 	}
 	ten := strings.Repeat("transfer/a/", 11) + strings.Repeat("t", 28) // 149: with transfer/a/ it is 160
-	if s, e := Over("a", ten); s != "transfer/a/"+ten || e != api.OK || !Denom(s) {
+	if s, e := name.Over("a", ten); s != "transfer/a/"+ten || e != api.OK || !name.Denom(s) {
 		t.Error(s, e)
 	}
 	cases := []struct {
@@ -82,7 +83,7 @@ func TestOver(t *testing.T) {
 		{"a", "", api.ErrDenom}, {"a", "x/y", api.ErrDenom}, {"a", "transfer/b", api.ErrDenom}, {"a", ten + "t", api.ErrDenom}, {"ab", ten, api.ErrDenom},
 	}
 	for _, c := range cases {
-		if s, e := Over(c.hop, c.s); s != "" || e != c.want {
+		if s, e := name.Over(c.hop, c.s); s != "" || e != c.want {
 			t.Errorf("%q %q: %q %v", c.hop, c.s, s, e)
 		}
 	}
@@ -91,9 +92,9 @@ func TestOver(t *testing.T) {
 func TestHopOfOver(t *testing.T) {
 	for _, hop := range []string{"a", "chan-0", "transfer", long} {
 		for _, s := range []string{"atom", "transfer", "transfer/chan-0/atom", "transfer/transfer/transfer"} {
-			over, e := Over(hop, s)
-			h, rest, ok := Hop(over)
-			if e != api.OK || h != hop || rest != s || !ok || Hops(over) != Hops(s)+1 || Base(over) != Base(s) {
+			over, e := name.Over(hop, s)
+			h, rest, ok := name.Hop(over)
+			if e != api.OK || h != hop || rest != s || !ok || name.Hops(over) != name.Hops(s)+1 || name.Base(over) != name.Base(s) {
 				t.Error(hop, s, over, e)
 			}
 		}

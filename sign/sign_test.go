@@ -1,4 +1,4 @@
-package sign
+package sign_test
 
 import (
 	"bytes"
@@ -8,6 +8,7 @@ import (
 	"testing"
 
 	"isthmus/api"
+	"isthmus/sign"
 )
 
 // h: the chapter's H, written a second time, out of the library's SHA-256.
@@ -63,7 +64,7 @@ func TestRootAndSignAsTheChapterSays(t *testing.T) {
 	for _, seed := range [][]byte{nil, []byte("ann"), bytes.Repeat([]byte{1}, 70000)} {
 		all := model(seed)
 		leaves, pairs, halves, root := modelTree(all)
-		if got := Root(seed); !bytes.Equal(got, root) {
+		if got := sign.Root(seed); !bytes.Equal(got, root) {
 			t.Fatal("Root", got)
 		}
 		for k := range 8 {
@@ -83,11 +84,11 @@ func TestRootAndSignAsTheChapterSays(t *testing.T) {
 			want = append(want, leaves[k^1]...)
 			want = append(want, pairs[k/2^1]...)
 			want = append(want, halves[k/4^1]...)
-			got, e := Sign(seed, k, msg)
+			got, e := sign.Sign(seed, k, msg)
 			if e != api.OK || !bytes.Equal(got, want) || len(got) != 672 {
 				t.Error("Sign", k, e)
 			}
-			if !Verify(root, k, msg, got) {
+			if !sign.Verify(root, k, msg, got) {
 				t.Error("Verify", k)
 			}
 		}
@@ -96,7 +97,7 @@ func TestRootAndSignAsTheChapterSays(t *testing.T) {
 
 func TestSignRefuses(t *testing.T) {
 	for _, k := range []int{-1, 8, 9, 1 << 40, -1 << 63} {
-		if sig, e := Sign([]byte("s"), k, nil); len(sig) != 0 || e != api.ErrKeys {
+		if sig, e := sign.Sign([]byte("s"), k, nil); len(sig) != 0 || e != api.ErrKeys {
 			t.Error(k, e)
 		}
 	}
@@ -104,32 +105,32 @@ func TestSignRefuses(t *testing.T) {
 
 func TestVerifyRefuses(t *testing.T) {
 	seed, msg := []byte("seed"), []byte("message")
-	root := Root(seed)
-	sig, _ := Sign(seed, 5, msg)
-	if !Verify(root, 5, msg, sig) {
+	root := sign.Root(seed)
+	sig, _ := sign.Sign(seed, 5, msg)
+	if !sign.Verify(root, 5, msg, sig) {
 		t.Fatal("a signature that holds")
 	}
 	for k := -1; k < 10; k++ {
-		if k != 5 && Verify(root, k, msg, sig) {
+		if k != 5 && sign.Verify(root, k, msg, sig) {
 			t.Error("another key", k)
 		}
 	}
-	if Verify(root, 5+256, msg, sig) || Verify(root, -3, msg, sig) {
+	if sign.Verify(root, 5+256, msg, sig) || sign.Verify(root, -3, msg, sig) {
 		t.Error("a key with the same low bits")
 	}
-	if Verify(root, 5, []byte("messagf"), sig) || Verify(root, 5, nil, sig) {
+	if sign.Verify(root, 5, []byte("messagf"), sig) || sign.Verify(root, 5, nil, sig) {
 		t.Error("another message")
 	}
-	if Verify(Root([]byte("seee")), 5, msg, sig) || Verify(nil, 5, msg, sig) || Verify(root[:31], 5, msg, sig) || Verify(append(bytes.Clone(root), 0), 5, msg, sig) {
+	if sign.Verify(sign.Root([]byte("seee")), 5, msg, sig) || sign.Verify(nil, 5, msg, sig) || sign.Verify(root[:31], 5, msg, sig) || sign.Verify(append(bytes.Clone(root), 0), 5, msg, sig) {
 		t.Error("another root")
 	}
-	if Verify(root, 5, msg, nil) || Verify(root, 5, msg, sig[:671]) || Verify(root, 5, msg, append(bytes.Clone(sig), 0)) {
+	if sign.Verify(root, 5, msg, nil) || sign.Verify(root, 5, msg, sig[:671]) || sign.Verify(root, 5, msg, append(bytes.Clone(sig), 0)) {
 		t.Error("another length")
 	}
 	for i := 0; i < len(sig); i += 13 {
 		bad := bytes.Clone(sig)
 		bad[i] ^= 1
-		if Verify(root, 5, msg, bad) {
+		if sign.Verify(root, 5, msg, bad) {
 			t.Error("another byte", i)
 		}
 	}
@@ -138,36 +139,36 @@ func TestVerifyRefuses(t *testing.T) {
 func TestLongMessagesCountWithTheirFirstBytes(t *testing.T) {
 	seed := []byte("seed")
 	long := bytes.Repeat([]byte{3}, api.MaxField+2)
-	a, _ := Sign(seed, 0, long)
-	b, _ := Sign(seed, 0, long[:api.MaxField])
-	if !bytes.Equal(a, b) || !Verify(Root(seed), 0, long, b) {
+	a, _ := sign.Sign(seed, 0, long)
+	b, _ := sign.Sign(seed, 0, long[:api.MaxField])
+	if !bytes.Equal(a, b) || !sign.Verify(sign.Root(seed), 0, long, b) {
 		t.Error("a long message")
 	}
-	if c, _ := Sign(seed, 0, long[:api.MaxField-1]); bytes.Equal(a, c) {
+	if c, _ := sign.Sign(seed, 0, long[:api.MaxField-1]); bytes.Equal(a, c) {
 		t.Error("a shorter one")
 	}
-	if !bytes.Equal(Root(long), Root(long[:api.MaxField])) {
+	if !bytes.Equal(sign.Root(long), sign.Root(long[:api.MaxField])) {
 		t.Error("a long seed")
 	}
 }
 
 func TestWhatIsHandedInStays(t *testing.T) {
 	seed, msg := bytes.Repeat([]byte{1}, 64), bytes.Repeat([]byte{2}, 64)
-	sig, _ := Sign(seed[:9], 3, msg[:9])
+	sig, _ := sign.Sign(seed[:9], 3, msg[:9])
 	kept := bytes.Clone(sig)
-	root := Root(seed[:9])
-	Verify(root[:32:32], 3, msg[:9], sig)
+	root := sign.Root(seed[:9])
+	sign.Verify(root[:32:32], 3, msg[:9], sig)
 	if !bytes.Equal(seed, bytes.Repeat([]byte{1}, 64)) || !bytes.Equal(msg, bytes.Repeat([]byte{2}, 64)) || !bytes.Equal(sig, kept) {
 		t.Error("changed")
 	}
 	root[0]++
-	if bytes.Equal(Root(seed[:9]), root) {
+	if bytes.Equal(sign.Root(seed[:9]), root) {
 		t.Error("the root is shared")
 	}
 }
 
 func BenchmarkSign(b *testing.B) {
 	for range b.N {
-		Sign([]byte("seed"), 1, nil)
+		sign.Sign([]byte("seed"), 1, nil)
 	}
 }

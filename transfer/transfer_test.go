@@ -1,4 +1,4 @@
-package transfer
+package transfer_test
 
 import (
 	"bytes"
@@ -16,6 +16,7 @@ import (
 	"isthmus/name"
 	"isthmus/packet"
 	"isthmus/store"
+	"isthmus/transfer"
 	"isthmus/wire"
 )
 
@@ -53,70 +54,70 @@ func refused(t *testing.T, s *store.Store, e api.Errno, do func() api.Errno) {
 }
 
 func TestBytesAndParse(t *testing.T) {
-	d := Data{"transfer/chan-0/atom", "ann", "bob", of(258)}
+	d := transfer.Data{"transfer/chan-0/atom", "ann", "bob", of(258)}
 	form := wire.B(wire.T(wire.T(wire.T(nil, d.Denom), "ann"), "bob"), limb.Bytes(of(258)))
-	if !bytes.Equal(Bytes(d), form) {
-		t.Error(Bytes(d))
+	if !bytes.Equal(transfer.Bytes(d), form) {
+		t.Error(transfer.Bytes(d))
 	}
-	if got, e := Parse(form); got != d || e != api.OK {
+	if got, e := transfer.Parse(form); got != d || e != api.OK {
 		t.Error(got, e)
 	}
 	bad := [][]byte{nil, form[:len(form)-1], append(bytes.Clone(form), 0),
 		wire.B(wire.T(wire.T(wire.T(nil, "atom"), "ann"), "bob"), make([]byte, 31)),
 		wire.B(wire.T(wire.T(wire.T(nil, "atom"), "ann"), "bob"), append(make([]byte, 32), 1)),
-		Bytes(Data{"atom", "ann", "bob", api.U{}}), Bytes(Data{"a/b", "ann", "bob", of(1)}), Bytes(Data{"", "ann", "bob", of(1)}),
-		Bytes(Data{"atom", "Ann", "bob", of(1)}), Bytes(Data{"atom", "ann", "", of(1)}), Bytes(Data{"atom", "", "bob", of(1)}), Bytes(Data{"atom", "ann", "b/c", of(1)})}
+		transfer.Bytes(transfer.Data{"atom", "ann", "bob", api.U{}}), transfer.Bytes(transfer.Data{"a/b", "ann", "bob", of(1)}), transfer.Bytes(transfer.Data{"", "ann", "bob", of(1)}),
+		transfer.Bytes(transfer.Data{"atom", "Ann", "bob", of(1)}), transfer.Bytes(transfer.Data{"atom", "ann", "", of(1)}), transfer.Bytes(transfer.Data{"atom", "", "bob", of(1)}), transfer.Bytes(transfer.Data{"atom", "ann", "b/c", of(1)})}
 	for i, b := range bad {
-		if got, e := Parse(b); got != (Data{}) || e != api.ErrData {
+		if got, e := transfer.Parse(b); got != (transfer.Data{}) || e != api.ErrData {
 			t.Error(i, got, e)
 		}
 		s := ready()
 		p := api.Packet{Src: "chan-7", Dst: "chan-0", Data: b}
-		refused(t, s, api.ErrData, func() api.Errno { return Receive(s, p, 1) })
-		refused(t, s, api.ErrData, func() api.Errno { return Refund(s, p) })
+		refused(t, s, api.ErrData, func() api.Errno { return transfer.Receive(s, p, 1) })
+		refused(t, s, api.ErrData, func() api.Errno { return transfer.Refund(s, p) })
 	}
 }
 
 func TestLimits(t *testing.T) {
 	s := ready()
-	l := Limit{of(10), 5, 6, of(7)}
-	SetLimit(s, "chan-0", "atom", l)
+	l := transfer.Limit{of(10), 5, 6, of(7)}
+	transfer.SetLimit(s, "chan-0", "atom", l)
 	form := wire.B(wire.N(wire.N(wire.B(nil, limb.Bytes(of(10))), 5), 6), limb.Bytes(of(7)))
 	if b, _ := s.Get("limit/chan-0/atom"); !bytes.Equal(b, form) {
 		t.Error(b)
 	}
-	if got, ok := GetLimit(s, "chan-0", "atom"); !ok || got != l {
+	if got, ok := transfer.GetLimit(s, "chan-0", "atom"); !ok || got != l {
 		t.Error(got, ok)
 	}
 	short := wire.B(wire.N(wire.N(wire.B(nil, make([]byte, 31)), 5), 6), limb.Bytes(of(7)))
 	shortUsed := wire.B(wire.N(wire.N(wire.B(nil, limb.Bytes(of(1))), 5), 6), make([]byte, 33))
 	for i, b := range [][]byte{nil, form[1:], form[:len(form)-1], append(bytes.Clone(form), 0), short, shortUsed} {
 		s.Set("limit/chan-0/atom", b)
-		if got, ok := GetLimit(s, "chan-0", "atom"); ok || got != (Limit{}) {
+		if got, ok := transfer.GetLimit(s, "chan-0", "atom"); ok || got != (transfer.Limit{}) {
 			t.Error(i, got)
 		}
 	}
-	if _, ok := GetLimit(s, "chan-1", "atom"); ok {
+	if _, ok := transfer.GetLimit(s, "chan-1", "atom"); ok {
 		t.Error("a limit that there isn't")
 	}
 	before := s.Root()
-	SetLimit(s, strings.Repeat("x", 200), "atom", l)
+	transfer.SetLimit(s, strings.Repeat("x", 200), "atom", l)
 	if !bytes.Equal(before, s.Root()) {
 		t.Error("a key that is too long")
 	}
-	if _, ok := GetLimit(s, strings.Repeat("x", 200), "atom"); ok {
+	if _, ok := transfer.GetLimit(s, strings.Repeat("x", 200), "atom"); ok {
 		t.Error("a key that is too long")
 	}
 }
 
 func TestSendHolds(t *testing.T) {
 	s := ready()
-	p, e := Send(s, "chan-0", "ann", "atom", of(5), "bob", 9, 90)
-	data := Bytes(Data{"atom", "ann", "bob", of(5)})
+	p, e := transfer.Send(s, "chan-0", "ann", "atom", of(5), "bob", 9, 90)
+	data := transfer.Bytes(transfer.Data{"atom", "ann", "bob", of(5)})
 	if e != api.OK || !reflect.DeepEqual(p, api.Packet{Src: "chan-0", Dst: "chan-7", Seq: 1, Data: data, Height: 9, Time: 90}) {
 		t.Error(p, e)
 	}
-	if Escrow("chan-0") != "escrow.chan-0" || bank.Bal(s, "escrow.chan-0", "atom") != of(5) || bank.Bal(s, "ann", "atom") != of(45) || bank.Supply(s, "atom") != of(50) {
+	if transfer.Escrow("chan-0") != "escrow.chan-0" || bank.Bal(s, "escrow.chan-0", "atom") != of(5) || bank.Bal(s, "ann", "atom") != of(45) || bank.Supply(s, "atom") != of(50) {
 		t.Error("what is held")
 	}
 	if b, _ := s.Get(packet.Commit("chan-0", 1)); !bytes.Equal(b, packet.Hash(p)) {
@@ -124,11 +125,11 @@ func TestSendHolds(t *testing.T) {
 	}
 	// what came through another channel is held, too
 	bank.Mint(s, "ann", "transfer/chan-1/atom", of(3))
-	if _, e := Send(s, "chan-0", "ann", "transfer/chan-1/atom", of(3), "bob", 0, 0); e != api.OK || bank.Bal(s, "escrow.chan-0", "transfer/chan-1/atom") != of(3) {
+	if _, e := transfer.Send(s, "chan-0", "ann", "transfer/chan-1/atom", of(3), "bob", 0, 0); e != api.OK || bank.Bal(s, "escrow.chan-0", "transfer/chan-1/atom") != of(3) {
 		t.Error(e)
 	}
 	bank.Mint(s, "ann", "transfer/chan-1/transfer/chan-0/atom", of(3))
-	if _, e := Send(s, "chan-0", "ann", "transfer/chan-1/transfer/chan-0/atom", of(3), "bob", 0, 0); e != api.OK || bank.Supply(s, "transfer/chan-1/transfer/chan-0/atom") != of(3) {
+	if _, e := transfer.Send(s, "chan-0", "ann", "transfer/chan-1/transfer/chan-0/atom", of(3), "bob", 0, 0); e != api.OK || bank.Supply(s, "transfer/chan-1/transfer/chan-0/atom") != of(3) {
 		t.Error(e)
 	}
 }
@@ -137,13 +138,13 @@ func TestSendBurns(t *testing.T) {
 	s := ready()
 	voucher := "transfer/chan-0/transfer/chan-3/atom"
 	bank.Mint(s, "bob", voucher, of(5))
-	if p, e := Send(s, "chan-0", "bob", voucher, of(2), "ann", 0, 0); e != api.OK || !bytes.Equal(p.Data, Bytes(Data{voucher, "bob", "ann", of(2)})) {
+	if p, e := transfer.Send(s, "chan-0", "bob", voucher, of(2), "ann", 0, 0); e != api.OK || !bytes.Equal(p.Data, transfer.Bytes(transfer.Data{voucher, "bob", "ann", of(2)})) {
 		t.Error(p, e)
 	}
 	if bank.Supply(s, voucher) != of(3) || bank.Bal(s, "bob", voucher) != of(3) || bank.Bal(s, "escrow.chan-0", voucher) != (api.U{}) {
 		t.Error("what is burnt")
 	}
-	refused(t, s, api.ErrFunds, func() api.Errno { _, e := Send(s, "chan-0", "bob", voucher, of(4), "ann", 0, 0); return e })
+	refused(t, s, api.ErrFunds, func() api.Errno { _, e := transfer.Send(s, "chan-0", "bob", voucher, of(4), "ann", 0, 0); return e })
 }
 
 func TestSendRefuses(t *testing.T) {
@@ -172,7 +173,7 @@ func TestSendRefuses(t *testing.T) {
 	}
 	for i, c := range cases {
 		refused(t, s, c.want, func() api.Errno {
-			p, e := Send(s, c.id, c.from, c.denom, c.amt, c.to, c.height, 0)
+			p, e := transfer.Send(s, c.id, c.from, c.denom, c.amt, c.to, c.height, 0)
 			if !reflect.DeepEqual(p, api.Packet{}) {
 				t.Error(i, p)
 			}
@@ -182,14 +183,14 @@ func TestSendRefuses(t *testing.T) {
 }
 
 func in(denom string, amt api.U, to string) api.Packet {
-	return api.Packet{Src: "chan-7", Dst: "chan-0", Seq: 1, Data: Bytes(Data{denom, "zed", to, amt})}
+	return api.Packet{Src: "chan-7", Dst: "chan-0", Seq: 1, Data: transfer.Bytes(transfer.Data{denom, "zed", to, amt})}
 }
 
 func TestReceiveMints(t *testing.T) {
 	s := ready()
-	want(t, Receive(s, in("atom", of(5), "bob"), 1), api.OK)
-	want(t, Receive(s, in("transfer/chan-3/atom", of(6), "bob"), 1), api.OK)
-	want(t, Receive(s, in("transfer/chan-0/atom", of(7), "bob"), 1), api.OK) // the hop is the other chain's own
+	want(t, transfer.Receive(s, in("atom", of(5), "bob"), 1), api.OK)
+	want(t, transfer.Receive(s, in("transfer/chan-3/atom", of(6), "bob"), 1), api.OK)
+	want(t, transfer.Receive(s, in("transfer/chan-0/atom", of(7), "bob"), 1), api.OK) // the hop is the other chain's own
 	for denom, n := range map[string]uint64{"transfer/chan-0/atom": 5, "transfer/chan-0/transfer/chan-3/atom": 6, "transfer/chan-0/transfer/chan-0/atom": 7} {
 		if bank.Bal(s, "bob", denom) != of(n) || bank.Supply(s, denom) != of(n) {
 			t.Error(denom)
@@ -198,24 +199,26 @@ func TestReceiveMints(t *testing.T) {
 	if bank.Supply(s, "atom") != of(50) {
 		t.Error("atom")
 	}
-	refused(t, s, api.ErrOver, func() api.Errno { return Receive(s, in("atom", most, "cyd"), 1) })
+	refused(t, s, api.ErrOver, func() api.Errno { return transfer.Receive(s, in("atom", most, "cyd"), 1) })
 	long := strings.Repeat("transfer/a/", 12) + strings.Repeat("t", 28)
-	refused(t, s, api.ErrDenom, func() api.Errno { return Receive(s, in(long, of(1), "cyd"), 1) })
+	refused(t, s, api.ErrDenom, func() api.Errno { return transfer.Receive(s, in(long, of(1), "cyd"), 1) })
 	wild := in("atom", of(1), "cyd")
 	wild.Dst = "Chan"
-	refused(t, s, api.ErrName, func() api.Errno { return Receive(s, wild, 1) })
+	refused(t, s, api.ErrName, func() api.Errno { return transfer.Receive(s, wild, 1) })
 }
 
 func TestReceiveGivesBack(t *testing.T) {
 	s := ready()
 	bank.Send(s, "ann", "escrow.chan-0", "atom", of(5))
-	want(t, Receive(s, in("transfer/chan-7/atom", of(2), "cyd"), 1), api.OK)
+	want(t, transfer.Receive(s, in("transfer/chan-7/atom", of(2), "cyd"), 1), api.OK)
 	if bank.Bal(s, "cyd", "atom") != of(2) || bank.Bal(s, "escrow.chan-0", "atom") != of(3) || bank.Supply(s, "atom") != of(50) {
 		t.Error("what is given back")
 	}
-	refused(t, s, api.ErrFunds, func() api.Errno { return Receive(s, in("transfer/chan-7/atom", of(4), "cyd"), 1) })
-	refused(t, s, api.ErrFunds, func() api.Errno { return Receive(s, in("transfer/chan-7/transfer/chan-3/atom", of(1), "cyd"), 1) })
-	want(t, Receive(s, in("transfer/chan-7/atom", of(3), "escrow.chan-0"), 1), api.OK) // to the escrow itself: nothing moves
+	refused(t, s, api.ErrFunds, func() api.Errno { return transfer.Receive(s, in("transfer/chan-7/atom", of(4), "cyd"), 1) })
+	refused(t, s, api.ErrFunds, func() api.Errno {
+		return transfer.Receive(s, in("transfer/chan-7/transfer/chan-3/atom", of(1), "cyd"), 1)
+	})
+	want(t, transfer.Receive(s, in("transfer/chan-7/atom", of(3), "escrow.chan-0"), 1), api.OK) // to the escrow itself: nothing moves
 	if bank.Bal(s, "escrow.chan-0", "atom") != of(3) {
 		t.Error("escrow")
 	}
@@ -224,13 +227,13 @@ func TestReceiveGivesBack(t *testing.T) {
 func TestReceiveUnderLimits(t *testing.T) {
 	s := ready()
 	denom := "transfer/chan-0/atom"
-	SetLimit(s, "chan-0", denom, Limit{of(10), 5, 100, of(0)})
+	transfer.SetLimit(s, "chan-0", denom, transfer.Limit{of(10), 5, 100, of(0)})
 	recv := func(amt, self uint64) func() api.Errno {
-		return func() api.Errno { return Receive(s, in("atom", of(amt), "bob"), self) }
+		return func() api.Errno { return transfer.Receive(s, in("atom", of(amt), "bob"), self) }
 	}
 	used := func(start, n uint64) {
 		t.Helper()
-		if l, _ := GetLimit(s, "chan-0", denom); l != (Limit{of(10), 5, start, of(n)}) {
+		if l, _ := transfer.GetLimit(s, "chan-0", denom); l != (transfer.Limit{of(10), 5, start, of(n)}) {
 			t.Error(l)
 		}
 	}
@@ -250,26 +253,28 @@ func TestReceiveUnderLimits(t *testing.T) {
 	used(1<<64-1, 1)
 	// an error behind the limit leaves the limit as it was
 	bank.Mint(s, "rich", denom, api.U{1<<64 - 1 - 100, 1<<64 - 1, 1<<64 - 1, 1<<64 - 1})
-	SetLimit(s, "chan-0", denom, Limit{most, 5, 1, of(3)})
+	transfer.SetLimit(s, "chan-0", denom, transfer.Limit{most, 5, 1, of(3)})
 	refused(t, s, api.ErrOver, recv(200, 50))
-	SetLimit(s, "chan-0", denom, Limit{most, 5, 1, most})
+	transfer.SetLimit(s, "chan-0", denom, transfer.Limit{most, 5, 1, most})
 	refused(t, s, api.ErrQuota, recv(1, 2)) // 2^256
-	SetLimit(s, "chan-0", denom, Limit{of(10), 0, 7, of(10)})
+	transfer.SetLimit(s, "chan-0", denom, transfer.Limit{of(10), 0, 7, of(10)})
 	want(t, recv(10, 7)(), api.OK) // a window of nothing is new each time
 	want(t, recv(10, 7)(), api.OK)
-	SetLimit(s, "chan-0", denom, Limit{of(10), 5, 7, of(20)})
+	transfer.SetLimit(s, "chan-0", denom, transfer.Limit{of(10), 5, 7, of(20)})
 	refused(t, s, api.ErrQuota, recv(1, 8))
 	s.Set("limit/chan-0/"+denom, []byte{1})
 	want(t, recv(30, 8)(), api.OK) // another form is no limit
 	// what comes back has a limit by its name here
 	bank.Send(s, "ann", "escrow.chan-0", "atom", of(9))
-	SetLimit(s, "chan-0", "atom", Limit{of(3), 5, 7, of(0)})
-	refused(t, s, api.ErrQuota, func() api.Errno { return Receive(s, in("transfer/chan-7/atom", of(4), "cyd"), 8) })
-	want(t, Receive(s, in("transfer/chan-7/atom", of(3), "cyd"), 8), api.OK)
-	if l, _ := GetLimit(s, "chan-0", "atom"); l.Used != of(3) {
+	transfer.SetLimit(s, "chan-0", "atom", transfer.Limit{of(3), 5, 7, of(0)})
+	refused(t, s, api.ErrQuota, func() api.Errno { return transfer.Receive(s, in("transfer/chan-7/atom", of(4), "cyd"), 8) })
+	want(t, transfer.Receive(s, in("transfer/chan-7/atom", of(3), "cyd"), 8), api.OK)
+	if l, _ := transfer.GetLimit(s, "chan-0", "atom"); l.Used != of(3) {
 		t.Error(l)
 	}
-	refused(t, s, api.ErrFunds, func() api.Errno { return Receive(s, in("transfer/chan-7/transfer/chan-0/atom", of(1), "cyd"), 8) })
+	refused(t, s, api.ErrFunds, func() api.Errno {
+		return transfer.Receive(s, in("transfer/chan-7/transfer/chan-0/atom", of(1), "cyd"), 8)
+	})
 }
 
 func TestRefund(t *testing.T) {
@@ -278,9 +283,9 @@ func TestRefund(t *testing.T) {
 	bank.Mint(s, "zed", "atom", of(5))
 	root := s.Root()
 	for _, denom := range []string{"transfer/chan-0/atom", "atom"} {
-		p, e := Send(s, "chan-0", "zed", denom, of(4), "bob", 0, 0)
+		p, e := transfer.Send(s, "chan-0", "zed", denom, of(4), "bob", 0, 0)
 		want(t, e, api.OK)
-		want(t, Refund(s, p), api.OK)
+		want(t, transfer.Refund(s, p), api.OK)
 		s.Del(packet.Commit("chan-0", p.Seq))
 		s.Del(packet.Sent("chan-0", p.Seq))
 	}
@@ -288,12 +293,12 @@ func TestRefund(t *testing.T) {
 	if !bytes.Equal(root, s.Root()) {
 		t.Error("what went out didn't come back")
 	}
-	p := api.Packet{Src: "chan-0", Dst: "chan-7", Data: Bytes(Data{"atom", "ann", "bob", of(1)})}
-	refused(t, s, api.ErrFunds, func() api.Errno { return Refund(s, p) })
-	p.Data = Bytes(Data{"transfer/chan-0/atom", "ann", "bob", most})
-	refused(t, s, api.ErrOver, func() api.Errno { return Refund(s, p) })
-	p.Data = Bytes(Data{"transfer/chan-7/atom", "ann", "bob", of(1)})
-	refused(t, s, api.ErrFunds, func() api.Errno { return Refund(s, p) })
+	p := api.Packet{Src: "chan-0", Dst: "chan-7", Data: transfer.Bytes(transfer.Data{"atom", "ann", "bob", of(1)})}
+	refused(t, s, api.ErrFunds, func() api.Errno { return transfer.Refund(s, p) })
+	p.Data = transfer.Bytes(transfer.Data{"transfer/chan-0/atom", "ann", "bob", most})
+	refused(t, s, api.ErrOver, func() api.Errno { return transfer.Refund(s, p) })
+	p.Data = transfer.Bytes(transfer.Data{"transfer/chan-7/atom", "ann", "bob", of(1)})
+	refused(t, s, api.ErrFunds, func() api.Errno { return transfer.Refund(s, p) })
 }
 
 // Supplies without hops never change, and what is used of a limit is never above its quota.
@@ -301,19 +306,19 @@ func TestSuppliesStay(t *testing.T) {
 	r := rand.New(rand.NewSource(12))
 	s := ready()
 	bank.Mint(s, "bob", "fuel", of(9))
-	SetLimit(s, "chan-0", "transfer/chan-0/atom", Limit{of(10), 3, 0, of(0)})
-	SetLimit(s, "chan-0", "atom", Limit{of(6), 4, 0, of(0)})
+	transfer.SetLimit(s, "chan-0", "transfer/chan-0/atom", transfer.Limit{of(10), 3, 0, of(0)})
+	transfer.SetLimit(s, "chan-0", "atom", transfer.Limit{of(6), 4, 0, of(0)})
 	denoms := []string{"atom", "fuel", "transfer/chan-0/atom", "transfer/chan-7/atom", "transfer/chan-7/fuel", "transfer/chan-3/atom"}
 	who := []string{"ann", "bob", "cyd"}
 	for i := range 2000 {
 		d, n, a, b := denoms[r.Intn(6)], of(uint64(r.Intn(8))), who[r.Intn(3)], who[r.Intn(3)]
 		switch r.Intn(3) {
 		case 0:
-			Send(s, "chan-0", a, d, n, b, 0, 0)
+			transfer.Send(s, "chan-0", a, d, n, b, 0, 0)
 		case 1:
-			Receive(s, in(d, n, b), uint64(i/20))
+			transfer.Receive(s, in(d, n, b), uint64(i/20))
 		case 2:
-			Refund(s, api.Packet{Src: "chan-0", Dst: "chan-7", Data: Bytes(Data{d, a, b, n})})
+			transfer.Refund(s, api.Packet{Src: "chan-0", Dst: "chan-7", Data: transfer.Bytes(transfer.Data{d, a, b, n})})
 		}
 		for _, p := range s.Pairs("sup/") {
 			if d := p.Key[4:]; name.Hops(d) == 0 && bank.Supply(s, d) != map[string]api.U{"atom": of(50), "fuel": of(9)}[d] {
@@ -321,7 +326,7 @@ func TestSuppliesStay(t *testing.T) {
 			}
 		}
 		for _, d := range []string{"transfer/chan-0/atom", "atom"} {
-			if l, ok := GetLimit(s, "chan-0", d); !ok || limb.Cmp(l.Used, l.Quota) > 0 {
+			if l, ok := transfer.GetLimit(s, "chan-0", d); !ok || limb.Cmp(l.Used, l.Quota) > 0 {
 				t.Fatal(l)
 			}
 		}
@@ -329,9 +334,9 @@ func TestSuppliesStay(t *testing.T) {
 }
 
 func TestNilStoreEnds(t *testing.T) {
-	SetLimit(nil, "chan-0", "atom", Limit{})
-	GetLimit(nil, "chan-0", "atom")
-	Send(nil, "chan-0", "ann", "atom", of(1), "bob", 0, 0)
-	Receive(nil, in("atom", of(1), "bob"), 1)
-	Refund(nil, in("atom", of(1), "bob"))
+	transfer.SetLimit(nil, "chan-0", "atom", transfer.Limit{})
+	transfer.GetLimit(nil, "chan-0", "atom")
+	transfer.Send(nil, "chan-0", "ann", "atom", of(1), "bob", 0, 0)
+	transfer.Receive(nil, in("atom", of(1), "bob"), 1)
+	transfer.Refund(nil, in("atom", of(1), "bob"))
 }

@@ -1,4 +1,4 @@
-package tx
+package tx_test
 
 import (
 	"bytes"
@@ -10,6 +10,7 @@ import (
 
 	"isthmus/api"
 	"isthmus/limb"
+	"isthmus/tx"
 	"isthmus/wire"
 )
 
@@ -21,7 +22,7 @@ func fill(v reflect.Value, r *rand.Rand, size int) {
 		r.Read(b)
 		v.SetString(string(b))
 	case reflect.Int:
-		v.SetInt(r.Int63n(Most + 1))
+		v.SetInt(r.Int63n(tx.Most + 1))
 	case reflect.Uint64:
 		v.SetUint(r.Uint64())
 	case reflect.Bool:
@@ -46,6 +47,34 @@ func fill(v reflect.Value, r *rand.Rand, size int) {
 			fill(v.Field(i), r, size)
 		}
 	}
+}
+
+// alike: are two values the same, nil and empty lists being one?
+func alike(a, b any) bool {
+	return same(reflect.ValueOf(a), reflect.ValueOf(b))
+}
+
+func same(a, b reflect.Value) bool {
+	switch a.Kind() {
+	case reflect.Slice, reflect.Array:
+		if a.Len() != b.Len() {
+			return false
+		}
+		for i := range a.Len() {
+			if !same(a.Index(i), b.Index(i)) {
+				return false
+			}
+		}
+		return true
+	case reflect.Struct:
+		for i := range a.NumField() {
+			if !same(a.Field(i), b.Field(i)) {
+				return false
+			}
+		}
+		return true
+	}
+	return a.Equal(b)
 }
 
 func random(r *rand.Rand) api.Tx {
@@ -163,10 +192,10 @@ func encoded(t api.Tx) []byte {
 }
 
 func TestExample(t *testing.T) {
-	b, e := Encode(api.Tx{})
+	b, e := tx.Encode(api.Tx{})
 	want := make([]byte, 68)
 	want[23] = 0x20 // behind 4, 8 and 8 bytes the length of the amount
-	if e != api.OK || !bytes.Equal(b, want) || Cost(68, 0) != 1680 {
+	if e != api.OK || !bytes.Equal(b, want) || tx.Cost(68, 0) != 1680 {
 		t.Error(b, e)
 	}
 }
@@ -175,18 +204,18 @@ func TestEncodeAndDecode(t *testing.T) {
 	r := rand.New(rand.NewSource(8))
 	for range 300 {
 		x := random(r)
-		b, e := Encode(x)
+		b, e := tx.Encode(x)
 		if e != api.OK || !bytes.Equal(b, encoded(x)) {
 			t.Fatal("Encode", x, e)
 		}
-		y, e := Decode(b)
-		if e != api.OK || !reflect.DeepEqual(x, y) {
+		y, e := tx.Decode(b)
+		if e != api.OK || !alike(x, y) {
 			t.Fatal("Decode", x, y, e)
 		}
-		if c, e := Encode(y); e != api.OK || !bytes.Equal(b, c) {
+		if c, e := tx.Encode(y); e != api.OK || !bytes.Equal(b, c) {
 			t.Fatal("Encode of Decode", e)
 		}
-		if Fits(x) != api.OK {
+		if tx.Fits(x) != api.OK {
 			t.Fatal("Fits")
 		}
 	}
@@ -198,24 +227,24 @@ func TestDecodeOfSpoiltBytes(t *testing.T) {
 	r := rand.New(rand.NewSource(9))
 	for range 40 {
 		x := random(r)
-		b, _ := Encode(x)
+		b, _ := tx.Encode(x)
 		for i := range b {
-			if y, e := Decode(b[:i]); e != api.ErrShort || !reflect.DeepEqual(y, api.Tx{}) {
+			if y, e := tx.Decode(b[:i]); e != api.ErrShort || !alike(y, api.Tx{}) {
 				t.Fatal("a prefix", i, e)
 			}
 			bad := bytes.Clone(b)
 			bad[i] ^= byte(1 + r.Intn(255))
-			y, e := Decode(bad)
-			if e != api.OK && !reflect.DeepEqual(y, api.Tx{}) {
+			y, e := tx.Decode(bad)
+			if e != api.OK && !alike(y, api.Tx{}) {
 				t.Fatal("beside an error", e)
 			}
 			if e == api.OK {
-				if c, e := Encode(y); e != api.OK || !bytes.Equal(c, bad) {
+				if c, e := tx.Encode(y); e != api.OK || !bytes.Equal(c, bad) {
 					t.Fatal("other bytes", e)
 				}
 			}
 		}
-		if _, e := Decode(append(bytes.Clone(b), 0)); e != api.ErrTail {
+		if _, e := tx.Decode(append(bytes.Clone(b), 0)); e != api.ErrTail {
 			t.Fatal("a tail", e)
 		}
 	}
@@ -231,11 +260,11 @@ func TestFits(t *testing.T) {
 		m    api.Msg
 		want api.Errno
 	}{
-		{api.Msg{Kind: -1}, api.ErrArg}, {api.Msg{Kind: Most + 1}, api.ErrArg}, {api.Msg{Kind: Most}, api.OK},
-		{api.Msg{Proof: api.Proof{N: -1}}, api.ErrArg}, {api.Msg{Proof: api.Proof{N: Most + 1}}, api.ErrArg}, {api.Msg{Proof: api.Proof{N: Most}}, api.OK},
-		{leaf(api.Leaf{At: -1}), api.ErrArg}, {leaf(api.Leaf{At: Most + 1}), api.ErrArg}, {leaf(api.Leaf{At: Most}), api.OK},
+		{api.Msg{Kind: -1}, api.ErrArg}, {api.Msg{Kind: tx.Most + 1}, api.ErrArg}, {api.Msg{Kind: tx.Most}, api.OK},
+		{api.Msg{Proof: api.Proof{N: -1}}, api.ErrArg}, {api.Msg{Proof: api.Proof{N: tx.Most + 1}}, api.ErrArg}, {api.Msg{Proof: api.Proof{N: tx.Most}}, api.OK},
+		{leaf(api.Leaf{At: -1}), api.ErrArg}, {leaf(api.Leaf{At: tx.Most + 1}), api.ErrArg}, {leaf(api.Leaf{At: tx.Most}), api.OK},
 		{api.Msg{Proof: api.Proof{Leaves: []api.Leaf{{}, {}, {At: -1}}}}, api.ErrArg},
-		{api.Msg{At: 1<<64 - 1, Height: 1<<64 - 1, Next: 1<<64 - 1}, api.OK}, // numbers of 64 bits may be any
+		{api.Msg{Period: 1<<64 - 1, Height: 1<<64 - 1, Next: 1<<64 - 1}, api.OK}, // numbers of 64 bits may be any
 		{api.Msg{Vals: vals}, api.ErrLong}, {api.Msg{OtherVals: vals}, api.ErrLong}, {api.Msg{Trusted: vals}, api.ErrLong},
 		{api.Msg{Vals: vals[1:], OtherVals: vals[1:], Trusted: vals[1:], Votes: votes[1:], OtherVotes: votes[1:]}, api.OK},
 		{api.Msg{Votes: votes}, api.ErrLong}, {api.Msg{OtherVotes: votes}, api.ErrLong},
@@ -255,10 +284,10 @@ func TestFits(t *testing.T) {
 	}
 	for i, c := range cases {
 		x := api.Tx{Msgs: []api.Msg{{}, c.m}}
-		if e := Fits(x); e != c.want {
+		if e := tx.Fits(x); e != c.want {
 			t.Error(i, e)
 		}
-		b, e := Encode(x)
+		b, e := tx.Encode(x)
 		if e != c.want || (e != api.OK) != (len(b) == 0) {
 			t.Error(i, "Encode", e)
 		}
@@ -273,7 +302,7 @@ func TestFits(t *testing.T) {
 		{api.Tx{Signer: long, Msgs: []api.Msg{{To: long}, {Kind: -1}}}, api.ErrArg}, // numbers of all messages ahead of lengths
 	}
 	for i, c := range orders {
-		if e := Fits(c.x); e != c.want {
+		if e := tx.Fits(c.x); e != c.want {
 			t.Error("order", i, e)
 		}
 	}
@@ -284,17 +313,17 @@ func TestMessageOfTheGreatestLength(t *testing.T) {
 	base := len(messageBytes(api.Msg{}))
 	for more, want := range []api.Errno{api.OK, api.ErrLong} {
 		x := api.Tx{Msgs: []api.Msg{{Ack: make([]byte, api.MaxField-base+more)}}}
-		if Fits(x) != api.OK {
+		if tx.Fits(x) != api.OK {
 			t.Error("Fits")
 		}
-		b, e := Encode(x)
+		b, e := tx.Encode(x)
 		if e != want {
 			t.Error(more, e)
 		}
-		if y, e := Decode(b); want == api.OK && (e != api.OK || !reflect.DeepEqual(x, y)) {
+		if y, e := tx.Decode(b); want == api.OK && (e != api.OK || !alike(x, y)) {
 			t.Error("Decode", e)
 		}
-		if s, e := SignBytes("c", x); e != want || (len(s) == 0) != (e != api.OK) {
+		if s, e := tx.SignBytes("c", x); e != want || (len(s) == 0) != (e != api.OK) {
 			t.Error("SignBytes", e)
 		}
 	}
@@ -353,31 +382,31 @@ func TestDecodeFaults(t *testing.T) {
 		{"a byte behind the whole", append(one(good), 7), api.ErrTail},
 	}
 	for _, c := range cases {
-		x, e := Decode(c.b)
+		x, e := tx.Decode(c.b)
 		if c.what == "eight validators, but no bytes" {
 			if e == api.OK {
 				t.Error(c.what)
 			}
 			continue
 		}
-		if e != c.want || e != api.OK && !reflect.DeepEqual(x, zero) {
+		if e != c.want || e != api.OK && !alike(x, zero) {
 			t.Error(c.what, e)
 		}
 	}
 	// a leaf's own numbers
 	leaf := func(l api.Leaf) []byte { return one(messageBytes(api.Msg{Proof: api.Proof{Leaves: []api.Leaf{l}}})) }
-	if _, e := Decode(leaf(api.Leaf{At: Most + 1})); e != api.ErrLong {
+	if _, e := tx.Decode(leaf(api.Leaf{At: tx.Most + 1})); e != api.ErrLong {
 		t.Error("At", e)
 	}
-	if _, e := Decode(leaf(api.Leaf{Path: make([][]byte, 18)})); e != api.ErrLong {
+	if _, e := tx.Decode(leaf(api.Leaf{Path: make([][]byte, 18)})); e != api.ErrLong {
 		t.Error("Path", e)
 	}
-	if _, e := Decode(leaf(api.Leaf{At: Most, Path: make([][]byte, 17)})); e != api.OK {
+	if _, e := tx.Decode(leaf(api.Leaf{At: tx.Most, Path: make([][]byte, 17)})); e != api.OK {
 		t.Error("the greatest leaf", e)
 	}
 	// a fault of an amount stands ahead of one behind it
 	late := append(bytes.Clone(short), 1)
-	if _, e := Decode(one(late)); e != api.ErrForm {
+	if _, e := tx.Decode(one(late)); e != api.ErrForm {
 		t.Error("the first fault", e)
 	}
 }
@@ -389,28 +418,28 @@ func TestSignBytes(t *testing.T) {
 		plain := x
 		plain.Sig = nil
 		want := wire.B(wire.T(nil, "one"), encoded(plain))
-		got, e := SignBytes("one", x)
+		got, e := tx.SignBytes("one", x)
 		if e != api.OK || !bytes.Equal(got, want) {
 			t.Fatal(e)
 		}
 		x.Sig = append(x.Sig, 1, 2, 3)
-		if again, _ := SignBytes("one", x); !bytes.Equal(got, again) {
+		if again, _ := tx.SignBytes("one", x); !bytes.Equal(got, again) {
 			t.Fatal("the signature counts")
 		}
-		if other, _ := SignBytes("two", x); bytes.Equal(got, other) {
+		if other, _ := tx.SignBytes("two", x); bytes.Equal(got, other) {
 			t.Fatal("the chain doesn't count")
 		}
 		x.Seq++
-		if other, _ := SignBytes("one", x); bytes.Equal(got, other) {
+		if other, _ := tx.SignBytes("one", x); bytes.Equal(got, other) {
 			t.Fatal("the number doesn't count")
 		}
 	}
 	for want, x := range map[api.Errno]api.Tx{api.ErrMany: {Msgs: make([]api.Msg, 9)}, api.ErrArg: {Msgs: []api.Msg{{Kind: -1}}}, api.ErrLong: {Signer: strings.Repeat("x", 65536)}} {
-		if b, e := SignBytes("c", x); e != want || len(b) != 0 {
+		if b, e := tx.SignBytes("c", x); e != want || len(b) != 0 {
 			t.Error(e)
 		}
 	}
-	if _, e := SignBytes("c", api.Tx{Sig: make([]byte, 70000)}); e != api.OK {
+	if _, e := tx.SignBytes("c", api.Tx{Sig: make([]byte, 70000)}); e != api.OK {
 		t.Error("a signature that is too long doesn't count", e)
 	}
 }
@@ -421,7 +450,7 @@ func TestCost(t *testing.T) {
 		want       uint64
 	}{{0, 0, 1000}, {68, 0, 1680}, {1, 1, 1510}, {-5, -7, 1000}, {-1 << 63, 2, 2000}, {3, -1 << 63, 1030}, {1<<63 - 1, 0, 1000 - 10}, {0, 1<<63 - 1, 1000 - 500}}
 	for _, c := range cases {
-		if got := Cost(c.size, c.msgs); got != c.want {
+		if got := tx.Cost(c.size, c.msgs); got != c.want {
 			t.Error(c, got)
 		}
 	}
@@ -429,17 +458,17 @@ func TestCost(t *testing.T) {
 
 func TestMemoryIsNew(t *testing.T) {
 	x := api.Tx{Msgs: []api.Msg{{Ack: []byte{1, 2}, Packet: api.Packet{Data: []byte{3, 4}}}}, Sig: []byte{5, 6}}
-	b, _ := Encode(x)
+	b, _ := tx.Encode(x)
 	keep := bytes.Clone(b)
-	y, _ := Decode(b)
+	y, _ := tx.Decode(b)
 	clear(b)
-	z, _ := Decode(keep)
-	if !reflect.DeepEqual(y, x) || !reflect.DeepEqual(z, x) {
+	z, _ := tx.Decode(keep)
+	if !alike(y, x) || !alike(z, x) {
 		t.Error("the answer shares the bytes")
 	}
 	_ = append(y.Msgs[0].Ack, 9, 9, 9, 9, 9, 9, 9, 9)
 	_ = append(y.Msgs[0].Packet.Data, 9, 9, 9, 9, 9, 9, 9, 9)
-	if !reflect.DeepEqual(y, z) {
+	if !alike(y, z) {
 		t.Error("the answer's parts share memory")
 	}
 }

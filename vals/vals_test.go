@@ -1,4 +1,4 @@
-package vals
+package vals_test
 
 import (
 	"bytes"
@@ -9,6 +9,7 @@ import (
 	"testing"
 
 	"isthmus/api"
+	"isthmus/vals"
 )
 
 func set(powers ...uint64) []api.Val {
@@ -29,12 +30,12 @@ func tagged(word string, b []byte) []byte {
 }
 
 func TestRight(t *testing.T) {
-	right := [][]api.Val{set(1), set(1, 1, 1, 1), set(1, 2, 3, 4, 5, 6, 7, 8), set(MaxPower), {{Name: "a", Power: 1}, {Name: "a0", Power: 1}}}
-	wrong := [][]api.Val{nil, {}, set(1, 1, 1, 1, 1, 1, 1, 1, 1), set(0), set(1, 0), set(MaxPower + 1), set(1 << 63),
+	right := [][]api.Val{set(1), set(1, 1, 1, 1), set(1, 2, 3, 4, 5, 6, 7, 8), set(vals.MaxPower), {{Name: "a", Power: 1}, {Name: "a0", Power: 1}}}
+	wrong := [][]api.Val{nil, {}, set(1, 1, 1, 1, 1, 1, 1, 1, 1), set(0), set(1, 0), set(vals.MaxPower + 1), set(1 << 63),
 		{{Name: "b", Power: 1}, {Name: "a", Power: 1}}, {{Name: "a", Power: 1}, {Name: "a", Power: 1}}, {{Name: "", Power: 1}}, {{Name: "A", Power: 1}},
 		{{Name: "a", Power: 1}, {Name: strings.Repeat("b", 33), Power: 1}}, {{Name: "a", Power: 1}, {Name: "c", Power: 1}, {Name: "b", Power: 1}}}
 	for i, l := range append(right, wrong...) {
-		if Right(l) != (i < len(right)) {
+		if vals.Right(l) != (i < len(right)) {
 			t.Error(i, l)
 		}
 	}
@@ -46,10 +47,10 @@ func TestBytesAndHash(t *testing.T) {
 		for _, v := range l {
 			want = binary.BigEndian.AppendUint64(field(want, v.Name), v.Power)
 		}
-		if got := Bytes(l); !bytes.Equal(got, want) {
+		if got := vals.Bytes(l); !bytes.Equal(got, want) {
 			t.Error(l, got)
 		}
-		if got := Hash(l); !bytes.Equal(got, tagged("vals", want)) {
+		if got := vals.Hash(l); !bytes.Equal(got, tagged("vals", want)) {
 			t.Error(l, got)
 		}
 	}
@@ -61,15 +62,15 @@ func TestHeaderAndHashOf(t *testing.T) {
 	want = binary.BigEndian.AppendUint64(want, 5)
 	want = binary.BigEndian.AppendUint64(want, 9)
 	want = field(field(field(want, "\x01"), "\x02\x03"), "\x04\x05\x06")
-	if got := Header(h); !bytes.Equal(got, want) {
+	if got := vals.Header(h); !bytes.Equal(got, want) {
 		t.Error(got)
 	}
-	if got := HashOf(h); !bytes.Equal(got, tagged("header", want)) {
+	if got := vals.HashOf(h); !bytes.Equal(got, tagged("header", want)) {
 		t.Error(got)
 	}
 	room := bytes.Repeat([]byte{7}, 40)
 	h.Root = room[:2]
-	Header(h)
+	vals.Header(h)
 	if !bytes.Equal(room, bytes.Repeat([]byte{7}, 40)) {
 		t.Error("written into a part's room")
 	}
@@ -82,15 +83,15 @@ func TestPowerAndVoted(t *testing.T) {
 		want  uint64
 	}{{nil, 0}, {[]string{"a"}, 1}, {[]string{"d", "b"}, 1010}, {[]string{"a", "a", "a"}, 1}, {[]string{"x", "c", ""}, 100}, {[]string{"a", "b", "c", "d", "a"}, 1111}}
 	for _, c := range cases {
-		if got := Voted(l, c.votes); got != c.want {
+		if got := vals.Voted(l, c.votes); got != c.want {
 			t.Error(c, got)
 		}
 	}
-	if Power(l) != 1111 || Power(nil) != 0 || Voted(nil, []string{"a"}) != 0 {
+	if vals.Power(l) != 1111 || vals.Power(nil) != 0 || vals.Voted(nil, []string{"a"}) != 0 {
 		t.Error("Power")
 	}
 	wide := set(1<<63, 1<<63, 5)
-	if Power(wide) != 5 || Voted(wide, []string{"a", "b", "c"}) != 5 {
+	if vals.Power(wide) != 5 || vals.Voted(wide, []string{"a", "b", "c"}) != 5 {
 		t.Error("no wrap round")
 	}
 }
@@ -112,16 +113,16 @@ func TestQuorumAndThird(t *testing.T) {
 		{set(1, 1, 1), []string{"a"}, false, false},     // and a third isn't more
 		{set(2, 1, 1), []string{"a"}, false, true},
 		{set(1), []string{"a"}, true, true},
-		{set(MaxPower, MaxPower, MaxPower, MaxPower, MaxPower, MaxPower, MaxPower, MaxPower), []string{"a", "b", "c", "d", "e", "f"}, true, true},
-		{set(MaxPower, MaxPower, MaxPower, MaxPower, MaxPower, MaxPower, MaxPower, MaxPower), []string{"a", "b", "c", "d", "e"}, false, true},
+		{set(vals.MaxPower, vals.MaxPower, vals.MaxPower, vals.MaxPower, vals.MaxPower, vals.MaxPower, vals.MaxPower, vals.MaxPower), []string{"a", "b", "c", "d", "e", "f"}, true, true},
+		{set(vals.MaxPower, vals.MaxPower, vals.MaxPower, vals.MaxPower, vals.MaxPower, vals.MaxPower, vals.MaxPower, vals.MaxPower), []string{"a", "b", "c", "d", "e"}, false, true},
 		{nil, []string{"a"}, false, false},
 		{set(0, 5), []string{"a", "b"}, false, false},
 		{[]api.Val{{Name: "b", Power: 1}, {Name: "a", Power: 1}}, []string{"a", "b"}, false, false},
 		{set(1, 1, 1, 1, 1, 1, 1, 1, 1), []string{"a", "b", "c", "d", "e", "f", "g", "h", "i"}, false, false},
 	}
 	for i, c := range cases {
-		if Quorum(c.l, c.votes) != c.quorum || Third(c.l, c.votes) != c.third {
-			t.Error(i, Quorum(c.l, c.votes), Third(c.l, c.votes))
+		if vals.Quorum(c.l, c.votes) != c.quorum || vals.Third(c.l, c.votes) != c.third {
+			t.Error(i, vals.Quorum(c.l, c.votes), vals.Third(c.l, c.votes))
 		}
 	}
 }
@@ -140,7 +141,7 @@ func TestQuorumsMeet(t *testing.T) {
 		}
 		for a := range 1 << len(l) {
 			for b := range 1 << len(l) {
-				if Quorum(l, part(a)) && Quorum(l, part(b)) && !Third(l, part(a&b)) {
+				if vals.Quorum(l, part(a)) && vals.Quorum(l, part(b)) && !vals.Third(l, part(a&b)) {
 					t.Error(l, part(a), part(b))
 				}
 			}
@@ -155,7 +156,7 @@ func TestLongListsEnd(t *testing.T) {
 		l = append(l, api.Val{Name: strconv.Itoa(i), Power: 1})
 		votes = append(votes, strconv.Itoa(2*i))
 	}
-	if Voted(l, votes) != 25000 || Right(l) || len(Hash(l)) != 32 {
+	if vals.Voted(l, votes) != 25000 || vals.Right(l) || len(vals.Hash(l)) != 32 {
 		t.Error("a long list")
 	}
 }

@@ -69,10 +69,12 @@ func objects(g *gen) []any {
 	return []any{g.reader(), g.disk(), g.node(), g.store(), g.chain(), g.world()}
 }
 
+// gen makes arguments; a foreign one makes objects, too, that no maker has made, and nil stores: of these the calls end, and no more.
 type gen struct {
-	r      *rand.Rand
-	worlds []*world.World
-	chains []*chain.Chain
+	r       *rand.Rand
+	worlds  []*world.World
+	chains  []*chain.Chain
+	foreign bool
 }
 
 func (g *gen) coin(n int) bool { return g.r.Intn(n) == 0 }
@@ -97,7 +99,7 @@ func (g *gen) number() uint64 {
 }
 
 func (g *gen) store() *store.Store {
-	if g.coin(30) {
+	if g.foreign && g.coin(2) {
 		return []*store.Store{nil, {}}[g.r.Intn(2)]
 	}
 	s := rig.State(g.chains[g.r.Intn(len(g.chains))])
@@ -117,7 +119,10 @@ func (g *gen) store() *store.Store {
 
 func (g *gen) disk() *disk.Disk {
 	if g.coin(10) {
-		return []*disk.Disk{nil, {}}[g.r.Intn(2)]
+		return nil
+	}
+	if g.foreign && g.coin(2) {
+		return new(disk.Disk)
 	}
 	d := disk.New()
 	for range g.r.Intn(4) {
@@ -128,8 +133,11 @@ func (g *gen) disk() *disk.Disk {
 }
 
 func (g *gen) node() *node.Node {
-	if g.coin(4) {
-		return []*node.Node{nil, {}}[g.r.Intn(2)]
+	if g.coin(10) {
+		return nil
+	}
+	if g.foreign && g.coin(2) {
+		return new(node.Node)
 	}
 	n, _, _ := node.Open(g.disk())
 	return n
@@ -137,7 +145,10 @@ func (g *gen) node() *node.Node {
 
 func (g *gen) reader() *wire.Reader {
 	if g.coin(10) {
-		return []*wire.Reader{nil, {}}[g.r.Intn(2)]
+		return nil
+	}
+	if g.foreign && g.coin(2) {
+		return new(wire.Reader)
 	}
 	b := make([]byte, g.r.Intn(30))
 	for i := range b {
@@ -148,14 +159,20 @@ func (g *gen) reader() *wire.Reader {
 
 func (g *gen) chain() *chain.Chain {
 	if g.coin(10) {
-		return []*chain.Chain{nil, {}}[g.r.Intn(2)]
+		return nil
+	}
+	if g.foreign && g.coin(2) {
+		return new(chain.Chain)
 	}
 	return g.chains[g.r.Intn(len(g.chains))]
 }
 
 func (g *gen) world() *world.World {
 	if g.coin(10) {
-		return []*world.World{nil, {}}[g.r.Intn(2)]
+		return nil
+	}
+	if g.foreign && g.coin(2) {
+		return new(world.World)
 	}
 	return g.worlds[g.r.Intn(len(g.worlds))]
 }
@@ -297,6 +314,9 @@ func (g *gen) call(t *testing.T, what string, f reflect.Value, s *store.Store) a
 		out = f.Call(args)
 	}
 	for i, a := range args {
+		if g.foreign {
+			break
+		}
 		if !reflect.DeepEqual(whole(a), before[i]) {
 			t.Fatalf("%s changed its argument %d", what, i)
 		}
@@ -307,7 +327,7 @@ func (g *gen) call(t *testing.T, what string, f reflect.Value, s *store.Store) a
 	last := out[len(out)-1]
 	e, isErrno := last.Interface().(api.Errno)
 	failed := isErrno && e != api.OK || last.Kind() == reflect.Bool && !last.Bool()
-	if failed {
+	if failed && !g.foreign {
 		for i, o := range out[:len(out)-1] {
 			if !nothing(o) {
 				t.Fatalf("%s answers %v (result %d) beside %v", what, o, i, last)
@@ -370,10 +390,23 @@ func TestAnyArgumentsOnStores(t *testing.T) {
 func TestAnyArgumentsOfMethods(t *testing.T) {
 	g := newGen(t, 23)
 	for range 400 {
+		g.foreign = g.coin(3)
 		for _, o := range objects(g) {
 			v := reflect.ValueOf(o)
 			m := g.r.Intn(v.NumMethod())
 			g.call(t, v.Type().String()+"."+v.Type().Method(m).Name, v.Method(m), nil)
+		}
+	}
+}
+
+func TestForeignObjects(t *testing.T) {
+	g := newGen(t, 24)
+	g.foreign = true
+	for _, l := range [][]any{pure, stored, half} {
+		for i, f := range l {
+			for range 30 {
+				g.call(t, nameOf(i, "a"), reflect.ValueOf(f), nil)
+			}
 		}
 	}
 }

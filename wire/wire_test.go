@@ -1,4 +1,4 @@
-package wire
+package wire_test
 
 import (
 	"bytes"
@@ -7,25 +7,26 @@ import (
 	"testing"
 
 	"isthmus/api"
+	"isthmus/wire"
 )
 
 func TestForms(t *testing.T) {
 	long := bytes.Repeat([]byte{7}, api.MaxField+5)
 	cut := append([]byte{0, 0, 0xff, 0xff}, long[:api.MaxField]...)
 	cases := []struct{ got, want []byte }{
-		{N(nil, 258), []byte{0, 0, 0, 0, 0, 0, 1, 2}},
-		{N([]byte{9}, 1<<64-1), []byte{9, 255, 255, 255, 255, 255, 255, 255, 255}},
-		{N(nil, 0x0102030405060708), []byte{1, 2, 3, 4, 5, 6, 7, 8}},
-		{T(nil, "ab"), []byte{0, 0, 0, 2, 'a', 'b'}},
-		{T([]byte{1}, ""), []byte{1, 0, 0, 0, 0}},
-		{B([]byte{5}, []byte{6, 7}), []byte{5, 0, 0, 0, 2, 6, 7}},
-		{B(nil, nil), []byte{0, 0, 0, 0}},
-		{B(nil, make([]byte, 258)), append([]byte{0, 0, 1, 2}, make([]byte, 258)...)},
-		{B(nil, long), cut},
-		{B(nil, long[:api.MaxField]), cut},
-		{T(nil, string(long)), cut},
-		{F(nil, true), []byte{1}},
-		{F([]byte{3}, false), []byte{3, 0}},
+		{wire.N(nil, 258), []byte{0, 0, 0, 0, 0, 0, 1, 2}},
+		{wire.N([]byte{9}, 1<<64-1), []byte{9, 255, 255, 255, 255, 255, 255, 255, 255}},
+		{wire.N(nil, 0x0102030405060708), []byte{1, 2, 3, 4, 5, 6, 7, 8}},
+		{wire.T(nil, "ab"), []byte{0, 0, 0, 2, 'a', 'b'}},
+		{wire.T([]byte{1}, ""), []byte{1, 0, 0, 0, 0}},
+		{wire.B([]byte{5}, []byte{6, 7}), []byte{5, 0, 0, 0, 2, 6, 7}},
+		{wire.B(nil, nil), []byte{0, 0, 0, 0}},
+		{wire.B(nil, make([]byte, 258)), append([]byte{0, 0, 1, 2}, make([]byte, 258)...)},
+		{wire.B(nil, long), cut},
+		{wire.B(nil, long[:api.MaxField]), cut},
+		{wire.T(nil, string(long)), cut},
+		{wire.F(nil, true), []byte{1}},
+		{wire.F([]byte{3}, false), []byte{3, 0}},
 	}
 	for i, c := range cases {
 		if !bytes.Equal(c.got, c.want) {
@@ -38,10 +39,10 @@ func TestForms(t *testing.T) {
 func TestPutsLeaveTheirArguments(t *testing.T) {
 	room := bytes.Repeat([]byte{42}, 64)
 	puts := []func(b []byte) []byte{
-		func(b []byte) []byte { return N(b, 1) },
-		func(b []byte) []byte { return B(b, []byte{1, 2}) },
-		func(b []byte) []byte { return T(b, "ab") },
-		func(b []byte) []byte { return F(b, true) },
+		func(b []byte) []byte { return wire.N(b, 1) },
+		func(b []byte) []byte { return wire.B(b, []byte{1, 2}) },
+		func(b []byte) []byte { return wire.T(b, "ab") },
+		func(b []byte) []byte { return wire.F(b, true) },
 	}
 	for i, put := range puts {
 		out := put(room[:3])
@@ -53,9 +54,9 @@ func TestPutsLeaveTheirArguments(t *testing.T) {
 }
 
 func TestReaderTakes(t *testing.T) {
-	b := F(B(T(N(nil, 77), "hey"), []byte{1, 2, 3}), true)
-	b = F(N(N(b, 5), 0), false)
-	r := Open(b)
+	b := wire.F(wire.B(wire.T(wire.N(nil, 77), "hey"), []byte{1, 2, 3}), true)
+	b = wire.F(wire.N(wire.N(b, 5), 0), false)
+	r := wire.Open(b)
 	if r.Left() != len(b) {
 		t.Error(r.Left())
 	}
@@ -86,13 +87,13 @@ func TestReaderTakes(t *testing.T) {
 }
 
 func TestReaderFaults(t *testing.T) {
-	takes := map[string]func(r *Reader) bool{
-		"N": func(r *Reader) bool { return r.N() == 0 },
-		"B": func(r *Reader) bool { return len(r.B()) == 0 },
-		"T": func(r *Reader) bool { return r.T() == "" },
-		"F": func(r *Reader) bool { return !r.F() },
-		"4": func(r *Reader) bool { return r.Count(4) == 0 },
-		"-": func(r *Reader) bool { return r.Count(-1) == 0 },
+	takes := map[string]func(r *wire.Reader) bool{
+		"N": func(r *wire.Reader) bool { return r.N() == 0 },
+		"B": func(r *wire.Reader) bool { return len(r.B()) == 0 },
+		"T": func(r *wire.Reader) bool { return r.T() == "" },
+		"F": func(r *wire.Reader) bool { return !r.F() },
+		"4": func(r *wire.Reader) bool { return r.Count(4) == 0 },
+		"-": func(r *wire.Reader) bool { return r.Count(-1) == 0 },
 	}
 	cases := []struct {
 		call string
@@ -112,15 +113,15 @@ func TestReaderFaults(t *testing.T) {
 		{"F", nil, api.ErrShort},
 		{"F", []byte{2}, api.ErrForm},
 		{"F", []byte{255}, api.ErrForm},
-		{"4", N(nil, 5), api.ErrLong},
-		{"4", N(nil, 1<<63), api.ErrLong},
-		{"4", N(nil, 1<<64-1), api.ErrLong},
+		{"4", wire.N(nil, 5), api.ErrLong},
+		{"4", wire.N(nil, 1<<63), api.ErrLong},
+		{"4", wire.N(nil, 1<<64-1), api.ErrLong},
 		{"4", []byte{9, 9, 9}, api.ErrShort},
-		{"-", N(nil, 0), api.ErrLong},
+		{"-", wire.N(nil, 0), api.ErrLong},
 		{"-", []byte{0}, api.ErrShort},
 	}
 	for i, c := range cases {
-		r := Open(c.b)
+		r := wire.Open(c.b)
 		for _, take := range takes {
 			if !takes[c.call](r) || r.Err() != c.want || r.End() != c.want || r.Left() != len(c.b) {
 				t.Error(i, r.Err(), r.End(), r.Left())
@@ -134,7 +135,7 @@ func TestReaderFaults(t *testing.T) {
 
 // Behind a fault nothing is taken, also where the bytes would do.
 func TestNothingBehindAFault(t *testing.T) {
-	r := Open(append([]byte{2, 1}, N(nil, 3)...))
+	r := wire.Open(append([]byte{2, 1}, wire.N(nil, 3)...))
 	r.F()
 	if r.F() || r.N() != 0 || r.Count(100) != 0 || r.T() != "" || len(r.B()) != 0 || r.Left() != 10 || r.Err() != api.ErrForm {
 		t.Error(r.Left(), r.Err())
@@ -142,9 +143,9 @@ func TestNothingBehindAFault(t *testing.T) {
 }
 
 func TestReaderKeepsItsOwn(t *testing.T) {
-	b := B(nil, []byte{1, 2, 3})
-	b = B(b, []byte{4, 5})
-	r := Open(b)
+	b := wire.B(nil, []byte{1, 2, 3})
+	b = wire.B(b, []byte{4, 5})
+	r := wire.Open(b)
 	for i := range b {
 		b[i] = 9
 	}
@@ -157,11 +158,11 @@ func TestReaderKeepsItsOwn(t *testing.T) {
 }
 
 func TestNilReader(t *testing.T) {
-	var r *Reader
+	var r *wire.Reader
 	if r.N() != 0 || len(r.B()) != 0 || r.T() != "" || r.F() || r.Count(5) != 0 || r.Left() != 0 || r.Err() != api.ErrNil || r.End() != api.ErrNil {
 		t.Error("nil reader")
 	}
-	if Open(nil) == nil || Open(nil).End() != api.OK {
+	if wire.Open(nil) == nil || wire.Open(nil).End() != api.OK {
 		t.Error("Open of nothing")
 	}
 }
@@ -174,21 +175,21 @@ func TestBackAndForth(t *testing.T) {
 		for i := range b {
 			b[i] = byte(r.Intn(3))
 		}
-		rd := Open(b)
+		rd := wire.Open(b)
 		var again []byte
 		for rd.Err() == api.OK {
 			before := again
 			switch r.Intn(5) {
 			case 0:
-				again = N(again, rd.N())
+				again = wire.N(again, rd.N())
 			case 1:
-				again = B(again, rd.B())
+				again = wire.B(again, rd.B())
 			case 2:
-				again = T(again, rd.T())
+				again = wire.T(again, rd.T())
 			case 3:
-				again = F(again, rd.F())
+				again = wire.F(again, rd.F())
 			case 4:
-				again = N(again, uint64(rd.Count(1<<40)))
+				again = wire.N(again, uint64(rd.Count(1<<40)))
 			}
 			if rd.Err() != api.OK {
 				again = before
@@ -199,7 +200,7 @@ func TestBackAndForth(t *testing.T) {
 		}
 	}
 	s := strings.Repeat("x", api.MaxField)
-	if rd := Open(T(nil, s)); rd.T() != s || rd.End() != api.OK {
+	if rd := wire.Open(wire.T(nil, s)); rd.T() != s || rd.End() != api.OK {
 		t.Error("the longest text")
 	}
 }
