@@ -179,6 +179,9 @@ func TestRight(t *testing.T) {
 		{"both, with hops", func(g api.Genesis) api.Genesis {
 			return rig.With(rig.With(g, "bal/escrow.x/transfer/chan-0/gold", one), "sup/transfer/chan-0/gold", one)
 		}, api.OK},
+		{"a supply of another name", func(g api.Genesis) api.Genesis {
+			return rig.With(rig.With(g, "bal/zed/gold", one), "sup/silver", one)
+		}, api.ErrGenesis},
 		{"both, of 31 bytes", func(g api.Genesis) api.Genesis {
 			return rig.With(rig.With(g, "bal/zed/gold", one[1:]), "sup/gold", one[1:])
 		}, api.ErrGenesis},
@@ -438,6 +441,20 @@ func TestResume(t *testing.T) {
 	}
 }
 
+// The longest set comes back.
+func TestResumeOfEightValidators(t *testing.T) {
+	r := rig.New()
+	c, d := start(t, begin(r, "one"))
+	next := r.Set("a", "b", "c", "d", "e", "f", "g", "h")
+	if _, e := c.Block(105, nil, next); e != api.OK {
+		t.Fatal(e)
+	}
+	again, e := chain.Resume(d)
+	if e != api.OK || !reflect.DeepEqual(again.Set(), next) {
+		t.Error(e)
+	}
+}
+
 func TestResumeOfOtherRecords(t *testing.T) {
 	r := rig.New()
 	c, _ := start(t, begin(r, "one"))
@@ -560,7 +577,7 @@ func TestAnswersAreNewMemory(t *testing.T) {
 	c.Block(105, nil, next)
 	next[0].Name = "zzz"
 	g.Pairs[0].Value[0]++
-	before := c.Head()
+	before := vals.HashOf(c.Head())
 	h := c.Head()
 	h.Root[0]++
 	h.Vals[0]++
@@ -571,8 +588,17 @@ func TestAnswersAreNewMemory(t *testing.T) {
 	p, _ := c.Prove("acc/ann")
 	p.Leaves[0].Value[0]++
 	p.Leaves[0].Path[0][0]++
-	if !reflect.DeepEqual(c.Head(), before) || c.Set()[0].Name != "a" {
+	if !bytes.Equal(vals.HashOf(c.Head()), before) || c.Set()[0].Name != "a" {
 		t.Error("shared")
+	}
+	h = c.Head()
+	_ = append(append(append(h.Root, 1, 2, 3), h.Vals...), h.Next...)
+	g = begin(r, "one")
+	g.Next = slices.Clone(g.Next)
+	other, _ := start(t, g)
+	g.Next[0].Name = "zzz"
+	if other.Set()[0].Name != "a" {
+		t.Error("the beginning's set is kept")
 	}
 	again, _ := chain.Resume(d)
 	if !reflect.DeepEqual(again.Pairs(""), c.Pairs("")) {

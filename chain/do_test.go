@@ -324,6 +324,18 @@ func TestEndsErrors(t *testing.T) {
 	if bank.Bal(a, "ann", "fuel") != of(50) {
 		t.Error("ann")
 	}
+	// an Ack that is refused ends nothing
+	a, b = ends()
+	p, _ = transfer.Send(a, "chan-0", "ann", "atom", of(4), "bob", 0, 0)
+	ack := wire.T(wire.F(nil, false), "ros")
+	packet.Write(b, p, wire.T(wire.F(nil, true), "ros"))
+	follow(a, "client-0", b, 6)
+	m = api.Msg{Kind: api.Ack, Packet: p, Ack: ack, Height: 6, Proof: prove(b, packet.AckKey("chan-0", 1))}
+	want(t, chain.Do(a.Branch(), "rob", 7, 8, m), api.ErrProof)
+	m.Ack = []byte{9}
+	want(t, chain.Do(a.Branch(), "rob", 7, 8, m), api.ErrProof) // ahead of ErrData
+	m.Packet.Seq = 2
+	want(t, chain.Do(a.Branch(), "rob", 7, 8, m), api.ErrPacket)
 	// other ports have nothing that goes back
 	for _, id := range []string{"chan-1", "chan-2"} {
 		a, b := ends()

@@ -267,6 +267,7 @@ func TestErrorsOfNews(t *testing.T) {
 		{"a jump", jump, 105, func(u *client.News) {}, api.OK},
 		{"a jump with no set", jump, 105, func(u *client.News) { u.Trusted = nil }, api.ErrTrust},
 		{"a jump with another set", jump, 105, func(u *client.News) { u.Trusted = other; u.Votes = nil }, api.ErrTrust},
+		{"a jump with another set that voted", jump, 105, func(u *client.News) { u.Trusted = other }, api.ErrTrust},
 		{"a jump with too few", jump, 105, func(u *client.News) { u.Votes = []string{"a", "w", "x", "y"} }, api.ErrTrust},
 		{"a jump with too few, and no quorum", jump, 105, func(u *client.News) { u.Votes = []string{"a", "w"} }, api.ErrTrust},
 		{"a jump without a quorum", jump, 105, func(u *client.News) { u.Votes = []string{"a", "b", "w", "x"} }, api.ErrQuorum},
@@ -379,6 +380,11 @@ func TestVerifyAndAbsent(t *testing.T) {
 	s.Del("ibc/cons/client-0/" + client.Hex(6))
 	verify("client-0", 5, 110, "k", "v", there, api.ErrExpired)
 	absent("client-0", 5, 110, "l", gone, api.ErrExpired)
+	verify("client-0", 5, 3, "k", "v", there, api.ErrExpired) // whatever the time
+	// a period of nothing is over at once
+	s.Set("ibc/client/client-0", wire.F(wire.N(wire.N(wire.T(nil, "two"), 5), 0), false))
+	verify("client-0", 5, 100, "k", "v", there, api.ErrExpired)
+	verify("client-0", 5, 99, "k", "v", there, api.OK)
 }
 
 func TestAnswersAreNewMemory(t *testing.T) {

@@ -51,6 +51,9 @@ func no(e api.Errno) (string, api.Errno) { return "", e }
 func TestKeyBytesGet(t *testing.T) {
 	c := conn.Conn{conn.Tried, "client-0", "client-3", "conn-5"}
 	form := wire.T(wire.T(wire.T(wire.N(nil, 2), "client-0"), "client-3"), "conn-5")
+	if conn.Init != 1 || conn.Tried != 2 || conn.Open != 3 || conn.Closed != 4 {
+		t.Error("the states")
+	}
 	if conn.Key("conn-7") != "ibc/conn/conn-7" || !bytes.Equal(conn.Bytes(c), form) {
 		t.Error(conn.Bytes(c))
 	}

@@ -124,6 +124,14 @@ func TestPrintAndParse(t *testing.T) {
 			t.Error("Parse", s, b, e)
 		}
 	}
+	for c := range 256 {
+		digit := c >= '0' && c <= '9'
+		for _, s := range []string{string([]byte{byte(c)}), string([]byte{'7', byte(c)}), string([]byte{'7', byte(c), '7'})} {
+			if _, e := limb.Parse(s); (e == api.OK) != digit {
+				t.Errorf("Parse %q: %v", s, e)
+			}
+		}
+	}
 	over := new(big.Int).Lsh(big.NewInt(1), 256).String()
 	wrong := map[string]api.Errno{
 		"": api.ErrNumber, "007": api.ErrNumber, "00": api.ErrNumber, "-1": api.ErrNumber, "+1": api.ErrNumber,

@@ -278,6 +278,55 @@ func TestLeavesOutsideTheLimits(t *testing.T) {
 	}
 }
 
+// Leaves whose hashes give the root, but whose numbers, or hashes beside them, are none.
+func TestLeavesOfOtherNumbers(t *testing.T) {
+	p := api.Pair{Key: "k", Value: []byte{1}}
+	beside := h("beside")
+	both := h("node", leafOf(p), beside)
+	other := h("node", beside, leafOf(p))
+	cases := []struct {
+		root []byte
+		n    int
+		at   int
+		path [][]byte
+		want bool
+	}{
+		{h("root", n(1), leafOf(p)), 1, 0, nil, true},
+		{h("root", n(1), leafOf(p)), 1, 1, nil, false},
+		{h("root", n(1), leafOf(p)), 1, -1, nil, false},
+		{h("root", n(0), leafOf(p)), 0, 0, nil, false},
+		{h("root", n(0), leafOf(p)), 0, -1, nil, false},
+		{h("root", n(-1), leafOf(p)), -1, 0, nil, false},
+		{h("root", n(-1), leafOf(p)), -1, -2, nil, false},
+		{h("root", n(2), both), 2, 0, [][]byte{beside}, true},
+		{h("root", n(2), other), 2, 1, [][]byte{beside}, true},
+		{h("root", n(2), leafOf(p)), 2, 2, nil, false},
+		{h("root", n(2), both), 2, 2, [][]byte{beside}, false},
+		{h("root", n(2), other), 2, -1, [][]byte{beside}, false},
+		{h("root", n(3), other), 3, 2, [][]byte{beside}, true},
+		{h("root", n(3), other), 3, 3, [][]byte{beside}, false},
+		{h("root", n(65536), other), 65536, 65535, [][]byte{beside}, false},
+		{h("root", n(65537), other), 65537, 65536, [][]byte{beside}, false},
+		{h("root", n(2), h("node", leafOf(p), beside[:31])), 2, 0, [][]byte{beside[:31]}, false},
+		{h("root", n(2), h("node", leafOf(p), nil)), 2, 0, [][]byte{nil}, false},
+		{h("root", n(2), h("node", append(bytes.Clone(beside), 0), leafOf(p))), 2, 1, [][]byte{append(bytes.Clone(beside), 0)}, false},
+	}
+	for i, c := range cases {
+		proof := api.Proof{N: c.n, Leaves: []api.Leaf{{At: c.at, Key: p.Key, Value: p.Value, Path: c.path}}}
+		if merkle.Verify(c.root, p.Key, p.Value, proof) != c.want {
+			t.Error(i)
+		}
+		if c.at == 0 && merkle.Absent(c.root, "a", proof) != c.want || c.at == c.n-1 && merkle.Absent(c.root, "z", proof) != c.want {
+			t.Error(i, "Absent")
+		}
+	}
+	big := api.Pair{Key: "k", Value: make([]byte, api.MaxField)}
+	proof := api.Proof{N: 1, Leaves: []api.Leaf{{Key: "k", Value: big.Value}}}
+	if !merkle.Verify(h("root", n(1), leafOf(big)), "k", big.Value, proof) {
+		t.Error("the longest value")
+	}
+}
+
 func TestAbsentRefuses(t *testing.T) {
 	l := some(6)
 	r, _ := merkle.Root(l)

@@ -180,6 +180,20 @@ func TestOpensSteps(t *testing.T) {
 	}
 }
 
+// Where nothing is to be cut, Open syncs alone; and of a file that there isn't it does nothing.
+func TestOpenOfACleanDisk(t *testing.T) {
+	d := load(t, file("log", 0, 0, 0, 0, 0, 0, 0, 0), file("marks", 1))
+	d.Arm(3)
+	if _, l, e := node.Open(d); e != api.OK || len(l) != 1 || d.Down() || d.Sync("log") != api.ErrDown {
+		t.Error(e)
+	}
+	d = load(t, file("marks"))
+	d.Arm(2)
+	if _, _, e := node.Open(d); e != api.OK || d.Down() || d.Sync("marks") != api.ErrDown {
+		t.Error(e)
+	}
+}
+
 func TestPutOfAFullDisk(t *testing.T) {
 	var files []api.File
 	for i := range api.MaxFiles {

@@ -374,6 +374,7 @@ func TestTimeoutUnordered(t *testing.T) {
 	other.Seq = 7
 	refused(t, a, api.ErrPacket, func() api.Errno { return packet.Timeout(a, other, 0, 99, gone, 8) })
 	refused(t, a, api.ErrCons, func() api.Errno { return packet.Timeout(a, p, 0, 99, gone, 8) })
+	refused(t, a, api.ErrCons, func() api.Errno { return packet.Timeout(a, r, 0, 99, gone, 8) }) // ahead of ErrEarly
 	refused(t, a, api.ErrEarly, func() api.Errno { return packet.Timeout(a, p, 0, 4, api.Proof{}, 8) })
 	refused(t, a, api.ErrEarly, func() api.Errno { return packet.Timeout(a, q, 0, 6, api.Proof{}, 8) })
 	refused(t, a, api.ErrEarly, func() api.Errno { return packet.Timeout(a, r, 0, 7, gone, 8) })

@@ -136,6 +136,47 @@ func TestVerifyRefuses(t *testing.T) {
 	}
 }
 
+// Chains and hashes that would hold for a key, were it one.
+func TestVerifyOfKeysThatThereArent(t *testing.T) {
+	for _, key := range []int{7, 8, 9, 15, -1, -8, 1 << 40, -1 << 63} {
+		// all chains are told at their ends' hashes: whatever the digits are, these lead to ends that are known
+		var values [18][16][]byte
+		parts := [][]byte{n(key)}
+		for c := range 18 {
+			values[c][0] = h("own", n(c))
+			for i := range 15 {
+				values[c][i+1] = h("step", n(c), n(i), values[c][i])
+			}
+			parts = append(parts, values[c][15])
+		}
+		hash := h("leaf", parts...)
+		beside := [][]byte{h("x"), h("y"), h("z")}
+		for level, b := range beside {
+			if key>>level&1 == 0 {
+				hash = h("node", hash, b)
+			} else {
+				hash = h("node", b, hash)
+			}
+		}
+		d := h("signed", hash, n(key), []byte("m"))[:8]
+		var places []int
+		s := 0
+		for _, x := range d {
+			places = append(places, int(x/16), int(x%16))
+			s += 30 - int(x/16) - int(x%16)
+		}
+		places = append(places, s/16, s%16)
+		var sig []byte
+		for c, p := range places {
+			sig = append(sig, values[c][p]...)
+		}
+		sig = append(sig, bytes.Join(beside, nil)...)
+		if sign.Verify(hash, key, []byte("m"), sig) != (key == 7) {
+			t.Error(key)
+		}
+	}
+}
+
 func TestLongMessagesCountWithTheirFirstBytes(t *testing.T) {
 	seed := []byte("seed")
 	long := bytes.Repeat([]byte{3}, api.MaxField+2)

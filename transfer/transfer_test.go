@@ -251,6 +251,12 @@ func TestReceiveUnderLimits(t *testing.T) {
 	used(104, 1)
 	want(t, recv(1, 1<<64-1)(), api.OK)
 	used(1<<64-1, 1)
+	transfer.SetLimit(s, "chan-0", denom, transfer.Limit{Quota: of(10), Window: 5, Start: 9})
+	want(t, recv(6, 9)(), api.OK)
+	refused(t, s, api.ErrQuota, recv(6, 9)) // at the start itself the window goes on
+	transfer.SetLimit(s, "chan-0", denom, transfer.Limit{Quota: of(10), Window: 1<<64 - 1, Start: 9, Used: of(10)})
+	refused(t, s, api.ErrQuota, recv(1, 1<<64-1))
+	want(t, recv(1, 5)(), api.OK) // ahead of the start, however long the window
 	// an error behind the limit leaves the limit as it was
 	bank.Mint(s, "rich", denom, api.U{1<<64 - 1 - 100, 1<<64 - 1, 1<<64 - 1, 1<<64 - 1})
 	transfer.SetLimit(s, "chan-0", denom, transfer.Limit{most, 5, 1, of(3)})

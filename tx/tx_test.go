@@ -411,6 +411,58 @@ func TestDecodeFaults(t *testing.T) {
 	}
 }
 
+// Lists of just as many as may be are taken, those of one more aren't.
+func TestDecodeOfTheLongestLists(t *testing.T) {
+	lists := map[string]func(more int) api.Msg{
+		"Vals":       func(more int) api.Msg { return api.Msg{Vals: make([]api.Val, 8+more)} },
+		"OtherVals":  func(more int) api.Msg { return api.Msg{OtherVals: make([]api.Val, 8+more)} },
+		"Trusted":    func(more int) api.Msg { return api.Msg{Trusted: make([]api.Val, 8+more)} },
+		"Votes":      func(more int) api.Msg { return api.Msg{Votes: make([]string, 8+more)} },
+		"OtherVotes": func(more int) api.Msg { return api.Msg{OtherVotes: make([]string, 8+more)} },
+		"Orders":     func(more int) api.Msg { return api.Msg{Orders: make([]api.Order, 8+more)} },
+		"Leaves":     func(more int) api.Msg { return api.Msg{Proof: api.Proof{Leaves: make([]api.Leaf, 2+more)}} },
+		"Path": func(more int) api.Msg {
+			return api.Msg{Proof: api.Proof{Leaves: []api.Leaf{{}, {Path: make([][]byte, 17+more)}}}}
+		},
+	}
+	for what, list := range lists {
+		x := api.Tx{Msgs: []api.Msg{list(0)}}
+		if y, e := tx.Decode(encoded(x)); e != api.OK || !alike(x, y) {
+			t.Error(what, e)
+		}
+		if y, e := tx.Decode(encoded(api.Tx{Msgs: []api.Msg{list(1)}})); e != api.ErrLong || !alike(y, api.Tx{}) {
+			t.Error(what, "one more", e)
+		}
+	}
+	x := api.Tx{Msgs: make([]api.Msg, 8)}
+	if y, e := tx.Decode(encoded(x)); e != api.OK || !alike(x, y) {
+		t.Error("messages", e)
+	}
+	if _, e := tx.Decode(encoded(api.Tx{Msgs: make([]api.Msg, 9)})); e != api.ErrLong {
+		t.Error("messages, one more", e)
+	}
+	long := append(wire.N(txBytes(api.Tx{}, nil)[:56], 1), 0, 1, 0, 0)
+	if _, e := tx.Decode(long); e != api.ErrLong {
+		t.Error("a message that is too long", e)
+	}
+	if tx.Most != 1<<30 || tx.Leaves != 2 || tx.Path != 17 {
+		t.Error("the limits")
+	}
+}
+
+// A field may be as long as fields may be, though the message is too long then.
+func TestFieldsOfTheGreatestLength(t *testing.T) {
+	for i, m := range []api.Msg{{To: strings.Repeat("x", api.MaxField)}, {Ack: make([]byte, api.MaxField)}, {Votes: []string{strings.Repeat("x", api.MaxField)}}} {
+		x := api.Tx{Msgs: []api.Msg{m}}
+		if e := tx.Fits(x); e != api.OK {
+			t.Error(i, e)
+		}
+		if _, e := tx.Encode(x); e != api.ErrLong {
+			t.Error(i, e)
+		}
+	}
+}
+
 func TestSignBytes(t *testing.T) {
 	r := rand.New(rand.NewSource(10))
 	for range 50 {

@@ -149,6 +149,12 @@ func TestQuorumsMeet(t *testing.T) {
 	}
 }
 
+func TestMaxPower(t *testing.T) {
+	if vals.MaxPower != 1<<32 || !vals.Right(set(1<<32)) || vals.Right(set(1<<32+1)) {
+		t.Error("MaxPower")
+	}
+}
+
 func TestLongListsEnd(t *testing.T) {
 	var l []api.Val
 	var votes []string

@@ -133,6 +133,27 @@ func TestReaderFaults(t *testing.T) {
 	}
 }
 
+// What is just long enough is taken, to the last byte; a byte more is a tail.
+func TestExactLengths(t *testing.T) {
+	takes := map[string]func(r *wire.Reader) bool{
+		"\x00\x00\x00\x00\x00\x00\x00\x07": func(r *wire.Reader) bool { return r.N() == 7 && r.Err() == api.OK },
+		"\x00\x00\x00\x00\x00\x00\x00\x06": func(r *wire.Reader) bool { return r.Count(6) == 6 },
+		"\x00\x00\x00\x00":                 func(r *wire.Reader) bool { return len(r.B()) == 0 && r.Err() == api.OK },
+		"\x00\x00\x00\x01a":                func(r *wire.Reader) bool { return r.T() == "a" },
+		"\x01":                             func(r *wire.Reader) bool { return r.F() },
+	}
+	for b, take := range takes {
+		r := wire.Open([]byte(b))
+		if !take(r) || r.End() != api.OK || r.Left() != 0 {
+			t.Errorf("%q: %v", b, r.End())
+		}
+		r = wire.Open([]byte(b + "\x00"))
+		if !take(r) || r.End() != api.ErrTail || r.Err() != api.OK || r.Left() != 1 {
+			t.Errorf("%q and a tail: %v", b, r.End())
+		}
+	}
+}
+
 // Behind a fault nothing is taken, also where the bytes would do.
 func TestNothingBehindAFault(t *testing.T) {
 	r := wire.Open(append([]byte{2, 1}, wire.N(nil, 3)...))
