@@ -79,6 +79,12 @@ func TestOfNothing(t *testing.T) {
 	check(t, ledger.Lines(one, nil))
 	check(t, ledger.Lines(nil, nil))
 	check(t, ledger.Lines(one, two))
+	bank.Mint(a, "escrow.chan-0", "atom", of(5))
+	bank.Mint(b, "bob", "transfer/chan-7/atom", of(5))
+	one, two = begun(t, a, "one"), begun(t, b, "two")
+	check(t, ledger.Lines(one, two), line("chan-0", "atom", 5, 0, 5, 0))
+	check(t, ledger.Lines(nil, two))
+	check(t, ledger.Lines(one, nil))
 	ledger.Lines(new(chain.Chain), new(chain.Chain)) // of what no maker has made the calls end
 }
 

@@ -293,9 +293,13 @@ func TestMemoryIsItsOwn(t *testing.T) {
 		t.Error(l)
 	}
 	h := w.Heads(0)
-	h[0].Root[0]++
+	before := w.Heads(0)
 	h[1].Chain = "x"
-	if reflect.DeepEqual(h[0], w.Heads(0)[0]) || w.Heads(0)[1].Chain != "one" {
+	for _, b := range [][]byte{h[0].Root, h[0].Vals, h[0].Next} {
+		b[0]++
+		_ = append(b, 1, 2, 3)
+	}
+	if !reflect.DeepEqual(before, w.Heads(0)) || reflect.DeepEqual(h[0], before[0]) || bytes.Equal(h[0].Vals, before[0].Vals) || bytes.Equal(h[0].Next, before[0].Next) {
 		t.Error("shared")
 	}
 }
