@@ -279,6 +279,20 @@ func TestWhatMayCome(t *testing.T) {
 	do(t, w, api.WStep{Kind: 1, On: 1, Tx: r.Tx(w.Chain(0), "ann", 0, 0, api.Msg{Kind: api.ClientCreate, Header: real})}, api.ErrTrust)
 }
 
+// A block that is made of the chain itself is one of its blocks, too.
+func TestBlocksPastDo(t *testing.T) {
+	r := rig.New()
+	w := made(t, r)
+	c := w.Chain(1)
+	c.Block(105, nil, c.Set())
+	b := r.Tx(w.Chain(0), "ann", 0, 0, api.Msg{Kind: api.ClientCreate, Header: c.Head()})
+	do(t, w, api.WStep{Kind: 1, Tx: b}, api.OK)
+	c.Block(106, nil, c.Set())
+	if h := w.Heads(1); len(h) != 3 || !reflect.DeepEqual(h[2], c.Head()) {
+		t.Error(h)
+	}
+}
+
 func TestMemoryIsItsOwn(t *testing.T) {
 	r := rig.New()
 	faulty := []string{"d"}
